@@ -1,0 +1,29 @@
+// Package copies makes copies that share no memory.
+package copies
+
+import (
+	"slices"
+
+	"cipherplan/api"
+)
+
+// Each returns the copies of the elements of a list.
+func Each[S ~[]T, T any](l S, one func(T) T) S {
+	if l == nil {
+		return nil
+	}
+	to := make(S, len(l))
+	for i, x := range l {
+		to[i] = one(x)
+	}
+	return to
+}
+
+// Certificate copies a certificate.
+func Certificate(c api.Certificate) api.Certificate {
+	c.Names = slices.Clone(c.Names)
+	return c
+}
+
+// Chain copies certificates.
+func Chain(l []api.Certificate) []api.Certificate { return Each(l, Certificate) }

@@ -27,3 +27,9 @@ func Certificate(c api.Certificate) api.Certificate {
 
 // Chain copies certificates.
 func Chain(l []api.Certificate) []api.Certificate { return Each(l, Certificate) }
+
+// Entry copies an entry of a key store.
+func Entry(e api.Entry) api.Entry {
+	e.Chain = Chain(e.Chain)
+	return e
+}

@@ -33,3 +33,18 @@ func Entry(e api.Entry) api.Entry {
 	e.Chain = Chain(e.Chain)
 	return e
 }
+
+// Identity copies an identity of an endpoint.
+func Identity(i api.Identity) api.Identity {
+	i.Chain = Chain(i.Chain)
+	return i
+}
+
+// Endpoint copies an endpoint.
+func Endpoint(e api.Endpoint) api.Endpoint {
+	e.Suites = slices.Clone(e.Suites)
+	e.Identities = Each(e.Identities, Identity)
+	e.Anchors = slices.Clone(e.Anchors)
+	e.Hashes = slices.Clone(e.Hashes)
+	return e
+}

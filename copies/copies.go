@@ -48,3 +48,9 @@ func Endpoint(e api.Endpoint) api.Endpoint {
 	e.Hashes = slices.Clone(e.Hashes)
 	return e
 }
+
+// Exception copies an exception.
+func Exception(x api.Exception) api.Exception {
+	x.Seals = slices.Clone(x.Seals)
+	return x
+}

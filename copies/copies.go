@@ -54,3 +54,17 @@ func Exception(x api.Exception) api.Exception {
 	x.Seals = slices.Clone(x.Seals)
 	return x
 }
+
+// Item copies an item.
+func Item(i api.Item) api.Item {
+	i.Links = slices.Clone(i.Links)
+	return i
+}
+
+// Estate copies an estate.
+func Estate(e api.Estate) api.Estate {
+	e.Endpoints = Each(e.Endpoints, Endpoint)
+	e.Edges = slices.Clone(e.Edges)
+	e.Items = Each(e.Items, Item)
+	return e
+}

@@ -68,3 +68,9 @@ func Estate(e api.Estate) api.Estate {
 	e.Items = Each(e.Items, Item)
 	return e
 }
+
+// Change copies a change.
+func Change(c api.Change) api.Change {
+	c.Identity = Identity(c.Identity)
+	return c
+}

@@ -74,3 +74,11 @@ func Change(c api.Change) api.Change {
 	c.Identity = Identity(c.Identity)
 	return c
 }
+
+// Plan copies a plan.
+func Plan(p api.Plan) api.Plan {
+	p.Changes = Each(p.Changes, Change)
+	p.Required = slices.Clone(p.Required)
+	p.Days = slices.Clone(p.Days)
+	return p
+}

@@ -82,3 +82,18 @@ func Plan(p api.Plan) api.Plan {
 	p.Days = slices.Clone(p.Days)
 	return p
 }
+
+// Host copies a host.
+func Host(h api.Host) api.Host {
+	h.Endpoint = Endpoint(h.Endpoint)
+	h.Before = Each(h.Before, Endpoint)
+	return h
+}
+
+// Run copies a run.
+func Run(r api.Run) api.Run {
+	r.Plan = Plan(r.Plan)
+	r.Steps = slices.Clone(r.Steps)
+	r.Tries = slices.Clone(r.Tries)
+	return r
+}

@@ -4,8 +4,8 @@ import (
 	"slices"
 
 	"cipherplan/api"
-	"cipherplan/asset"
 	"cipherplan/basic"
+	"cipherplan/facts"
 	"cipherplan/finding"
 	"cipherplan/identity"
 	"cipherplan/rule"
@@ -20,19 +20,6 @@ func checkFindings(l []api.Finding, gap, day, age int) api.Errno {
 		return api.ErrRange
 	}
 	return api.OK
-}
-
-// facts returns the facts of an entity. Only its own findings are handed on, as all of them would be checked for each entity.
-func facts(l []api.Finding, e api.Entity, day, age int) ([]api.Fact, api.Errno) {
-	own := api.Entity{Number: e.Number, Hosts: e.Hosts, Machines: e.Machines}
-	for i := range e.Findings {
-		own.Findings = append(own.Findings, i)
-	}
-	to, err := asset.Facts(pick(l, e.Findings), own, day, age)
-	for i := range to {
-		to[i].Finding = e.Findings[to[i].Finding]
-	}
-	return to, err
 }
 
 func pick(l []api.Finding, indices []int) []api.Finding {
@@ -59,7 +46,7 @@ func Weak(l []api.Finding, gap, day, age int, p api.Policy, purpose int) ([]api.
 	}
 	var weak []api.Fact
 	for _, x := range entities {
-		of, e := facts(l, x, day, age)
+		of, e := facts.Of(l, x, day, age)
 		if e != api.OK {
 			return nil, e
 		}
@@ -86,7 +73,7 @@ func says(l []api.Finding, gap, day, age int, f api.Fact) bool {
 		if f.Text != "" && !slices.Contains(x.Hosts, f.Text) {
 			continue
 		}
-		of, _ := facts(l, x, day, age)
+		of, _ := facts.Of(l, x, day, age)
 		if slices.ContainsFunc(of, func(y api.Fact) bool {
 			return y.Subject == f.Subject && y.Kind == f.Kind && y.Use == f.Use && y.Number == f.Number
 		}) {

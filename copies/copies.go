@@ -97,3 +97,17 @@ func Run(r api.Run) api.Run {
 	r.Tries = slices.Clone(r.Tries)
 	return r
 }
+
+// World copies a world.
+func World(w api.World) api.World {
+	w.Estate = Estate(w.Estate)
+	w.Hosts = Each(w.Hosts, Host)
+	w.Policy.Rules = slices.Clone(w.Policy.Rules)
+	w.Policy.Keeps = slices.Clone(w.Policy.Keeps)
+	w.Exceptions = Each(w.Exceptions, Exception)
+	w.Owners.Keys = slices.Clone(w.Owners.Keys)
+	w.Findings = slices.Clone(w.Findings)
+	w.Run = Run(w.Run)
+	w.Ledger.Decisions = slices.Clone(w.Ledger.Decisions)
+	return w
+}

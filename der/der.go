@@ -44,7 +44,7 @@ func measure(l []api.Value) (int, bool) {
 		return ok
 	})
 	if ok && !finite {
-		depth = tree.Most + 1
+		depth = tree.Deepest + 1
 	}
 	return depth, ok
 }
@@ -248,7 +248,7 @@ func copied(l []api.Value) []api.Value {
 // AsList returns the list of an element.
 func AsList(v api.Value) ([]api.Value, api.Errno) {
 	depth, ok := measure([]api.Value{v})
-	if !ok || v.Tag != tagList || depth > tree.Most {
+	if !ok || v.Tag != tagList || depth > tree.Deepest {
 		return nil, api.ErrForm
 	}
 	return copied(v.Elements), api.OK

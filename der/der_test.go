@@ -211,3 +211,24 @@ func TestValueWithinItself(t *testing.T) {
 	}
 	List(l)
 }
+
+// Long and deep lists are compared and copied whole.
+func TestLargeLists(t *testing.T) {
+	flat := make([]api.Value, 1100000)
+	for i := range flat {
+		flat[i] = leaf(5)
+	}
+	for name, v := range map[string]api.Value{"flat": list(flat...), "deep": deep(100000)} {
+		l, e := AsList(v)
+		if e != api.OK || !Same(List(l), v) {
+			t.Errorf("%s: %d, %v", name, len(l), e)
+		}
+		if _, e := Encode(v); e != api.ErrLimit {
+			t.Errorf("%s: %v", name, e)
+		}
+	}
+	flat[1099999] = leaf(31)
+	if _, e := Encode(list(flat...)); e != api.ErrForm {
+		t.Error(e)
+	}
+}

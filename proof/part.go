@@ -50,6 +50,32 @@ func newPart(e api.Estate, p api.Plan, edge int) (part, api.Errno) {
 	return x, api.OK
 }
 
+// state returns the estate of the two ends behind a case.
+func (x part) state(s api.Set) (api.Estate, api.Errno) {
+	return estate.State(x.estate, x.changes, s)
+}
+
+// remembered returns state, for many questions about few cases: each one is answered from memory when it comes again.
+func (x part) remembered() func(api.Set) (api.Estate, api.Errno) {
+	type answer struct {
+		estate api.Estate
+		err    api.Errno
+	}
+	answers := map[uint32]answer{}
+	return func(s api.Set) (api.Estate, api.Errno) {
+		var key uint32
+		for _, place := range s {
+			key |= 1 << place
+		}
+		a, there := answers[key]
+		if !there {
+			a.estate, a.err = x.state(s)
+			answers[key] = a
+		}
+		return a.estate, a.err
+	}
+}
+
 // indices returns places as indices of the plan.
 func (x part) indices(s api.Set) api.Set {
 	var to api.Set

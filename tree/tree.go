@@ -1,12 +1,15 @@
 // Package tree walks through trees of any depth, side by side.
 package tree
 
-// Most is how many nodes are visited. Slices can contain themselves, and such a tree would have no end.
-const Most = 1 << 20
+// How many nodes are visited, and how deep. Slices can contain themselves, and such a tree would have no end.
+const (
+	Most    = 1 << 24
+	Deepest = 1 << 20
+)
 
 type level[T any] struct{ a, b []T }
 
-// Walk visits the nodes of two lists of trees in pairs, parents before what is within them. It reports whether it came to the end: whether both have the same form, visit was never false, and there were at most Most nodes.
+// Walk visits the nodes of two lists of trees in pairs, parents before what is within them. It reports whether it came to the end: whether both have the same form, visit was never false, and there were at most Most nodes, none below Deepest.
 func Walk[T any](a, b []T, within func(T) []T, visit func(x, y T, depth int) bool) bool {
 	if len(a) != len(b) {
 		return false
@@ -26,6 +29,9 @@ func Walk[T any](a, b []T, within func(T) []T, visit func(x, y T, depth int) boo
 		}
 		c, d := within(x), within(y)
 		if len(c) != len(d) {
+			return false
+		}
+		if len(c) > 0 && len(stack) == Deepest {
 			return false
 		}
 		if len(c) > 0 {

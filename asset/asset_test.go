@@ -1,4 +1,4 @@
-package asset
+package asset_test
 
 import (
 	"fmt"
@@ -7,6 +7,7 @@ import (
 	"testing"
 
 	"cipherplan/api"
+	"cipherplan/asset"
 	"cipherplan/finding"
 )
 
@@ -52,14 +53,14 @@ func TestFacts(t *testing.T) {
 		"off again": {[]api.Finding{f(3, 9, api.FindOff, md5, 0, ""), f(4, 9, api.FindUse, md5, 0, "")}, 9, 9, "[{0 tls 1 {1 0} 0  1}]"},
 	} {
 		l, e := all(x.l...)
-		facts, err := Facts(l, e, x.day, x.age)
+		facts, err := asset.Facts(l, e, x.day, x.age)
 		if fmt.Sprint(facts) != x.want || err != api.OK {
 			t.Errorf("%s: %v, %v", name, facts, err)
 		}
 	}
 	l, e := all(f(3, 9, api.FindUse, md5, 0, ""), f(3, 9, api.FindMost, none, 1, ""))
 	e.Number, e.Findings = 7, []int{1}
-	if facts, err := Facts(l, e, 3, 0); fmt.Sprint(facts) != "[{7 tls 4 {0 0} 1  1}]" || err != api.OK {
+	if facts, err := asset.Facts(l, e, 3, 0); fmt.Sprint(facts) != "[{7 tls 4 {0 0} 1  1}]" || err != api.OK {
 		t.Error(facts, err)
 	}
 }
@@ -81,8 +82,8 @@ func TestErrors(t *testing.T) {
 		"finding":    {l, []int{0, 1}, 0, 0, 1, api.ErrNone, api.ErrNone},
 		"negative":   {l, []int{-1}, 0, 0, 1, api.ErrNone, api.ErrNone},
 	} {
-		facts, err := Facts(x.l, api.Entity{Findings: x.findings}, x.day, x.age)
-		conflicts, err2 := Conflicts(x.l, api.Entity{Findings: x.findings}, x.sure)
+		facts, err := asset.Facts(x.l, api.Entity{Findings: x.findings}, x.day, x.age)
+		conflicts, err2 := asset.Conflicts(x.l, api.Entity{Findings: x.findings}, x.sure)
 		if err != x.facts || err2 != x.conflict || err != api.OK && facts != nil || conflicts != nil {
 			t.Errorf("%s: %v, %v", name, err, err2)
 		}
@@ -91,13 +92,13 @@ func TestErrors(t *testing.T) {
 
 func TestUsesAndNumber(t *testing.T) {
 	facts := []api.Fact{{Subject: "b", Kind: api.FindUse, Use: md5}, {Subject: "a", Kind: api.FindUse, Use: rsa}, {Subject: "a", Kind: api.FindUse, Use: md5}, {Subject: "a", Kind: api.FindMost, Number: 3}, {Subject: "a", Kind: api.FindMost, Number: 4}, {Subject: "a", Kind: api.FindKey, Use: rsa}}
-	if l := Uses(facts, "a"); !slices.Equal(l, []api.Use{rsa, md5}) || Uses(facts, "c") != nil {
+	if l := asset.Uses(facts, "a"); !slices.Equal(l, []api.Use{rsa, md5}) || asset.Uses(facts, "c") != nil {
 		t.Error(l)
 	}
-	if n, ok := Number(facts, "a", api.FindMost); n != 3 || !ok {
+	if n, ok := asset.Number(facts, "a", api.FindMost); n != 3 || !ok {
 		t.Error(n, ok)
 	}
-	if n, ok := Number(facts, "b", api.FindMost); n != 0 || ok {
+	if n, ok := asset.Number(facts, "b", api.FindMost); n != 0 || ok {
 		t.Error(n, ok)
 	}
 }
@@ -110,17 +111,17 @@ func TestConflicts(t *testing.T) {
 		f(4, 50, api.FindLeast, none, 2, ""), f(4, 50, api.FindLeast, none, 3, ""), f(3, 50, api.FindSuite, none, 2, ""), f(3, 50, api.FindSuite, none, 3, ""),
 	)
 	for confidence, want := range map[int]string{1: "[{0 8} {1 8} {4 5} {9 10}]", 51: "[{1 8}]", 61: "[]", 50: "[{0 8} {1 8} {4 5} {9 10}]"} {
-		got, err := Conflicts(l, e, confidence)
+		got, err := asset.Conflicts(l, e, confidence)
 		if fmt.Sprint(got) != want || err != api.OK {
 			t.Errorf("%d: %v, %v of %v", confidence, got, err, l)
 		}
 	}
 	slices.Reverse(e.Findings)
-	if got, _ := Conflicts(l, e, 51); fmt.Sprint(got) != "[{1 8}]" {
+	if got, _ := asset.Conflicts(l, e, 51); fmt.Sprint(got) != "[{1 8}]" {
 		t.Error(got)
 	}
 	m, e := all(f(3, 50, api.FindKey, rsa, 1, ""), f(3, 50, api.FindKey, api.Use{Alg: api.ED25519}, 1, ""))
-	if got, _ := Conflicts(m, e, 1); fmt.Sprint(got) != "[{0 1}]" {
+	if got, _ := asset.Conflicts(m, e, 1); fmt.Sprint(got) != "[{0 1}]" {
 		t.Error(got)
 	}
 }
@@ -128,7 +129,7 @@ func TestConflicts(t *testing.T) {
 func TestChanges(t *testing.T) {
 	a := []api.Fact{{Subject: "a", Finding: 1}, {Subject: "b", Finding: 2}, {Subject: "c"}}
 	b := []api.Fact{{Subject: "d"}, {Subject: "a", Finding: 7}, {Entity: 1, Subject: "c"}}
-	came, went := Changes(a, b)
+	came, went := asset.Changes(a, b)
 	if fmt.Sprint(came) != "[{0 d 0 {0 0} 0  0} {1 c 0 {0 0} 0  0}]" || fmt.Sprint(went) != "[{0 b 0 {0 0} 0  2} {0 c 0 {0 0} 0  0}]" {
 		t.Error(came, went)
 	}
@@ -145,13 +146,13 @@ func TestLaterFinding(t *testing.T) {
 		l, e := all(some...)
 		early := slices.DeleteFunc(slices.Clone(some), func(x api.Finding) bool { return x.Day > 5 })
 		k, d := all(early...)
-		a, _ := Facts(k, d, 5, 4)
-		b, _ := Facts(l, e, 5, 4)
-		if came, went := Changes(a, b); len(came)+len(went) > 0 {
+		a, _ := asset.Facts(k, d, 5, 4)
+		b, _ := asset.Facts(l, e, 5, 4)
+		if came, went := asset.Changes(a, b); len(came)+len(went) > 0 {
 			t.Fatalf("%v: %v, %v", some, came, went)
 		}
-		c, _ := Facts(l, e, 5, 5)
-		if _, went := Changes(b, c); len(went) > 0 {
+		c, _ := asset.Facts(l, e, 5, 5)
+		if _, went := asset.Changes(b, c); len(went) > 0 {
 			t.Fatalf("%v: %v", some, went)
 		}
 	}

@@ -26,8 +26,6 @@ import (
 
 // All layers together, from a plan to its end: T6 to T9.
 
-var rc4 = api.Use{Alg: api.RC4, Bits: 128}
-
 func key(id, anchor int) api.Identity {
 	rsa := api.Use{Alg: api.RSA, Bits: 2048}
 	c, _ := certificate.Sign(api.Certificate{Issuer: "root", Subject: "web", Key: rsa, KeyId: id, Hash: api.Use{Alg: api.SHA256}, From: 0, To: 300, Names: []string{"web"}}, anchor)
@@ -51,8 +49,8 @@ func policy(t *testing.T) api.Policy {
 	return p
 }
 
-// leave takes rc4 away everywhere, and puts web under another anchor.
-func leave() []api.Change {
+// changes takes rc4 away everywhere, and puts web under another anchor.
+func changes() []api.Change {
 	return []api.Change{
 		{Endpoint: 0, Kind: api.DropSuite, Number: 2}, {Endpoint: 1, Kind: api.DropSuite, Number: 2}, {Endpoint: 2, Kind: api.DropSuite, Number: 2},
 		{Endpoint: 2, Kind: api.AddSuite, Number: 10}, {Endpoint: 2, Kind: api.AddIdentity, Identity: key(2, 8)},
@@ -68,9 +66,9 @@ func calendar() api.Calendar {
 	return c
 }
 
-func start(t *testing.T) api.World {
+func planned(t *testing.T) api.World {
 	e := organisation()
-	p, f, err := planner.Make(e, calendar(), leave(), policy(t), nil, api.Owners{}, 5, 250)
+	p, f, err := planner.Make(e, calendar(), changes(), policy(t), nil, api.Owners{}, 5, 250)
 	if err != api.OK || len(f.Cases) == 0 {
 		t.Fatal(err)
 	}
@@ -81,8 +79,6 @@ func start(t *testing.T) api.World {
 	return w
 }
 
-func act(kind, number int) api.Act { return api.Act{Kind: kind, Number: number} }
-
 func observed(host string, day, kind int, u api.Use, number int) api.Act {
 	return api.Act{Kind: api.ActObserve, Finding: api.Finding{Source: 6, Host: host, Machine: 3, Day: day, Confidence: 90, Kind: kind, Subject: "tls", Use: u, Number: number}}
 }
@@ -91,7 +87,7 @@ func observed(host string, day, kind int, u api.Use, number int) api.Act {
 func TestStatesAndSteps(t *testing.T) {
 	r := rand.New(rand.NewSource(36))
 	for range 20 {
-		w := start(t)
+		w := planned(t)
 		for range 40 {
 			before := w
 			a := []api.Act{act(api.ActDay, w.Run.Day+r.Intn(3)), act(api.ActTry, r.Intn(4)), act(api.ActTry, 0), act(api.ActUndo, r.Intn(7)), act(api.ActCrash, len(w.Journal)-r.Intn(20)), act(api.ActResume, 0)}[r.Intn(6)]
@@ -132,7 +128,7 @@ func finish(t *testing.T, w api.World) api.World {
 }
 
 func TestGone(t *testing.T) {
-	w := finish(t, start(t))
+	w := finish(t, planned(t))
 	w, _ = script.Run(w, []api.Act{act(api.ActDay, 80)})
 	if e := audit.Ended(w, 10, 100, api.RC4); e != api.OK {
 		t.Error(e)
@@ -161,7 +157,7 @@ func TestGone(t *testing.T) {
 }
 
 func TestRuns(t *testing.T) {
-	w := start(t)
+	w := planned(t)
 	w, _ = script.Run(w, []api.Act{act(api.ActTry, 0), act(api.ActTry, 0), act(api.ActDay, 6)})
 	safe := len(w.Journal)
 	if safe == 0 {

@@ -1,4 +1,4 @@
-package blocks
+package blocks_test
 
 import (
 	"math/rand"
@@ -7,6 +7,7 @@ import (
 	"testing"
 
 	"cipherplan/api"
+	"cipherplan/blocks"
 )
 
 func st(words ...string) api.Block { return api.Block{Words: words} }
@@ -24,12 +25,12 @@ func TestParse(t *testing.T) {
 		"a \"\\\"\\\\\" \"\"#x\n;":           {st("a", `"\`, "")},
 		"a-_./:*@+!9 x#c\ny \t\n\"\tz\";\n#": {st("a-_./:*@+!9", "x", "y", "\tz")},
 	} {
-		l, n, e := Parse(text)
-		if !Same(l, want) || n != 0 || e != api.OK {
+		l, n, e := blocks.Parse(text)
+		if !blocks.Same(l, want) || n != 0 || e != api.OK {
 			t.Errorf("%q: %v, %d, %v", text, l, n, e)
 		}
 	}
-	l, _, _ := Parse("\n a\nb {\n c;\n# d\nd; }e;")
+	l, _, _ := blocks.Parse("\n a\nb {\n c;\n# d\nd; }e;")
 	if l[0].Line != 2 || l[0].Within[0].Line != 4 || l[0].Within[1].Line != 6 || l[1].Line != 6 {
 		t.Errorf("%v", l)
 	}
@@ -64,7 +65,7 @@ func TestParseErrors(t *testing.T) {
 		"a é;":             1,
 		"a{b}":             1,
 	} {
-		if l, n, e := Parse(text); l != nil || n != want || e != api.ErrForm {
+		if l, n, e := blocks.Parse(text); l != nil || n != want || e != api.ErrForm {
 			t.Errorf("%q: %v, %d, %v", text, l, n, e)
 		}
 	}
@@ -90,7 +91,7 @@ func TestParseLimits(t *testing.T) {
 			api.ErrForm},
 		"very deep": {strings.Repeat("a{", 4000), 1, api.ErrForm},
 	} {
-		if _, n, e := Parse(x.text); n != x.line || e != x.e {
+		if _, n, e := blocks.Parse(x.text); n != x.line || e != x.e {
 			t.Errorf("%s: %d, %v", name, n, e)
 		}
 	}
@@ -99,15 +100,15 @@ func TestParseLimits(t *testing.T) {
 func TestPrint(t *testing.T) {
 	l := []api.Block{open([]string{"a", "b"}, st("c", "d e", "", `"\`), open([]string{"x"}), open([]string{"y"}, st("z"))), st("k")}
 	want := "a b {\n  c \"d e\" \"\" \"\\\"\\\\\";\n  x {\n  }\n  y {\n    z;\n  }\n}\nk;\n"
-	s, e := Print(l)
+	s, e := blocks.Print(l)
 	if s != want || e != api.OK {
 		t.Errorf("%q, %v", s, e)
 	}
-	m, _, e := Parse(s)
-	if !Same(l, m) || e != api.OK {
+	m, _, e := blocks.Parse(s)
+	if !blocks.Same(l, m) || e != api.OK {
 		t.Errorf("%v, %v", m, e)
 	}
-	if s, e := Print([]api.Block{open([]string{"a", "b"}, st("c", "d e"))}); s != "a b {\n  c \"d e\";\n}\n" || e != api.OK {
+	if s, e := blocks.Print([]api.Block{open([]string{"a", "b"}, st("c", "d e"))}); s != "a b {\n  c \"d e\";\n}\n" || e != api.OK {
 		t.Errorf("%q, %v", s, e)
 	}
 }
@@ -142,8 +143,8 @@ func TestPrintErrors(t *testing.T) {
 		"quoted bytes":  {[]api.Block{st("a", strings.Repeat(`"`, 4094))}, api.OK, api.ErrLimit},
 		"fewer of them": {[]api.Block{st("a", strings.Repeat(`"`, 4093))}, api.OK, api.OK},
 	} {
-		s, e := Print(x.l)
-		if c := Check(x.l); c != x.check || e != x.print || e != api.OK && s != "" {
+		s, e := blocks.Print(x.l)
+		if c := blocks.Check(x.l); c != x.check || e != x.print || e != api.OK && s != "" {
 			t.Errorf("%s: %v, %v", name, c, e)
 		}
 	}
@@ -158,17 +159,17 @@ func TestRandomTexts(t *testing.T) {
 		for i := range b {
 			b[i] = letters[r.Intn(len(letters))]
 		}
-		l, n, e := Parse(string(b))
+		l, n, e := blocks.Parse(string(b))
 		if e != api.OK {
 			if n < 1 || n > strings.Count(string(b), "\n")+1 {
 				t.Fatalf("%q: line %d", b, n)
 			}
 			continue
 		}
-		s, e := Print(l)
-		m, _, f := Parse(s)
-		u, _ := Print(m)
-		if e != api.OK || f != api.OK || !Same(l, m) || s != u {
+		s, e := blocks.Print(l)
+		m, _, f := blocks.Parse(s)
+		u, _ := blocks.Print(m)
+		if e != api.OK || f != api.OK || !blocks.Same(l, m) || s != u {
 			t.Fatalf("%q: %q", b, s)
 		}
 	}
@@ -176,15 +177,15 @@ func TestRandomTexts(t *testing.T) {
 
 func TestFindAndDepth(t *testing.T) {
 	l := []api.Block{open([]string{"a"}, st("b")), st("b", "1"), st("b", "2"), {}}
-	found := Find(l, "b")
-	if !Same(found, l[1:3]) || Find(l, "c") != nil {
+	found := blocks.Find(l, "b")
+	if !blocks.Same(found, l[1:3]) || blocks.Find(l, "c") != nil {
 		t.Errorf("%v", found)
 	}
 	found[0].Words[0] = "x"
 	if l[1].Words[0] != "b" {
 		t.Error("memory is shared")
 	}
-	if Depth(nil) != 0 || Depth(l[1:]) != 1 || Depth(l) != 2 || Depth(deep(40)) != 40 || Depth([]api.Block{open([]string{"a"})}) != 1 {
+	if blocks.Depth(nil) != 0 || blocks.Depth(l[1:]) != 1 || blocks.Depth(l) != 2 || blocks.Depth(deep(40)) != 40 || blocks.Depth([]api.Block{open([]string{"a"})}) != 1 {
 		t.Error("depth")
 	}
 }
@@ -192,21 +193,7 @@ func TestFindAndDepth(t *testing.T) {
 func TestSame(t *testing.T) {
 	l := []api.Block{open([]string{"a"}, st("b"))}
 	m := []api.Block{{Words: []string{"a"}, Open: true, Within: []api.Block{st("b")}, Line: 7}}
-	if !Same(l, m) || Same(l, nil) || Same(l, []api.Block{open([]string{"a"})}) || Same([]api.Block{st("a")}, []api.Block{open([]string{"a"})}) || Same([]api.Block{st("a")}, []api.Block{st("a", "b")}) {
+	if !blocks.Same(l, m) || blocks.Same(l, nil) || blocks.Same(l, []api.Block{open([]string{"a"})}) || blocks.Same([]api.Block{st("a")}, []api.Block{open([]string{"a"})}) || blocks.Same([]api.Block{st("a")}, []api.Block{st("a", "b")}) {
 		t.Error("same")
 	}
-}
-
-func TestStatementsWithinThemselves(t *testing.T) {
-	l := []api.Block{open([]string{"a"}), st("b")}
-	l[0].Within = l
-	if e := Check(l); e != api.ErrLimit {
-		t.Error(e)
-	}
-	if _, e := Print(l); e != api.ErrLimit {
-		t.Error(e)
-	}
-	Find(l, "a")
-	Depth(l)
-	Same(l, l)
 }

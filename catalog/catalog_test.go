@@ -1,4 +1,4 @@
-package catalog
+package catalog_test
 
 import (
 	"fmt"
@@ -6,6 +6,7 @@ import (
 	"testing"
 
 	"cipherplan/api"
+	"cipherplan/catalog"
 )
 
 // The table of the chapter: name, kind, and sizes with their strengths; "R" for 512 to MaxBits.
@@ -54,40 +55,40 @@ func want(sizes []string, bits int) int {
 func TestAlgorithms(t *testing.T) {
 	for i, line := range strings.Split(table, "\n") {
 		alg, f := i+1, strings.Fields(line)
-		if Name(alg) != f[0] || Find(f[0]) != alg || fmt.Sprint(Kind(alg)) != f[1] {
-			t.Errorf("%s: %q, %d, %d", f[0], Name(alg), Find(f[0]), Kind(alg))
+		if catalog.Name(alg) != f[0] || catalog.Find(f[0]) != alg || fmt.Sprint(catalog.Kind(alg)) != f[1] {
+			t.Errorf("%s: %q, %d, %d", f[0], catalog.Name(alg), catalog.Find(f[0]), catalog.Kind(alg))
 		}
 		for bits := -1; bits < 16500; bits++ {
 			u := api.Use{Alg: alg, Bits: bits}
 			n := want(f[2:], bits)
-			if Strength(u) != n || Valid(u) != (n > 0) {
-				t.Fatalf("%v: %d, %v, want %d", u, Strength(u), Valid(u), n)
+			if catalog.Strength(u) != n || catalog.Valid(u) != (n > 0) {
+				t.Fatalf("%v: %d, %v, want %d", u, catalog.Strength(u), catalog.Valid(u), n)
 			}
-			v, e := Parse(Text(u))
-			if n > 0 && (e != api.OK || v != u) || n == 0 && (Text(u) != "" || e != api.ErrUse) {
-				t.Fatalf("%v: %q, %v, %v", u, Text(u), v, e)
+			v, e := catalog.Parse(catalog.Text(u))
+			if n > 0 && (e != api.OK || v != u) || n == 0 && (catalog.Text(u) != "" || e != api.ErrUse) {
+				t.Fatalf("%v: %q, %v, %v", u, catalog.Text(u), v, e)
 			}
 		}
 	}
 	for _, alg := range []int{-1, 0, 23, 1 << 62} {
-		if Name(alg) != "" || Kind(alg) != 0 || Valid(api.Use{Alg: alg}) || Strength(api.Use{Alg: alg, Bits: 512}) != 0 {
+		if catalog.Name(alg) != "" || catalog.Kind(alg) != 0 || catalog.Valid(api.Use{Alg: alg}) || catalog.Strength(api.Use{Alg: alg, Bits: 512}) != 0 {
 			t.Errorf("%d", alg)
 		}
 	}
-	if Find("") != 0 || Find("MD5") != 0 || Find("rsa-2048") != 0 {
+	if catalog.Find("") != 0 || catalog.Find("MD5") != 0 || catalog.Find("rsa-2048") != 0 {
 		t.Error("find")
 	}
 }
 
 func TestText(t *testing.T) {
-	if s := Text(api.Use{Alg: api.RSA, Bits: 2048}); s != "rsa-2048" {
+	if s := catalog.Text(api.Use{Alg: api.RSA, Bits: 2048}); s != "rsa-2048" {
 		t.Error(s)
 	}
-	if s := Text(api.Use{Alg: api.MD5}); s != "md5" {
+	if s := catalog.Text(api.Use{Alg: api.MD5}); s != "md5" {
 		t.Error(s)
 	}
 	for _, s := range []string{"", "-", "rsa", "rsa-", "rsa-02048", "rsa-+2048", "rsa-2048-", "rsa-511", "rsa-99999999999999999999", "md5-0", "md5-", "md5-1", " md5", "none"} {
-		if u, e := Parse(s); e != api.ErrUse || u != (api.Use{}) {
+		if u, e := catalog.Parse(s); e != api.ErrUse || u != (api.Use{}) {
 			t.Errorf("%q: %v, %v", s, u, e)
 		}
 	}
@@ -116,32 +117,32 @@ func text(u api.Use) string {
 		return "-"
 	}
 	if u.Bits == 0 {
-		return Name(u.Alg)
+		return catalog.Name(u.Alg)
 	}
-	return Text(u)
+	return catalog.Text(u)
 }
 
 func TestSuites(t *testing.T) {
-	l := Suites()
+	l := catalog.Suites()
 	for i, line := range strings.Split(rows, "\n") {
 		s := l[i]
 		if got := fmt.Sprint(s.Code, " ", s.Name, " ", text(s.Exchange), " ", text(s.Sign), " ", text(s.Cipher), " ", text(s.Mac), " ", s.Least, " ", s.Most); got != line {
 			t.Errorf("%s, want %s", got, line)
 		}
-		if x, e := Suite(i + 1); e != api.OK || x != s || Code(s.Name) != i+1 {
-			t.Errorf("%v, %v, %d", x, e, Code(s.Name))
+		if x, e := catalog.Suite(i + 1); e != api.OK || x != s || catalog.Code(s.Name) != i+1 {
+			t.Errorf("%v, %v, %d", x, e, catalog.Code(s.Name))
 		}
 	}
-	if len(l) != 16 || Code("") != 0 || Code("md5") != 0 {
+	if len(l) != 16 || catalog.Code("") != 0 || catalog.Code("md5") != 0 {
 		t.Error(len(l))
 	}
 	for _, c := range []int{-1, 0, 17} {
-		if s, e := Suite(c); e != api.ErrSuite || s != (api.Suite{}) {
+		if s, e := catalog.Suite(c); e != api.ErrSuite || s != (api.Suite{}) {
 			t.Errorf("%d: %v, %v", c, s, e)
 		}
 	}
 	l[0].Name = "another"
-	if Suites()[0].Name != "rsa-rc4-md5" {
+	if catalog.Suites()[0].Name != "rsa-rc4-md5" {
 		t.Error("the table can be changed")
 	}
 }

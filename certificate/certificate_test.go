@@ -1,4 +1,4 @@
-package certificate
+package certificate_test
 
 import (
 	"math/rand"
@@ -6,12 +6,15 @@ import (
 	"testing"
 
 	"cipherplan/api"
+	"cipherplan/certificate"
 	"cipherplan/der"
 )
 
 func good() api.Certificate {
 	return api.Certificate{Serial: 7, Issuer: "root", Subject: "web", Key: api.Use{Alg: api.RSA, Bits: 2048}, KeyId: 5, Hash: api.Use{Alg: api.SHA256}, From: 10, To: 20, Names: []string{"a", "b"}, Seal: api.Seal{Key: 3, Sum: 9}}
 }
+
+func pair(a, b int) api.Value { return der.List([]api.Value{der.Int(a), der.Int(b)}) }
 
 func TestCheck(t *testing.T) {
 	long := strings.Repeat("x", 33)
@@ -53,18 +56,18 @@ func TestCheck(t *testing.T) {
 	} {
 		c := good()
 		x.change(&c)
-		if (Check(c) == api.OK) != x.ok {
-			t.Errorf("%s: %v", name, Check(c))
+		if (certificate.Check(c) == api.OK) != x.ok {
+			t.Errorf("%s: %v", name, certificate.Check(c))
 		}
-		b, e := Encode(c)
-		s, f := Bytes(c)
+		b, e := certificate.Encode(c)
+		s, f := certificate.Bytes(c)
 		if !x.ok {
-			if e != api.ErrCert || f != api.ErrCert || b != nil || s != nil || Check(c) != api.ErrCert || Sealed(c, c.Seal.Key) {
+			if e != api.ErrCert || f != api.ErrCert || b != nil || s != nil || certificate.Check(c) != api.ErrCert || certificate.Sealed(c, c.Seal.Key) {
 				t.Errorf("%s: %v, %v", name, e, f)
 			}
 			continue
 		}
-		if d, e := Decode(b); e != api.OK || !Same(c, d) {
+		if d, e := certificate.Decode(b); e != api.OK || !certificate.Same(c, d) {
 			t.Errorf("%s: %v, %v", name, d, e)
 		}
 	}
@@ -76,10 +79,10 @@ func TestBytes(t *testing.T) {
 		der.List([]api.Value{der.Int(3), der.Int(0)}), der.Int(10), der.Int(20), der.Bool(false), der.Int(0),
 		der.List([]api.Value{der.Text("a"), der.Text("b")}),
 	}))
-	if b, e := Bytes(good()); e != api.OK || string(b) != string(want) {
+	if b, e := certificate.Bytes(good()); e != api.OK || string(b) != string(want) {
 		t.Errorf("%x, %v", b, e)
 	}
-	b, _ := Encode(good())
+	b, _ := certificate.Encode(good())
 	l, _ := der.AsList(must(der.Decode(b)))
 	if s, _ := der.Encode(l[0]); string(s) != string(want) || !der.Same(l[1], der.List([]api.Value{der.Int(3), der.Int(9)})) {
 		t.Errorf("%x", b)
@@ -89,34 +92,34 @@ func TestBytes(t *testing.T) {
 func must(v api.Value, e api.Errno) api.Value { return v }
 
 func TestSeal(t *testing.T) {
-	if Sum(nil) != 2166136261 || Sum([]byte{97}) != 3826002220 {
+	if certificate.Sum(nil) != 2166136261 || certificate.Sum([]byte{97}) != 3826002220 {
 		t.Error("sum")
 	}
 	c := good()
 	c.Seal.Sum = -5 // is replaced
-	s, e := Sign(c, 4)
-	b, _ := Bytes(s)
-	if e != api.OK || s.Seal != (api.Seal{Key: 4, Sum: Sum(b)}) || !Sealed(s, 4) || Sealed(s, 3) {
+	s, e := certificate.Sign(c, 4)
+	b, _ := certificate.Bytes(s)
+	if e != api.OK || s.Seal != (api.Seal{Key: 4, Sum: certificate.Sum(b)}) || !certificate.Sealed(s, 4) || certificate.Sealed(s, 3) {
 		t.Errorf("%v, %v", s.Seal, e)
 	}
 	s.Names[0] = "0"
-	if c.Names[0] != "a" || Sealed(s, 4) {
+	if c.Names[0] != "a" || certificate.Sealed(s, 4) {
 		t.Error("names")
 	}
 	for _, key := range []int{-1, api.MaxKey + 1} {
-		if x, e := Sign(good(), key); e != api.ErrCert || !Same(x, api.Certificate{}) {
+		if x, e := certificate.Sign(good(), key); e != api.ErrCert || !certificate.Same(x, api.Certificate{}) {
 			t.Errorf("%d: %v", key, e)
 		}
 	}
 	c.Issuer = ""
-	if _, e := Sign(c, 4); e != api.ErrCert {
+	if _, e := certificate.Sign(c, 4); e != api.ErrCert {
 		t.Error(e)
 	}
 	c = good()
-	s, _ = Sign(c, 4)
+	s, _ = certificate.Sign(c, 4)
 	for _, other := range []func(){func() { s.Serial++ }, func() { s.To++ }, func() { s.Subject = "wea" }, func() { s.Authority = true }} {
-		s, _ = Sign(c, 4)
-		if other(); Sealed(s, 4) {
+		s, _ = certificate.Sign(c, 4)
+		if other(); certificate.Sealed(s, 4) {
 			t.Errorf("%v is sealed", s)
 		}
 	}
@@ -129,7 +132,7 @@ func TestDecodeErrors(t *testing.T) {
 	}
 	c := good()
 	signed := func(change func([]api.Value) []api.Value) []byte {
-		b, _ := Bytes(c)
+		b, _ := certificate.Bytes(c)
 		l, _ := der.AsList(must(der.Decode(b)))
 		return element(der.List([]api.Value{der.List(change(l)), pair(1, 2)}))
 	}
@@ -151,26 +154,26 @@ func TestDecodeErrors(t *testing.T) {
 		"not valid":    {signed(func(l []api.Value) []api.Value { l[0] = der.Int(-1); return l }), api.ErrCert},
 		"a bad number": {signed(func(l []api.Value) []api.Value { l[0], l[1] = der.Int(-1), der.Int(1); return l }), api.ErrForm},
 	} {
-		if d, e := Decode(x.b); e != x.e || !Same(d, api.Certificate{}) {
+		if d, e := certificate.Decode(x.b); e != x.e || !certificate.Same(d, api.Certificate{}) {
 			t.Errorf("%s: %v, %v", name, d, e)
 		}
 	}
 }
 
 func signedOf(c api.Certificate) api.Value {
-	b, _ := Bytes(c)
+	b, _ := certificate.Bytes(c)
 	return must(der.Decode(b))
 }
 
 // One byte that is another one: no certificate, or one that is not sealed.
 func TestOneByte(t *testing.T) {
-	c, _ := Sign(good(), 4)
-	b, _ := Encode(c)
+	c, _ := certificate.Sign(good(), 4)
+	b, _ := certificate.Encode(c)
 	r := rand.New(rand.NewSource(2))
 	for i := range b {
 		x := append([]byte{}, b...)
 		x[i] ^= byte(1 + r.Intn(255))
-		if d, e := Decode(x); e == api.OK && Sealed(d, 4) {
+		if d, e := certificate.Decode(x); e == api.OK && certificate.Sealed(d, 4) {
 			t.Errorf("byte %d: %v", i, d)
 		}
 	}
@@ -184,11 +187,11 @@ func TestSame(t *testing.T) {
 		func(c *api.Certificate) { c.Path++ }, func(c *api.Certificate) { c.Names = c.Names[1:] }, func(c *api.Certificate) { c.Seal.Sum++ },
 	} {
 		c := good()
-		if change(&c); Same(c, good()) {
+		if change(&c); certificate.Same(c, good()) {
 			t.Errorf("%d", i)
 		}
 	}
-	if !Same(good(), good()) {
+	if !certificate.Same(good(), good()) {
 		t.Error("equal ones")
 	}
 }

@@ -1,10 +1,11 @@
-package chain
+package chain_test
 
 import (
 	"testing"
 
 	"cipherplan/api"
 	"cipherplan/certificate"
+	"cipherplan/chain"
 )
 
 // cert returns a certificate for a key, with the seal of another one; its subject is "k" and the key.
@@ -19,7 +20,7 @@ func cert(key, by int, change ...func(*api.Certificate)) api.Certificate {
 
 func who(key int) string { return "k" + string(rune('0'+key)) }
 
-func chain() []api.Certificate {
+func three() []api.Certificate {
 	return []api.Certificate{cert(1, 2), cert(2, 3), cert(3, 3)}
 }
 
@@ -55,11 +56,11 @@ func TestCheckErrors(t *testing.T) {
 		"without an anchor":   {func(l []api.Certificate) []api.Certificate { return l[:2] }, 10, "web", api.OK},
 		"a part":              {func(l []api.Certificate) []api.Certificate { return l[:1] }, 10, "web", api.ErrAnchor},
 	} {
-		l := chain()
+		l := three()
 		if x.change != nil {
 			l = x.change(l)
 		}
-		if e := Check(l, []int{9, 3}, []int{api.SHA256}, x.day, x.name); e != x.e {
+		if e := chain.Check(l, []int{9, 3}, []int{api.SHA256}, x.day, x.name); e != x.e {
 			t.Errorf("%s: %v, want %v", name, e, x.e)
 		}
 	}
@@ -67,7 +68,7 @@ func TestCheckErrors(t *testing.T) {
 	for i := range 8 {
 		long = append(long, cert(i, i+1))
 	}
-	if e := Check(long, []int{8}, []int{api.SHA256}, 10, "web"); e != api.OK {
+	if e := chain.Check(long, []int{8}, []int{api.SHA256}, 10, "web"); e != api.OK {
 		t.Error(e)
 	}
 }
@@ -79,7 +80,7 @@ func leaf(c *api.Certificate) { c.Authority, c.Path = false, 0 }
 func TestPath(t *testing.T) {
 	l := []api.Certificate{{}, {Authority: true}, {Authority: true}, {Authority: true, Path: 2}, {Path: 8}}
 	for at, want := range map[int]bool{-1: false, 0: true, 1: true, 2: false, 3: true, 4: false, 5: false} {
-		if Path(l, at) != want {
+		if chain.Path(l, at) != want {
 			t.Errorf("%d: %v", at, !want)
 		}
 	}
@@ -106,7 +107,7 @@ func TestBuild(t *testing.T) {
 		"nine":             {make([]api.Certificate, 9), []int{2}, nil, api.ErrLimit},
 		"not valid ones":   {make([]api.Certificate, 8), []int{2}, []int{0}, api.OK},
 	} {
-		l, e := Build(first, x.pool, x.anchors, []int{api.SHA256}, 12, "web")
+		l, e := chain.Build(first, x.pool, x.anchors, []int{api.SHA256}, 12, "web")
 		if e != x.e || len(l) != len(x.want) {
 			t.Errorf("%s: %v, %v", name, l, e)
 			continue
@@ -116,14 +117,14 @@ func TestBuild(t *testing.T) {
 				t.Errorf("%s: %v", name, l)
 			}
 		}
-		if e == api.OK && Check(l, x.anchors, []int{api.SHA256}, 12, "web") != api.OK {
+		if e == api.OK && chain.Check(l, x.anchors, []int{api.SHA256}, 12, "web") != api.OK {
 			t.Errorf("%s: not accepted", name)
 		}
 	}
-	if _, e := Build(first, nil, []int{2}, []int{api.SHA256}, 12, "other"); e != api.ErrNone {
+	if _, e := chain.Build(first, nil, []int{2}, []int{api.SHA256}, 12, "other"); e != api.ErrNone {
 		t.Error(e)
 	}
-	if _, e := Build(api.Certificate{}, nil, []int{2}, []int{api.SHA256}, 12, "web"); e != api.ErrNone {
+	if _, e := chain.Build(api.Certificate{}, nil, []int{2}, []int{api.SHA256}, 12, "web"); e != api.ErrNone {
 		t.Error(e)
 	}
 }
@@ -134,13 +135,13 @@ func TestBuildMany(t *testing.T) {
 	for range 8 {
 		pool = append(pool, cert(2, 2))
 	}
-	if _, e := Build(cert(1, 2), pool, []int{3}, []int{api.SHA256}, 12, "web"); e != api.ErrNone {
+	if _, e := chain.Build(cert(1, 2), pool, []int{3}, []int{api.SHA256}, 12, "web"); e != api.ErrNone {
 		t.Error(e)
 	}
 }
 
 func TestUntil(t *testing.T) {
-	if Until(nil) != 0 || Until([]api.Certificate{{To: 9}, {To: 7}, {To: 8}}) != 7 {
+	if chain.Until(nil) != 0 || chain.Until([]api.Certificate{{To: 9}, {To: 7}, {To: 8}}) != 7 {
 		t.Error("until")
 	}
 }

@@ -1,4 +1,4 @@
-package change
+package change_test
 
 import (
 	"fmt"
@@ -6,6 +6,7 @@ import (
 	"testing"
 
 	"cipherplan/api"
+	"cipherplan/change"
 	"cipherplan/endpoint"
 )
 
@@ -48,18 +49,18 @@ func TestApplyAndInverse(t *testing.T) {
 		x.c.Endpoint, x.inverse.Endpoint = 77, 77
 		want := web()
 		x.want(&want)
-		got, e := Apply(web(), x.c)
-		if !endpoint.Same(got, want) || e != api.OK || Check(web(), x.c) != api.OK {
+		got, e := change.Apply(web(), x.c)
+		if !endpoint.Same(got, want) || e != api.OK || change.Check(web(), x.c) != api.OK {
 			t.Errorf("%s: %v, %v", name, got, e)
 		}
-		back, e := Inverse(web(), x.c)
-		if !Same(back, x.inverse) || e != api.OK {
+		back, e := change.Inverse(web(), x.c)
+		if !change.Same(back, x.inverse) || e != api.OK {
 			t.Errorf("%s: %v, %v", name, back, e)
 		}
-		if again, e := Apply(got, back); !endpoint.Same(again, web()) || e != api.OK {
+		if again, e := change.Apply(got, back); !endpoint.Same(again, web()) || e != api.OK {
 			t.Errorf("%s: %v, %v", name, again, e)
 		}
-		if Widens(web(), x.c) != x.widens || x.c.Kind != api.SetOrder && Widens(got, back) == x.widens {
+		if change.Widens(web(), x.c) != x.widens || x.c.Kind != api.SetOrder && change.Widens(got, back) == x.widens {
 			t.Errorf("%s: widens", name)
 		}
 	}
@@ -116,9 +117,9 @@ func TestErrors(t *testing.T) {
 		"negative anchor":  {web(), api.Change{Kind: api.AddAnchor, Number: -1}, api.ErrValue},
 		"no hash at all":   {web(), api.Change{Kind: api.AddHash, Number: api.RSA}, api.ErrValue},
 	} {
-		got, e := Apply(x.e, x.c)
-		back, f := Inverse(x.e, x.c)
-		if c := Check(x.e, x.c); e != x.want || f != x.want || c != x.want || got.Name != "" || !Same(back, api.Change{}) || Widens(x.e, x.c) {
+		got, e := change.Apply(x.e, x.c)
+		back, f := change.Inverse(x.e, x.c)
+		if c := change.Check(x.e, x.c); e != x.want || f != x.want || c != x.want || got.Name != "" || !change.Same(back, api.Change{}) || change.Widens(x.e, x.c) {
 			t.Errorf("%s: %v, %v, %v", name, e, f, c)
 		}
 	}
@@ -128,13 +129,13 @@ func TestOwnMemory(t *testing.T) {
 	e := web()
 	c := api.Change{Kind: api.AddIdentity, Identity: api.Identity{Key: rsa.Key, KeyId: 1, Chain: web().Identities[0].Chain}}
 	e.Identities = []api.Identity{}
-	got, _ := Apply(e, c)
+	got, _ := change.Apply(e, c)
 	got.Identities[0].Chain[0].Names[0], got.Suites[0] = "x", 1
 	if c.Identity.Chain[0].Names[0] != "web" || e.Suites[0] != 10 {
 		t.Error("memory is shared")
 	}
 	e = web()
-	back, _ := Inverse(e, api.Change{Kind: api.DropIdentity, Number: 1})
+	back, _ := change.Inverse(e, api.Change{Kind: api.DropIdentity, Number: 1})
 	back.Identity.Chain[0].Names[0] = "x"
 	if e.Identities[0].Chain[0].Names[0] != "web" {
 		t.Error("memory is shared")
@@ -143,16 +144,16 @@ func TestOwnMemory(t *testing.T) {
 
 func TestSame(t *testing.T) {
 	a := api.Change{Endpoint: 1, Kind: 5, At: 2, Identity: web().Identities[0]}
-	for i, change := range []func(c *api.Change){
+	for i, alter := range []func(c *api.Change){
 		func(c *api.Change) { c.Endpoint++ }, func(c *api.Change) { c.Kind++ }, func(c *api.Change) { c.Number++ }, func(c *api.Change) { c.At++ },
 		func(c *api.Change) { c.Identity.KeyId++ }, func(c *api.Change) { c.Identity.Key.Bits++ }, func(c *api.Change) { c.Identity.Chain = nil },
 	} {
 		b := a
-		if change(&b); Same(a, b) {
+		if alter(&b); change.Same(a, b) {
 			t.Errorf("%d", i)
 		}
 	}
-	if !Same(a, a) {
+	if !change.Same(a, a) {
 		t.Error("equal ones")
 	}
 }
@@ -170,13 +171,13 @@ func TestRandom(t *testing.T) {
 		case api.AddIdentity:
 			c.Number, c.At, c.Identity = 0, r.Intn(3), api.Identity{Key: ed.Key, KeyId: r.Intn(9)}
 		}
-		next, err := Apply(e, c)
+		next, err := change.Apply(e, c)
 		if err != api.OK {
 			continue
 		}
 		done++
-		back, _ := Inverse(e, c)
-		if again, err := Apply(next, back); err != api.OK || !endpoint.Same(again, e) {
+		back, _ := change.Inverse(e, c)
+		if again, err := change.Apply(next, back); err != api.OK || !endpoint.Same(again, e) {
 			t.Fatalf("%v, %v: %v, %v", e, c, back, err)
 		}
 		e = next

@@ -1,4 +1,4 @@
-package der
+package der_test
 
 import (
 	"bytes"
@@ -7,6 +7,7 @@ import (
 	"testing"
 
 	"cipherplan/api"
+	"cipherplan/der"
 )
 
 func leaf(tag int, b ...byte) api.Value { return api.Value{Tag: tag, Bytes: b} }
@@ -23,15 +24,15 @@ func deep(n int) api.Value {
 
 func TestExamples(t *testing.T) {
 	for want, v := range map[string]api.Value{
-		"\x02\x01\x05":                         Int(5),
-		"\x02\x02\xff\x7f":                     Int(-129),
-		"\x30\x07\x02\x01\x05\x02\x02\xff\x7f": List([]api.Value{Int(5), Int(-129)}),
-		"\x0c\x02hi":                           Text("hi"),
-		"\x01\x01\xff":                         Bool(true),
-		"\x01\x01\x00":                         Bool(false),
-		"\x30\x00":                             List(nil),
+		"\x02\x01\x05":                         der.Int(5),
+		"\x02\x02\xff\x7f":                     der.Int(-129),
+		"\x30\x07\x02\x01\x05\x02\x02\xff\x7f": der.List([]api.Value{der.Int(5), der.Int(-129)}),
+		"\x0c\x02hi":                           der.Text("hi"),
+		"\x01\x01\xff":                         der.Bool(true),
+		"\x01\x01\x00":                         der.Bool(false),
+		"\x30\x00":                             der.List(nil),
 	} {
-		if b, e := Encode(v); e != api.OK || string(b) != want {
+		if b, e := der.Encode(v); e != api.OK || string(b) != want {
 			t.Errorf("%x, %v, want %x", b, e, want)
 		}
 	}
@@ -54,7 +55,7 @@ func TestEncodeErrors(t *testing.T) {
 		"long":             {leaf(4, make([]byte, 4093)...), api.ErrLimit},
 		"long, but not so": {leaf(4, make([]byte, 4092)...), api.OK},
 	} {
-		b, e := Encode(x.v)
+		b, e := der.Encode(x.v)
 		if e != x.e || e != api.OK && b != nil {
 			t.Errorf("%s: %v, %v", name, b, e)
 		}
@@ -62,7 +63,7 @@ func TestEncodeErrors(t *testing.T) {
 }
 
 func TestDecodeErrors(t *testing.T) {
-	sixteen, _ := Encode(deep(16))
+	sixteen, _ := der.Encode(deep(16))
 	deeper := append([]byte{48, 32}, sixteen...)
 	for name, x := range map[string]struct {
 		b []byte
@@ -83,17 +84,17 @@ func TestDecodeErrors(t *testing.T) {
 		"more than many": {make([]byte, 4097), api.ErrLimit},
 		"very deep":      {bytes.Repeat([]byte{48}, 4096), api.ErrForm},
 	} {
-		if v, e := Decode(x.b); e != x.e || !Same(v, api.Value{}) {
+		if v, e := der.Decode(x.b); e != x.e || !der.Same(v, api.Value{}) {
 			t.Errorf("%s: %v, %v", name, v, e)
 		}
 	}
-	if l, e := All(append(deeper, 4, 0)); e != api.ErrLimit || l != nil {
+	if l, e := der.All(append(deeper, 4, 0)); e != api.ErrLimit || l != nil {
 		t.Errorf("%v, %v", l, e)
 	}
-	if l, e := All(nil); e != api.OK || len(l) != 0 {
+	if l, e := der.All(nil); e != api.OK || len(l) != 0 {
 		t.Errorf("%v, %v", l, e)
 	}
-	if l, e := All([]byte{4, 1, 9, 5, 0}); e != api.OK || len(l) != 2 || !Same(l[0], leaf(4, 9)) || !Same(l[1], leaf(5)) {
+	if l, e := der.All([]byte{4, 1, 9, 5, 0}); e != api.OK || len(l) != 2 || !der.Same(l[0], leaf(4, 9)) || !der.Same(l[1], leaf(5)) {
 		t.Errorf("%v, %v", l, e)
 	}
 }
@@ -115,17 +116,17 @@ func TestDecodeOfEncode(t *testing.T) {
 	r := rand.New(rand.NewSource(1))
 	for range 2000 {
 		v := random(r, 4)
-		b, e := Encode(v)
+		b, e := der.Encode(v)
 		if e != api.OK {
 			continue
 		}
-		w, e := Decode(b)
-		if e != api.OK || !Same(v, w) {
+		w, e := der.Decode(b)
+		if e != api.OK || !der.Same(v, w) {
 			t.Fatalf("%v: %v, %v", v, w, e)
 		}
 		b[r.Intn(len(b))] ^= byte(1 << r.Intn(8))
-		if w, e = Decode(b); e == api.OK {
-			if c, f := Encode(w); f != api.OK || !bytes.Equal(b, c) {
+		if w, e = der.Decode(b); e == api.OK {
+			if c, f := der.Encode(w); f != api.OK || !bytes.Equal(b, c) {
 				t.Fatalf("%x is written %x, %v", b, c, f)
 			}
 		}
@@ -134,39 +135,39 @@ func TestDecodeOfEncode(t *testing.T) {
 
 func TestInt(t *testing.T) {
 	for _, n := range []int{0, 1, -1, 127, 128, -128, -129, 255, 256, 32767, 32768, 1 << 40, math.MaxInt, math.MinInt} {
-		if m, e := AsInt(Int(n)); m != n || e != api.OK {
+		if m, e := der.AsInt(der.Int(n)); m != n || e != api.OK {
 			t.Errorf("%d: %d, %v", n, m, e)
 		}
 	}
 	for _, v := range []api.Value{leaf(2), leaf(2, 0, 1), leaf(2, 255, 128), leaf(2, 1, 0, 0, 0, 0, 0, 0, 0, 0), leaf(3, 1), {Tag: 2, Nested: true, Bytes: []byte{1}}} {
-		if n, e := AsInt(v); n != 0 || e != api.ErrForm {
+		if n, e := der.AsInt(v); n != 0 || e != api.ErrForm {
 			t.Errorf("%v: %d, %v", v, n, e)
 		}
 	}
 }
 
 func TestAsOthers(t *testing.T) {
-	if s, e := AsText(Text(" ~")); s != " ~" || e != api.OK {
+	if s, e := der.AsText(der.Text(" ~")); s != " ~" || e != api.OK {
 		t.Errorf("%q, %v", s, e)
 	}
-	for _, v := range []api.Value{Text("\x1f"), Text("\x7f"), leaf(13, 'a'), {Tag: 12, Nested: true}} {
-		if s, e := AsText(v); s != "" || e != api.ErrForm {
+	for _, v := range []api.Value{der.Text("\x1f"), der.Text("\x7f"), leaf(13, 'a'), {Tag: 12, Nested: true}} {
+		if s, e := der.AsText(v); s != "" || e != api.ErrForm {
 			t.Errorf("%v: %q, %v", v, s, e)
 		}
 	}
-	if b, e := AsBool(Bool(true)); !b || e != api.OK {
+	if b, e := der.AsBool(der.Bool(true)); !b || e != api.OK {
 		t.Error(b, e)
 	}
 	for _, v := range []api.Value{leaf(1), leaf(1, 1), leaf(1, 255, 255), leaf(2, 255)} {
-		if b, e := AsBool(v); b || e != api.ErrForm {
+		if b, e := der.AsBool(v); b || e != api.ErrForm {
 			t.Errorf("%v: %v, %v", v, b, e)
 		}
 	}
-	if l, e := AsList(List([]api.Value{Int(1), deep(30)})); e != api.OK || len(l) != 2 || !Same(l[1], deep(30)) {
+	if l, e := der.AsList(der.List([]api.Value{der.Int(1), deep(30)})); e != api.OK || len(l) != 2 || !der.Same(l[1], deep(30)) {
 		t.Errorf("%v, %v", l, e)
 	}
 	for _, v := range []api.Value{{Tag: 48}, {Tag: 49, Nested: true}, list(leaf(0)), leaf(4)} {
-		if l, e := AsList(v); l != nil || e != api.ErrForm {
+		if l, e := der.AsList(v); l != nil || e != api.ErrForm {
 			t.Errorf("%v: %v, %v", v, l, e)
 		}
 	}
@@ -175,60 +176,22 @@ func TestAsOthers(t *testing.T) {
 func TestSame(t *testing.T) {
 	a := list(leaf(4, 1), list(leaf(5)))
 	for _, b := range []api.Value{list(leaf(4, 1)), list(leaf(4, 2), list(leaf(5))), list(leaf(6, 1), list(leaf(5))), list(leaf(4, 1), list(leaf(5), leaf(5))), {Tag: 48, Elements: a.Elements}} {
-		if Same(a, b) || Same(b, a) {
+		if der.Same(a, b) || der.Same(b, a) {
 			t.Errorf("%v", b)
 		}
 	}
-	if !Same(a, list(leaf(4, 1), api.Value{Tag: 48, Nested: true, Bytes: []byte{}, Elements: []api.Value{leaf(5)}})) {
+	if !der.Same(a, list(leaf(4, 1), api.Value{Tag: 48, Nested: true, Bytes: []byte{}, Elements: []api.Value{leaf(5)}})) {
 		t.Error("equal ones")
 	}
 }
 
 func TestOwnMemory(t *testing.T) {
 	l := []api.Value{leaf(4, 1)}
-	v := List(l)
-	m, _ := AsList(v)
+	v := der.List(l)
+	m, _ := der.AsList(v)
 	l[0].Bytes[0] = 2
 	v.Elements[0].Bytes[0] = 3
 	if m[0].Bytes[0] != 1 {
 		t.Error("memory is shared")
-	}
-}
-
-// A value that contains itself has no end, but every function has.
-func TestValueWithinItself(t *testing.T) {
-	l := make([]api.Value, 2)
-	l[0] = api.Value{Tag: 48, Nested: true, Elements: l}
-	l[1] = l[0]
-	if _, e := Encode(l[0]); e != api.ErrLimit {
-		t.Error(e)
-	}
-	if _, e := AsList(l[0]); e != api.ErrForm {
-		t.Error(e)
-	}
-	if Same(l[0], l[1]) {
-		t.Error("same")
-	}
-	List(l)
-}
-
-// Long and deep lists are compared and copied whole.
-func TestLargeLists(t *testing.T) {
-	flat := make([]api.Value, 1100000)
-	for i := range flat {
-		flat[i] = leaf(5)
-	}
-	for name, v := range map[string]api.Value{"flat": list(flat...), "deep": deep(100000)} {
-		l, e := AsList(v)
-		if e != api.OK || !Same(List(l), v) {
-			t.Errorf("%s: %d, %v", name, len(l), e)
-		}
-		if _, e := Encode(v); e != api.ErrLimit {
-			t.Errorf("%s: %v", name, e)
-		}
-	}
-	flat[1099999] = leaf(31)
-	if _, e := Encode(list(flat...)); e != api.ErrForm {
-		t.Error(e)
 	}
 }

@@ -1,4 +1,4 @@
-package downgrade
+package downgrade_test
 
 import (
 	"fmt"
@@ -8,6 +8,7 @@ import (
 
 	"cipherplan/api"
 	"cipherplan/certificate"
+	"cipherplan/downgrade"
 	"cipherplan/exception"
 	"cipherplan/negotiate"
 	"cipherplan/rule"
@@ -42,7 +43,7 @@ func TestAll(t *testing.T) {
 		"nothing":       {client(10), server(2), true, 100, "[]"},
 	} {
 		x.c.Fallback = x.fallback
-		l, e := All(x.c, x.s, 15, x.weak)
+		l, e := downgrade.All(x.c, x.s, 15, x.weak)
 		if fmt.Sprint(l) != x.want || e != api.OK {
 			t.Errorf("%s: %v, %v", name, l, e)
 		}
@@ -50,7 +51,7 @@ func TestAll(t *testing.T) {
 			for suite := range 17 {
 				o := api.Outcome{Version: version, Suite: suite}
 				want := slices.ContainsFunc(l, func(w api.Way) bool { return w.Outcome == o })
-				if ok, e := Reaches(x.c, x.s, 15, x.weak, o); ok != want || e != api.OK {
+				if ok, e := downgrade.Reaches(x.c, x.s, 15, x.weak, o); ok != want || e != api.OK {
 					t.Errorf("%s: %v: %v, %v", name, o, ok, e)
 				}
 			}
@@ -76,9 +77,9 @@ func TestErrors(t *testing.T) {
 		"weak":       {client(10), server(10), 0, -1, api.ErrRange},
 		"great weak": {client(10), server(10), 0, 513, api.ErrRange},
 	} {
-		l, e := All(x.c, x.s, x.day, x.weak)
-		m, f := Down(x.c, x.s, api.Policy{Rules: []api.Rule{{}}}, nil, api.Owners{}, x.day, x.weak)
-		ok, g := Reaches(x.c, x.s, x.day, x.weak, api.Outcome{})
+		l, e := downgrade.All(x.c, x.s, x.day, x.weak)
+		m, f := downgrade.Down(x.c, x.s, api.Policy{Rules: []api.Rule{{}}}, nil, api.Owners{}, x.day, x.weak)
+		ok, g := downgrade.Reaches(x.c, x.s, x.day, x.weak, api.Outcome{})
 		if l != nil || m != nil || ok || e != x.e || f != x.e || g != x.e {
 			t.Errorf("%s: %v, %v, %v", name, e, f, g)
 		}
@@ -95,14 +96,14 @@ func TestErrors(t *testing.T) {
 		{bad, nil, api.Endpoint{}, api.Outcome{}, 15, api.ErrEndpoint}, {bad, nil, server(10), api.Outcome{}, 15, api.ErrSuite}, {bad, nil, server(10), api.Outcome{Suite: 9}, 15, api.ErrNone},
 		{bad, []api.Exception{{}}, server(10), api.Outcome{Suite: 10}, 15, api.ErrRule}, {api.Policy{}, []api.Exception{{}}, server(10), api.Outcome{Suite: 10}, -1, api.ErrRange}, {api.Policy{}, []api.Exception{{}}, server(10), api.Outcome{Suite: 10}, 1, api.ErrException},
 	} {
-		if ok, e := Forbidden(x.p, x.l, api.Owners{}, x.s, x.out, x.day); ok || e != x.e {
+		if ok, e := downgrade.Forbidden(x.p, x.l, api.Owners{}, x.s, x.out, x.day); ok || e != x.e {
 			t.Errorf("%v: %v, %v", x, ok, e)
 		}
 	}
-	if l, e := Down(client(10), server(10), bad, nil, api.Owners{}, 15, 0); l != nil || e != api.ErrRule {
+	if l, e := downgrade.Down(client(10), server(10), bad, nil, api.Owners{}, 15, 0); l != nil || e != api.ErrRule {
 		t.Error(l, e)
 	}
-	if l, e := Down(client(10), server(2), bad, nil, api.Owners{}, 15, 0); len(l) != 0 || e != api.OK {
+	if l, e := downgrade.Down(client(10), server(2), bad, nil, api.Owners{}, 15, 0); len(l) != 0 || e != api.OK {
 		t.Error(l, e)
 	}
 }
@@ -122,14 +123,14 @@ func TestForbiddenAndDown(t *testing.T) {
 		"forbid ecdhe":            {"[{{3 10} 3 [10 2]}]", "[{{3 10} 3 [10 2]}]"},
 	} {
 		p, _, _ := rule.Parse(text)
-		l, e := Down(c, s, p, nil, o, 15, 0)
-		m, f := Down(c, s, p, []api.Exception{x}, o, 16, 0)
+		l, e := downgrade.Down(c, s, p, nil, o, 15, 0)
+		m, f := downgrade.Down(c, s, p, []api.Exception{x}, o, 16, 0)
 		if fmt.Sprint(l) != want[0] || fmt.Sprint(m) != want[1] || e != api.OK || f != api.OK {
 			t.Errorf("%s: %v, %v, %v, %v", text, l, m, e, f)
 		}
 		for _, out := range negotiate.Common(c, s) {
 			down := slices.ContainsFunc(l, func(w api.Way) bool { return w.Outcome == out })
-			if ok, e := Forbidden(p, nil, o, s, out, 15); e != api.OK || ok != down && out != (api.Outcome{Version: 3, Suite: 2}) {
+			if ok, e := downgrade.Forbidden(p, nil, o, s, out, 15); e != api.OK || ok != down && out != (api.Outcome{Version: 3, Suite: 2}) {
 				t.Errorf("%s: %v: %v, %v", text, out, ok, e)
 			}
 		}
@@ -151,10 +152,10 @@ func TestConsequences(t *testing.T) {
 		c.Fallback, s.OwnOrder, s.Most = r.Intn(2) > 0, r.Intn(2) > 0, 2+r.Intn(2)
 		weak := r.Intn(300)
 		chosen, e := negotiate.Choose(c, s, 15)
-		if ok, _ := Reaches(c, s, 15, weak, chosen); ok != (e == api.OK) {
+		if ok, _ := downgrade.Reaches(c, s, 15, weak, chosen); ok != (e == api.OK) {
 			t.Fatalf("%v, %v: %v", c, s, chosen)
 		}
-		ways, _ := All(c, s, 15, weak)
+		ways, _ := downgrade.All(c, s, 15, weak)
 		for _, w := range ways {
 			if !slices.Contains(negotiate.Common(c, s), w.Outcome) {
 				t.Fatalf("%v, %v: %v", c, s, w)
@@ -164,7 +165,7 @@ func TestConsequences(t *testing.T) {
 			}
 		}
 		c.Fallback = false
-		if ways, _ := All(c, s, 15, 0); len(ways) > 1 {
+		if ways, _ := downgrade.All(c, s, 15, 0); len(ways) > 1 {
 			t.Fatalf("%v", ways)
 		}
 	}

@@ -1,4 +1,4 @@
-package estate
+package estate_test
 
 import (
 	"fmt"
@@ -7,9 +7,10 @@ import (
 
 	"cipherplan/api"
 	"cipherplan/endpoint"
+	"cipherplan/estate"
 )
 
-func estate() api.Estate {
+func start() api.Estate {
 	end := func(name string) api.Endpoint {
 		return api.Endpoint{Name: name, Least: 1, Most: 3, Suites: []int{10, 2}, Anchors: []int{9}}
 	}
@@ -24,24 +25,24 @@ func anchor(at, n int) api.Change {
 func most(at, n int) api.Change { return api.Change{Endpoint: at, Kind: api.SetMost, Number: n} }
 
 func bad() api.Estate {
-	e := estate()
+	e := start()
 	e.Endpoints[0].Least = 0
 	return e
 }
 
 func TestIndex(t *testing.T) {
 	for name, want := range map[string]string{"app": "0 true", "web": "2 true", "x": "0 false", "": "0 false"} {
-		if i, ok := Index(estate(), name); fmt.Sprint(i, ok) != want {
+		if i, ok := estate.Index(start(), name); fmt.Sprint(i, ok) != want {
 			t.Errorf("%s: %d, %v", name, i, ok)
 		}
 	}
 }
 
 func TestApply(t *testing.T) {
-	e, err := Apply(estate(), anchor(1, 5))
-	want := estate()
+	e, err := estate.Apply(start(), anchor(1, 5))
+	want := start()
 	want.Endpoints[1].Anchors = []int{5, 9}
-	if !Same(e, want) || err != api.OK {
+	if !estate.Same(e, want) || err != api.OK {
 		t.Error(e, err)
 	}
 	for name, x := range map[string]struct {
@@ -49,10 +50,10 @@ func TestApply(t *testing.T) {
 		c    api.Change
 		want api.Errno
 	}{
-		"estate": {bad(), anchor(9, 9), api.ErrEstate}, "endpoint": {estate(), api.Change{Endpoint: 3}, api.ErrChange}, "negative": {estate(), anchor(-1, 5), api.ErrChange},
-		"kind": {estate(), api.Change{}, api.ErrChange}, "done": {estate(), anchor(0, 9), api.ErrDone}, "value": {estate(), most(0, 9), api.ErrValue},
+		"estate": {bad(), anchor(9, 9), api.ErrEstate}, "endpoint": {start(), api.Change{Endpoint: 3}, api.ErrChange}, "negative": {start(), anchor(-1, 5), api.ErrChange},
+		"kind": {start(), api.Change{}, api.ErrChange}, "done": {start(), anchor(0, 9), api.ErrDone}, "value": {start(), most(0, 9), api.ErrValue},
 	} {
-		if e, err := Apply(x.e, x.c); err != x.want || !Same(e, api.Estate{}) {
+		if e, err := estate.Apply(x.e, x.c); err != x.want || !estate.Same(e, api.Estate{}) {
 			t.Errorf("%s: %v", name, err)
 		}
 	}
@@ -70,24 +71,24 @@ func TestState(t *testing.T) {
 		"twice": {api.Set{0, 3}, 0, 0, api.ErrDone}, "order": {api.Set{1, 0}, 0, 0, api.ErrSet}, "same": {api.Set{1, 1}, 0, 0, api.ErrSet},
 		"far": {api.Set{0, 4}, 0, 0, api.ErrSet}, "negative": {api.Set{-1, 0}, 0, 0, api.ErrSet},
 	} {
-		e, err := State(estate(), l, x.s)
-		if err != x.want || err == api.OK && (len(e.Endpoints[0].Anchors) != x.n || e.Endpoints[2].Most != x.most) || err != api.OK && !Same(e, api.Estate{}) {
+		e, err := estate.State(start(), l, x.s)
+		if err != x.want || err == api.OK && (len(e.Endpoints[0].Anchors) != x.n || e.Endpoints[2].Most != x.most) || err != api.OK && !estate.Same(e, api.Estate{}) {
 			t.Errorf("%s: %v, %v", name, e, err)
 		}
 	}
-	if e, err := State(estate(), nil, nil); !Same(e, estate()) || err != api.OK {
+	if e, err := estate.State(start(), nil, nil); !estate.Same(e, start()) || err != api.OK {
 		t.Error(e, err)
 	}
-	if _, err := State(bad(), make([]api.Change, 25), api.Set{30}); err != api.ErrEstate {
+	if _, err := estate.State(bad(), make([]api.Change, 25), api.Set{30}); err != api.ErrEstate {
 		t.Error(err)
 	}
-	if _, err := State(estate(), make([]api.Change, 25), api.Set{30}); err != api.ErrLimit {
+	if _, err := estate.State(start(), make([]api.Change, 25), api.Set{30}); err != api.ErrLimit {
 		t.Error(err)
 	}
-	if _, err := State(estate(), make([]api.Change, 24), nil); err != api.OK {
+	if _, err := estate.State(start(), make([]api.Change, 24), nil); err != api.OK {
 		t.Error(err)
 	}
-	if _, err := State(estate(), []api.Change{anchor(7, 1)}, api.Set{0}); err != api.ErrChange {
+	if _, err := estate.State(start(), []api.Change{anchor(7, 1)}, api.Set{0}); err != api.ErrChange {
 		t.Error(err)
 	}
 }
@@ -95,7 +96,7 @@ func TestState(t *testing.T) {
 func TestRelevant(t *testing.T) {
 	l := []api.Change{anchor(0, 5), anchor(1, 5), anchor(2, 5), anchor(0, 6), anchor(9, 1)}
 	for edge, want := range []string{"[0 2 3]", "[1 2]"} {
-		if s, err := Relevant(estate(), l, edge); fmt.Sprint(s) != want || err != api.OK {
+		if s, err := estate.Relevant(start(), l, edge); fmt.Sprint(s) != want || err != api.OK {
 			t.Errorf("%d: %v, %v", edge, s, err)
 		}
 	}
@@ -104,8 +105,8 @@ func TestRelevant(t *testing.T) {
 		n    int
 		edge int
 		want api.Errno
-	}{{bad(), 25, 5, api.ErrEstate}, {estate(), 25, 5, api.ErrLimit}, {estate(), 24, 2, api.ErrNone}, {estate(), 1, -1, api.ErrNone}} {
-		if s, err := Relevant(x.e, make([]api.Change, x.n), x.edge); s != nil || err != x.want {
+	}{{bad(), 25, 5, api.ErrEstate}, {start(), 25, 5, api.ErrLimit}, {start(), 24, 2, api.ErrNone}, {start(), 1, -1, api.ErrNone}} {
+		if s, err := estate.Relevant(x.e, make([]api.Change, x.n), x.edge); s != nil || err != x.want {
 			t.Error(s, err)
 		}
 	}
@@ -120,11 +121,11 @@ func TestCommute(t *testing.T) {
 		"impossible": {anchor(0, 5), anchor(1, 9), false}, "the same": {anchor(0, 5), anchor(0, 5), false}, "no endpoint": {anchor(0, 5), anchor(7, 5), false},
 		"places": {api.Change{Kind: api.AddSuite, Number: 1}, api.Change{Kind: api.AddSuite, Number: 3}, false}, "only in one order": {most(0, 4), api.Change{Kind: api.SetLeast, Number: 4}, false},
 	} {
-		if ok, err := Commute(estate(), x.a, x.b); ok != x.want || err != api.OK {
+		if ok, err := estate.Commute(start(), x.a, x.b); ok != x.want || err != api.OK {
 			t.Errorf("%s: %v, %v", name, ok, err)
 		}
 	}
-	if ok, err := Commute(bad(), anchor(0, 5), anchor(1, 5)); ok || err != api.ErrEstate {
+	if ok, err := estate.Commute(bad(), anchor(0, 5), anchor(1, 5)); ok || err != api.ErrEstate {
 		t.Error(ok, err)
 	}
 }
@@ -134,21 +135,21 @@ func TestSame(t *testing.T) {
 		func(e *api.Estate) { e.Endpoints[0].Most = 2 }, func(e *api.Estate) { e.Edges = nil }, func(e *api.Estate) { e.Items = nil }, func(e *api.Estate) { e.Items[0].Name = "x" },
 		func(e *api.Estate) { e.Items[0].Links[0].Day++ }, func(e *api.Estate) { e.Items[0].Until++ }, func(e *api.Estate) { e.Items[0].Kind++ }, func(e *api.Estate) { e.Items[0].Purpose++ },
 	} {
-		e := estate()
-		if change(&e); Same(e, estate()) {
+		e := start()
+		if change(&e); estate.Same(e, start()) {
 			t.Errorf("%d", i)
 		}
 	}
-	if !Same(estate(), estate()) {
+	if !estate.Same(start(), start()) {
 		t.Error("equal ones")
 	}
 }
 
 func TestOwnMemory(t *testing.T) {
-	e := estate()
-	x, _ := Apply(e, anchor(0, 5))
+	e := start()
+	x, _ := estate.Apply(e, anchor(0, 5))
 	x.Endpoints[1].Suites[0], x.Edges[0].Client, x.Items[0].Links[0].Day = 99, 99, 99
-	if !Same(e, estate()) {
+	if !estate.Same(e, start()) {
 		t.Error("memory is shared")
 	}
 }
@@ -165,11 +166,11 @@ func TestRelevantAlone(t *testing.T) {
 				s = append(s, i)
 			}
 		}
-		e, err := State(estate(), l, s)
+		e, err := estate.State(start(), l, s)
 		if err != api.OK {
 			continue
 		}
-		relevant, _ := Relevant(estate(), l, 0)
+		relevant, _ := estate.Relevant(start(), l, 0)
 		var both api.Set
 		for _, i := range s {
 			for _, j := range relevant {
@@ -178,7 +179,7 @@ func TestRelevantAlone(t *testing.T) {
 				}
 			}
 		}
-		f, err := State(estate(), l, both)
+		f, err := estate.State(start(), l, both)
 		if err != api.OK || !endpoint.Same(e.Endpoints[0], f.Endpoints[0]) || !endpoint.Same(e.Endpoints[2], f.Endpoints[2]) {
 			t.Fatalf("%v, %v: %v", l, s, both)
 		}

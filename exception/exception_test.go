@@ -1,4 +1,4 @@
-package exception
+package exception_test
 
 import (
 	"fmt"
@@ -9,6 +9,7 @@ import (
 	"cipherplan/api"
 	"cipherplan/certificate"
 	"cipherplan/der"
+	"cipherplan/exception"
 	"cipherplan/rule"
 )
 
@@ -20,7 +21,7 @@ func good() api.Exception {
 
 func signed(x api.Exception, keys ...int) api.Exception {
 	for _, k := range keys {
-		x, _ = Sign(x, k)
+		x, _ = exception.Sign(x, k)
 	}
 	return x
 }
@@ -49,16 +50,16 @@ func TestCheck(t *testing.T) {
 	} {
 		y := good()
 		x.change(&y)
-		b, e := Bytes(y)
-		_, f := Sign(y, 1)
-		if c := Check(y); (c == api.OK) != x.ok || e != c || f != c || !x.ok && (c != api.ErrException || b != nil) {
+		b, e := exception.Bytes(y)
+		_, f := exception.Sign(y, 1)
+		if c := exception.Check(y); (c == api.OK) != x.ok || e != c || f != c || !x.ok && (c != api.ErrException || b != nil) {
 			t.Errorf("%s: %v, %v, %v", name, c, e, f)
 		}
 	}
 }
 
 func TestSign(t *testing.T) {
-	b, e := Bytes(good())
+	b, e := exception.Bytes(good())
 	want, _ := der.Encode(der.List([]api.Value{der.Int(1), der.Int(0), der.Int(1), der.Text("web"), der.Int(5), der.Int(9)}))
 	if string(b) != string(want) || e != api.OK {
 		t.Errorf("%x, %v", b, e)
@@ -71,18 +72,18 @@ func TestSign(t *testing.T) {
 		t.Error(y, x)
 	}
 	full := signed(good(), 1, 2, 3, 4, 5, 6, 7, 8)
-	if z, e := Sign(full, 9); e != api.ErrLimit || fmt.Sprint(z) != fmt.Sprint(api.Exception{}) {
+	if z, e := exception.Sign(full, 9); e != api.ErrLimit || fmt.Sprint(z) != fmt.Sprint(api.Exception{}) {
 		t.Error(z, e)
 	}
-	if z, e := Sign(full, 8); e != api.OK || len(z.Seals) != 8 {
+	if z, e := exception.Sign(full, 8); e != api.OK || len(z.Seals) != 8 {
 		t.Error(z, e)
 	}
 	for _, key := range []int{-1, api.MaxKey + 1} {
-		if _, e := Sign(full, key); e != api.ErrRange {
+		if _, e := exception.Sign(full, key); e != api.ErrRange {
 			t.Error(key, e)
 		}
 	}
-	if _, e := Sign(api.Exception{}, -1); e != api.ErrException {
+	if _, e := exception.Sign(api.Exception{}, -1); e != api.ErrException {
 		t.Error(e)
 	}
 }
@@ -105,7 +106,7 @@ func TestValid(t *testing.T) {
 		"negative": {signed(good(), 1), -1, false}, "all": {signed(good(), 1, 5, 9), 4, false},
 	} {
 		o.Need = x.need
-		if Valid(x.x, o) != x.want {
+		if exception.Valid(x.x, o) != x.want {
 			t.Errorf("%s: %v", name, !x.want)
 		}
 	}
@@ -113,7 +114,7 @@ func TestValid(t *testing.T) {
 	for range 200 { // with more seals it does not become invalid
 		x := signed(good(), r.Intn(10), r.Intn(10))
 		o := api.Owners{Keys: []int{1, 3, 5, 7}, Need: 1 + r.Intn(2)}
-		if y := signed(x, r.Intn(10)); Valid(x, o) && !Valid(y, o) {
+		if y := signed(x, r.Intn(10)); exception.Valid(x, o) && !exception.Valid(y, o) {
 			t.Fatalf("%v, %v", x, y)
 		}
 	}
@@ -132,7 +133,7 @@ func TestCovers(t *testing.T) {
 		{md5, 1, "web", 5, true, x}, {md5, 1, "web", 8, true, x}, {md5, 1, "web", 4, false, x}, {md5, 1, "web", 9, false, x},
 		{api.Use{Alg: 2}, 1, "web", 5, false, x}, {md5, 2, "web", 5, false, x}, {md5, 1, "db", 5, false, x}, {api.Use{}, 0, "", 0, true, api.Exception{Days: api.Span{To: 1}}},
 	} {
-		if Covers(y.exception, y.u, y.purpose, y.end, y.day) != y.covers {
+		if exception.Covers(y.exception, y.u, y.purpose, y.end, y.day) != y.covers {
 			t.Errorf("%v", y)
 		}
 	}
@@ -149,7 +150,7 @@ func TestAllowed(t *testing.T) {
 		day  int
 		want bool
 	}{{l, md5, "web", 2, true}, {l, md5, "web", 4, false}, {l, md5, "web", 5, true}, {l, md5, "web", 9, false}, {l, md5, "db", 5, false}, {l[:1], md5, "web", 5, false}, {nil, md5, "web", 5, false}, {nil, api.Use{Alg: 2}, "web", 5, true}} {
-		if ok, e := Allowed(p, x.l, o, x.u, 1, x.end, x.day); ok != x.want || e != api.OK {
+		if ok, e := exception.Allowed(p, x.l, o, x.u, 1, x.end, x.day); ok != x.want || e != api.OK {
 			t.Errorf("%v: %v, %v", x, ok, e)
 		}
 	}
@@ -166,7 +167,7 @@ func TestAllowed(t *testing.T) {
 		{p, []api.Exception{{}}, md5, 1, -1, api.ErrRange},
 		{p, []api.Exception{l[1], {}}, md5, 1, 5, api.ErrException},
 	} {
-		if ok, e := Allowed(x.p, x.l, o, x.u, x.purpose, "web", x.day); ok || e != x.e {
+		if ok, e := exception.Allowed(x.p, x.l, o, x.u, x.purpose, "web", x.day); ok || e != x.e {
 			t.Errorf("%v: %v, %v", x, ok, e)
 		}
 	}
@@ -182,11 +183,11 @@ func TestEnds(t *testing.T) {
 	l := []api.Exception{span(20, 40001, 1), span(9, 12, 1), span(5, 9, 1), span(12, 30, 2), span(6, 7, 1)}
 	l = append(l, api.Exception{Use: md5, Purpose: 1, Endpoint: "web", Days: api.Span{From: 12, To: 50000}})
 	for day, want := range map[int]int{4: 0, 5: 12, 6: 12, 8: 12, 9: 12, 11: 12, 12: 0, 20: 40001, 40000: 40001, 40001: 0, -5: 0} {
-		if n, ok := Ends(l, o, md5, 1, "web", day); n != want || ok != (want > 0) {
+		if n, ok := exception.Ends(l, o, md5, 1, "web", day); n != want || ok != (want > 0) {
 			t.Errorf("%d: %d, %v", day, n, ok)
 		}
 	}
-	if n, ok := Ends(l, o, md5, 1, strings.Repeat("w", 3), 5); n != 0 || ok {
+	if n, ok := exception.Ends(l, o, md5, 1, strings.Repeat("w", 3), 5); n != 0 || ok {
 		t.Error(n, ok)
 	}
 }

@@ -1,4 +1,4 @@
-package executable
+package executable_test
 
 import (
 	"fmt"
@@ -7,6 +7,7 @@ import (
 	"testing"
 
 	"cipherplan/api"
+	"cipherplan/executable"
 )
 
 func image() api.Image {
@@ -32,7 +33,7 @@ func symbols(n int) []api.Symbol {
 }
 
 func TestEncode(t *testing.T) {
-	b, e := Encode(image())
+	b, e := executable.Encode(image())
 	if string(b) != written || e != api.OK {
 		t.Errorf("%q, %v", b, e)
 	}
@@ -55,25 +56,25 @@ func TestEncode(t *testing.T) {
 		"as many bytes":   {api.Image{Sections: sections(1, 4086)}, true},
 		"with long names": {api.Image{Sections: []api.Section{{Name: strings.Repeat("a", 32), Bytes: make([]byte, 4057)}}}, false},
 	} {
-		b, e := Encode(x.i)
-		if c := Check(x.i); (c == api.OK) != x.ok || e != c || !x.ok && (c != api.ErrImage || b != nil) {
+		b, e := executable.Encode(x.i)
+		if c := executable.Check(x.i); (c == api.OK) != x.ok || e != c || !x.ok && (c != api.ErrImage || b != nil) {
 			t.Errorf("%s: %v, %v", name, c, e)
 		}
 		if !x.ok {
 			continue
 		}
-		if i, e := Decode(b); e != api.OK || !Same(i, x.i) {
+		if i, e := executable.Decode(b); e != api.OK || !executable.Same(i, x.i) {
 			t.Errorf("%s: %v, %v", name, i, e)
 		}
 	}
 }
 
 func TestDecode(t *testing.T) {
-	if i, e := Decode([]byte(written)); e != api.OK || !Same(i, image()) {
+	if i, e := executable.Decode([]byte(written)); e != api.OK || !executable.Same(i, image()) {
 		t.Errorf("%v, %v", i, e)
 	}
 	for n := range written {
-		if i, e := Decode([]byte(written[:n])); e != api.ErrForm || !Same(i, api.Image{}) {
+		if i, e := executable.Decode([]byte(written[:n])); e != api.ErrForm || !executable.Same(i, api.Image{}) {
 			t.Errorf("%d bytes: %v, %v", n, i, e)
 		}
 	}
@@ -88,7 +89,7 @@ func TestDecode(t *testing.T) {
 		"twice":       {"\x58\x45\x01\x00\x02\x01a\x00\x00\x00\x00\x01a\x00\x00\x00\x00", api.ErrImage},
 		"17 sections": {"\x58\x45\x01\x11" + strings.Repeat("\x01a\x00\x00", 17) + "\x00", api.ErrImage},
 	} {
-		if i, e := Decode([]byte(x.b)); e != x.e || !Same(i, api.Image{}) {
+		if i, e := executable.Decode([]byte(x.b)); e != x.e || !executable.Same(i, api.Image{}) {
 			t.Errorf("%s: %v, %v", name, i, e)
 		}
 	}
@@ -96,14 +97,14 @@ func TestDecode(t *testing.T) {
 
 func TestSection(t *testing.T) {
 	i := api.Image{Sections: []api.Section{{Name: "a", Bytes: []byte{1}}, {Name: "a", Bytes: []byte{2}}}}
-	b, ok := Section(i, "a")
+	b, ok := executable.Section(i, "a")
 	if !ok || !slices.Equal(b, []byte{1}) {
 		t.Error(b, ok)
 	}
 	if b[0] = 9; i.Sections[0].Bytes[0] != 1 {
 		t.Error("memory is shared")
 	}
-	if b, ok := Section(i, "b"); ok || b != nil {
+	if b, ok := executable.Section(i, "b"); ok || b != nil {
 		t.Error(b, ok)
 	}
 }
@@ -113,7 +114,7 @@ func TestAlgorithms(t *testing.T) {
 	for _, s := range []string{"sha256_x_y", "md5_init", "md5", "md_5", "_md5", "xmd5", "rsa_", "rsa-2048", "MD5_a"} {
 		i.Symbols = append(i.Symbols, api.Symbol{Name: s})
 	}
-	if l := Algorithms(i); !slices.Equal(l, []int{api.MD5, api.SHA256, api.RSA}) {
+	if l := executable.Algorithms(i); !slices.Equal(l, []int{api.MD5, api.SHA256, api.RSA}) {
 		t.Error(l)
 	}
 }
@@ -124,11 +125,11 @@ func TestSame(t *testing.T) {
 		func(i *api.Image) { i.Symbols[1].Name = "x" }, func(i *api.Image) { i.Sections = i.Sections[:1] }, func(i *api.Image) { i.Symbols = nil },
 	} {
 		x := image()
-		if change(&x); Same(x, image()) {
+		if change(&x); executable.Same(x, image()) {
 			t.Errorf("%d", i)
 		}
 	}
-	if !Same(image(), image()) {
+	if !executable.Same(image(), image()) {
 		t.Error("equal ones")
 	}
 }

@@ -1,4 +1,4 @@
-package exposure
+package exposure_test
 
 import (
 	"fmt"
@@ -9,6 +9,7 @@ import (
 	"cipherplan/api"
 	"cipherplan/certificate"
 	"cipherplan/exception"
+	"cipherplan/exposure"
 	"cipherplan/finding"
 	"cipherplan/rule"
 )
@@ -68,7 +69,7 @@ func TestCheck(t *testing.T) {
 	} {
 		e := estate()
 		x.change(&e)
-		if c := Check(e); (c == api.OK) != x.ok || !x.ok && c != api.ErrEstate {
+		if c := exposure.Check(e); (c == api.OK) != x.ok || !x.ok && c != api.ErrEstate {
 			t.Errorf("%s: %v", name, c)
 		}
 	}
@@ -115,13 +116,13 @@ func TestRisks(t *testing.T) {
 		"for other things":  {"forbid md5 for backup", 12, 0, "[{1 1 0}]"},
 		"two items, broken": {"forbid any", 5, 0, "[{1 0 0} {1 1 0} {4 0 0} {4 1 0}]"},
 	} {
-		l, e := Risks(estate(), policy(y.text), []api.Exception{x}, o, y.day, y.weak)
+		l, e := exposure.Risks(estate(), policy(y.text), []api.Exception{x}, o, y.day, y.weak)
 		if fmt.Sprint(l) != y.want || e != api.OK {
 			t.Errorf("%s: %v, %v", name, l, e)
 		}
 		for edge := range 2 {
 			risk := slices.ContainsFunc(l, func(r api.Risk) bool { return r.Kind != api.RiskItem && r.Index == edge })
-			if day, ok, e := First(estate(), policy(y.text), []api.Exception{x}, o, edge, y.weak, []int{y.day}); ok != risk || e != api.OK || ok && day != y.day {
+			if day, ok, e := exposure.First(estate(), policy(y.text), []api.Exception{x}, o, edge, y.weak, []int{y.day}); ok != risk || e != api.OK || ok && day != y.day {
 				t.Errorf("%s: %d, %v, %v", name, day, ok, e)
 			}
 		}
@@ -130,7 +131,7 @@ func TestRisks(t *testing.T) {
 	e := estate()
 	e.Endpoints[2].Suites = []int{2}
 	e.Endpoints[0].Most, e.Endpoints[2].Most = 4, 4
-	if l, _ := Risks(e, policy("forbid rc4"), nil, api.Owners{}, 15, 0); fmt.Sprint(l) != "[{1 0 0} {3 0 2} {3 0 2} {3 0 2} {1 1 0}]" {
+	if l, _ := exposure.Risks(e, policy("forbid rc4"), nil, api.Owners{}, 15, 0); fmt.Sprint(l) != "[{1 0 0} {3 0 2} {3 0 2} {3 0 2} {1 1 0}]" {
 		t.Error(l)
 	}
 }
@@ -153,16 +154,16 @@ func TestRisksErrors(t *testing.T) {
 		"day":       {estate(), api.Policy{}, nil, -1, 0, api.ErrRange, api.ErrNone},
 		"late day":  {estate(), api.Policy{}, nil, 40001, 512, api.ErrRange, api.ErrNone},
 	} {
-		l, e := Risks(x.e, x.p, x.l, api.Owners{}, x.day, x.weak)
-		day, ok, f := First(x.e, x.p, x.l, api.Owners{}, 2, x.weak, []int{x.day})
+		l, e := exposure.Risks(x.e, x.p, x.l, api.Owners{}, x.day, x.weak)
+		day, ok, f := exposure.First(x.e, x.p, x.l, api.Owners{}, 2, x.weak, []int{x.day})
 		if l != nil || e != x.risk || f != x.edge || day != 0 || ok {
 			t.Errorf("%s: %v, %v", name, e, f)
 		}
 	}
-	if _, _, e := First(estate(), api.Policy{}, nil, api.Owners{}, -1, 0, nil); e != api.ErrNone {
+	if _, _, e := exposure.First(estate(), api.Policy{}, nil, api.Owners{}, -1, 0, nil); e != api.ErrNone {
 		t.Error(e)
 	}
-	if _, _, e := First(estate(), api.Policy{}, nil, api.Owners{}, 0, 0, []int{1, 40001}); e != api.ErrRange {
+	if _, _, e := exposure.First(estate(), api.Policy{}, nil, api.Owners{}, 0, 0, []int{1, 40001}); e != api.ErrRange {
 		t.Error(e)
 	}
 }
@@ -174,7 +175,7 @@ func TestFirst(t *testing.T) {
 		day  int
 		ok   bool
 	}{{nil, 0, false}, {[]int{10, 13, 17, 19}, 0, false}, {[]int{19, 16, 15, 5}, 16, true}, {[]int{10, 20, 14}, 20, true}, {[]int{0}, 0, true}} {
-		if day, ok, e := First(estate(), p, nil, api.Owners{}, 0, 0, x.days); day != x.day || ok != x.ok || e != api.OK {
+		if day, ok, e := exposure.First(estate(), p, nil, api.Owners{}, 0, 0, x.days); day != x.day || ok != x.ok || e != api.OK {
 			t.Errorf("%v: %d, %v, %v", x, day, ok, e)
 		}
 	}
@@ -194,13 +195,13 @@ func norm(l ...api.Finding) []api.Finding {
 
 func TestWeak(t *testing.T) {
 	l := norm(f("b", 1, 3, api.FindUse, md5, 0), f("a", 2, 3, api.FindUse, sha, 0), f("a", 2, 4, api.FindUse, md5, 0), f("c", 3, 3, api.FindUse, md5, 0), f("c", 3, 4, api.FindOff, md5, 0), f("c", 3, 4, api.FindKey, rsa, 1))
-	if w, e := Weak(l, 0, 5, 9, policy("forbid md5\nforbid rsa"), 1); fmt.Sprint(w) != "[{0 tls 1 {1 0} 0  1} {2 tls 1 {1 0} 0  2}]" || e != api.OK {
+	if w, e := exposure.Weak(l, 0, 5, 9, policy("forbid md5\nforbid rsa"), 1); fmt.Sprint(w) != "[{0 tls 1 {1 0} 0  1} {2 tls 1 {1 0} 0  2}]" || e != api.OK {
 		t.Error(w, e)
 	}
-	if w, e := Weak(l, 0, 5, 9, policy("forbid md5 for code"), 1); len(w) != 0 || e != api.OK {
+	if w, e := exposure.Weak(l, 0, 5, 9, policy("forbid md5 for code"), 1); len(w) != 0 || e != api.OK {
 		t.Error(w, e)
 	}
-	if w, e := Weak(l, 0, 5, 9, policy("forbid sha256 from 6"), 1); len(w) != 0 || e != api.OK {
+	if w, e := exposure.Weak(l, 0, 5, 9, policy("forbid sha256 from 6"), 1); len(w) != 0 || e != api.OK {
 		t.Error(w, e)
 	}
 }
@@ -216,24 +217,32 @@ func TestFindingErrors(t *testing.T) {
 		"not normal": {append(l, l...), -1, -1, -1, api.ErrFinding}, "gap": {l, -1, 0, 0, api.ErrRange}, "great gap": {l, 4001, 0, 0, api.ErrRange}, "day": {l, 0, -1, 0, api.ErrRange},
 		"late day": {l, 0, 40001, 0, api.ErrRange}, "age": {l, 0, 0, -1, api.ErrRange}, "great age": {l, 0, 0, 4001, api.ErrRange},
 	} {
-		w, e := Weak(x.l, x.gap, x.day, x.age, bad, 0)
-		ok, g := Holds(x.l, x.gap, x.day, x.age, api.Fact{})
-		why, h := Explain(x.l, x.gap, x.day, x.age, api.Fact{})
+		w, e := exposure.Weak(x.l, x.gap, x.day, x.age, bad, 0)
+		ok, g := exposure.Holds(x.l, x.gap, x.day, x.age, api.Fact{})
+		why, h := exposure.Explain(x.l, x.gap, x.day, x.age, api.Fact{})
 		if w != nil || ok || why != nil || e != x.e || g != x.e || h != x.e {
 			t.Errorf("%s: %v, %v, %v", name, e, g, h)
 		}
 	}
-	if w, e := Weak(l, 4000, 40000, 4000, bad, 0); w != nil || e != api.ErrRule {
+	if w, e := exposure.Weak(l, 4000, 40000, 4000, bad, 0); w != nil || e != api.ErrRule {
 		t.Error(w, e)
 	}
 	for _, purpose := range []int{0, 5} {
-		if w, e := Weak(l, 0, 3, 0, api.Policy{}, purpose); w != nil || e != api.ErrRange {
+		if w, e := exposure.Weak(l, 0, 3, 0, api.Policy{}, purpose); w != nil || e != api.ErrRange {
 			t.Error(w, e)
 		}
 	}
-	if why, e := Explain(l, 0, 2, 0, api.Fact{}); why != nil || e != api.ErrNone {
+	if why, e := exposure.Explain(l, 0, 2, 0, api.Fact{}); why != nil || e != api.ErrNone {
 		t.Error(why, e)
 	}
+}
+
+func pick(l []api.Finding, indices []int) []api.Finding {
+	var to []api.Finding
+	for _, i := range indices {
+		to = append(to, l[i])
+	}
+	return to
 }
 
 func TestHoldsAndExplain(t *testing.T) {
@@ -264,8 +273,8 @@ func TestHoldsAndExplain(t *testing.T) {
 		"number":            {named, 9, api.Fact{Subject: "tls", Kind: api.FindLeast, Number: 1, Text: "b"}, "[2]"},
 		"other number":      {named, 9, api.Fact{Subject: "tls", Kind: api.FindLeast, Number: 2, Text: "b"}, ""},
 	} {
-		ok, e := Holds(x.l, 2, x.day, 9, x.f)
-		why, g := Explain(x.l, 2, x.day, 9, x.f)
+		ok, e := exposure.Holds(x.l, 2, x.day, 9, x.f)
+		why, g := exposure.Explain(x.l, 2, x.day, 9, x.f)
 		if ok != (x.why != "") || e != api.OK || ok && (fmt.Sprint(why) != x.why || g != api.OK) || !ok && g != api.ErrNone {
 			t.Errorf("%s: %v, %v, %v, %v", name, ok, e, why, g)
 		}
@@ -282,15 +291,15 @@ func TestExplainIsLeast(t *testing.T) {
 		}
 		l := norm(some...)
 		fact := api.Fact{Subject: "tls", Kind: api.FindUse, Use: md5, Text: []string{"", "a"}[r.Intn(2)]}
-		why, e := Explain(l, 2, 6, 4, fact)
+		why, e := exposure.Explain(l, 2, 6, 4, fact)
 		if e == api.ErrNone {
 			continue
 		}
-		if ok, _ := Holds(pick(l, why), 2, 6, 4, fact); !ok {
+		if ok, _ := exposure.Holds(pick(l, why), 2, 6, 4, fact); !ok {
 			t.Fatalf("%v: %v", l, why)
 		}
 		for i := range why {
-			if ok, _ := Holds(pick(l, slices.Delete(slices.Clone(why), i, i+1)), 2, 6, 4, fact); ok {
+			if ok, _ := exposure.Holds(pick(l, slices.Delete(slices.Clone(why), i, i+1)), 2, 6, 4, fact); ok {
 				t.Fatalf("%v: %v without %d", l, why, i)
 			}
 		}
@@ -302,7 +311,7 @@ func TestExplainMany(t *testing.T) {
 	for i := range 400 {
 		some = append(some, f(fmt.Sprint("h", i), 0, 3, api.FindUse, md5, 0))
 	}
-	if why, e := Explain(norm(some...), 0, 3, 0, api.Fact{Subject: "tls", Kind: api.FindUse, Use: md5}); len(why) != 1 || e != api.OK {
+	if why, e := exposure.Explain(norm(some...), 0, 3, 0, api.Fact{Subject: "tls", Kind: api.FindUse, Use: md5}); len(why) != 1 || e != api.OK {
 		t.Error(why, e)
 	}
 }

@@ -26,14 +26,12 @@ import (
 
 // The first 23 layers together, from files to risks: T1 to T5.
 
-var rsa = api.Use{Alg: api.RSA, Bits: 2048}
-
 func store() []api.Entry {
 	c, _ := certificate.Sign(api.Certificate{Issuer: "root", Subject: "web", Key: rsa, KeyId: 1, Hash: api.Use{Alg: api.SHA256}, From: 10, To: 90, Names: []string{"web"}}, 9)
 	return []api.Entry{{Alias: "k", Key: rsa, KeyId: 1, Secret: true, Chain: []api.Certificate{c}}}
 }
 
-func read(t *testing.T) (api.Endpoint, api.Endpoint) {
+func readBoth(t *testing.T) (api.Endpoint, api.Endpoint) {
 	b, e := keystore.Encode(store())
 	keys, f := keystore.Decode(b)
 	s, _, g := settings.Parse("[app]\nsuites = ecdhe-rsa-aes128-gcm:\\\n rsa-rc4-sha\nmost = 3\nanchors = 9\nhashes = sha256\nfallback = yes\n")
@@ -49,7 +47,7 @@ func read(t *testing.T) (api.Endpoint, api.Endpoint) {
 }
 
 func TestReading(t *testing.T) {
-	client, server := read(t)
+	client, server := readBoth(t)
 	for _, e := range []api.Endpoint{client, server} {
 		aliases := []string{"k"}[:len(e.Identities)]
 		s, _ := endpoint.ToSettings(e, aliases)
@@ -81,7 +79,7 @@ func at(host string, machine, day int) api.Finding {
 }
 
 func TestFindings(t *testing.T) {
-	client, server := read(t)
+	client, server := readBoth(t)
 	a, _ := finding.FromEndpoint(at("app", 1, 20), client)
 	b, _ := finding.FromEndpoint(at("web", 2, 20), server)
 	c, _ := finding.FromUses(at("web", 0, 21), []api.Use{{Alg: api.MD5}})
@@ -119,7 +117,7 @@ func TestFindings(t *testing.T) {
 }
 
 func TestVerdictsAndNegotiation(t *testing.T) {
-	client, server := read(t)
+	client, server := readBoth(t)
 	p, _, _ := rule.Parse("forbid rc4 from 30")
 	o := api.Owners{Keys: []int{5, 6}, Need: 2}
 	x, _ := exception.Sign(api.Exception{Use: api.Use{Alg: api.RC4, Bits: 128}, Purpose: api.PurposeTransport, Endpoint: "web", Days: api.Span{From: 40, To: 50}}, 5)

@@ -1,4 +1,4 @@
-package finding
+package finding_test
 
 import (
 	"fmt"
@@ -8,6 +8,7 @@ import (
 	"testing"
 
 	"cipherplan/api"
+	"cipherplan/finding"
 )
 
 var (
@@ -36,16 +37,16 @@ func TestCheck(t *testing.T) {
 		"kind 0": func(f *api.Finding) { f.Kind = 0 }, "kind 9": func(f *api.Finding) { f.Kind = 9 },
 	} {
 		f := good
-		if change(&f); Check(f) != api.ErrFinding {
-			t.Errorf("%s: %v", name, Check(f))
+		if change(&f); finding.Check(f) != api.ErrFinding {
+			t.Errorf("%s: %v", name, finding.Check(f))
 		}
 	}
 	good.Machine, good.Day, good.Confidence = api.MaxNumber, api.MaxDay, 100
-	if Check(good) != api.OK {
+	if finding.Check(good) != api.OK {
 		t.Error("the greatest numbers")
 	}
 	for _, f := range []api.Finding{of(api.FindUse, md5, 0, ""), of(api.FindOff, rsa, 0, ""), of(api.FindSuite, api.Use{}, 65535, ""), of(api.FindSuite, api.Use{}, 0, ""), of(api.FindKey, rsa, api.MaxKey, ""), of(api.FindMost, api.Use{}, 4, ""), of(api.FindLeast, api.Use{}, 1, ""), of(api.FindTrust, api.Use{}, 0, ""), of(api.FindPeer, api.Use{}, 0, "db")} {
-		if Check(f) != api.OK {
+		if finding.Check(f) != api.OK {
 			t.Errorf("%v", f)
 		}
 	}
@@ -58,7 +59,7 @@ func TestCheck(t *testing.T) {
 		of(api.FindTrust, none, -1, ""), of(api.FindTrust, none, api.MaxKey+1, ""), of(api.FindTrust, md5, 1, ""), of(api.FindTrust, none, 1, "x"),
 		of(api.FindPeer, none, 0, ""), of(api.FindPeer, none, 1, "db"), of(api.FindPeer, md5, 0, "db"), of(api.FindPeer, none, 0, "a b"),
 	} {
-		if Check(f) != api.ErrFinding {
+		if finding.Check(f) != api.ErrFinding {
 			t.Errorf("%v", f)
 		}
 	}
@@ -83,8 +84,8 @@ func TestOrder(t *testing.T) {
 				set(&b, 4)
 			}
 		}
-		if Order(a, b) != -1 || Order(b, a) != 1 || Order(a, a) != 0 {
-			t.Errorf("field %d: %d", i, Order(a, b))
+		if finding.Order(a, b) != -1 || finding.Order(b, a) != 1 || finding.Order(a, a) != 0 {
+			t.Errorf("field %d: %d", i, finding.Order(a, b))
 		}
 	}
 }
@@ -103,16 +104,16 @@ func TestNormAndMerge(t *testing.T) {
 	r := rand.New(rand.NewSource(7))
 	for range 500 {
 		a, b, c := random(r), random(r), random(r)
-		n, e := Norm(a)
-		if e != api.OK || !slices.IsSortedFunc(n, Order) || len(slices.Compact(slices.Clone(n))) != len(n) {
+		n, e := finding.Norm(a)
+		if e != api.OK || !slices.IsSortedFunc(n, finding.Order) || len(slices.Compact(slices.Clone(n))) != len(n) {
 			t.Fatalf("%v: %v, %v", a, n, e)
 		}
-		ab, _ := Merge(a, b)
-		ba, _ := Merge(b, a)
-		abc, _ := Merge(ab, c)
-		bc, _ := Merge(b, c)
-		again, _ := Merge(a, bc)
-		twice, _ := Merge(ab, ab)
+		ab, _ := finding.Merge(a, b)
+		ba, _ := finding.Merge(b, a)
+		abc, _ := finding.Merge(ab, c)
+		bc, _ := finding.Merge(b, c)
+		again, _ := finding.Merge(a, bc)
+		twice, _ := finding.Merge(ab, ab)
 		if !slices.Equal(ab, ba) || !slices.Equal(abc, again) || !slices.Equal(ab, twice) {
 			t.Fatalf("%v, %v, %v", a, b, c)
 		}
@@ -126,16 +127,16 @@ func TestNormAndMerge(t *testing.T) {
 	for i := range 401 {
 		many = append(many, of(api.FindTrust, api.Use{}, 401-i, ""))
 	}
-	if l, e := Norm(many); l != nil || e != api.ErrLimit {
+	if l, e := finding.Norm(many); l != nil || e != api.ErrLimit {
 		t.Error(len(l), e)
 	}
-	if l, e := Norm(append(many, api.Finding{})); l != nil || e != api.ErrFinding {
+	if l, e := finding.Norm(append(many, api.Finding{})); l != nil || e != api.ErrFinding {
 		t.Error(len(l), e)
 	}
-	if l, e := Merge(many[:400], many[:100]); len(l) != 400 || e != api.OK {
+	if l, e := finding.Merge(many[:400], many[:100]); len(l) != 400 || e != api.OK {
 		t.Error(len(l), e)
 	}
-	if l, e := Merge(many[:400], many[400:]); l != nil || e != api.ErrLimit {
+	if l, e := finding.Merge(many[:400], many[400:]); l != nil || e != api.ErrLimit {
 		t.Error(len(l), e)
 	}
 }
@@ -157,66 +158,66 @@ func TestFromEndpoint(t *testing.T) {
 	e := api.Endpoint{Name: "web", Least: 1, Most: 3, Suites: []int{10, 2}, Identities: []api.Identity{{Key: rsa, KeyId: 5}, {Key: rsa, KeyId: 5}}, Anchors: []int{4, 9}, Hashes: []int{1, 3}}
 	odd := at()
 	odd.Kind, odd.Text, odd.Number = 77, "is not looked at", -3
-	l, err := FromEndpoint(odd, e)
+	l, err := finding.FromEndpoint(odd, e)
 	if s := points(l); s != "1 {1 0} 0 1 {3 0} 0 2 {0 0} 2 2 {0 0} 10 3 {5 2048} 5 4 {0 0} 3 5 {0 0} 1 6 {0 0} 4 6 {0 0} 9 " || err != api.OK {
 		t.Error(s, err)
 	}
-	if l, err := FromEndpoint(at(), api.Endpoint{}); l != nil || err != api.ErrEndpoint {
+	if l, err := finding.FromEndpoint(at(), api.Endpoint{}); l != nil || err != api.ErrEndpoint {
 		t.Error(l, err)
 	}
 	odd.Host = ""
-	if l, err := FromEndpoint(odd, api.Endpoint{}); l != nil || err != api.ErrFinding {
+	if l, err := finding.FromEndpoint(odd, api.Endpoint{}); l != nil || err != api.ErrFinding {
 		t.Error(l, err)
 	}
 }
 
 func TestFromStoreAndUses(t *testing.T) {
-	l, err := FromStore(at(), []api.Entry{{Alias: "a", Key: rsa, KeyId: 5}, {Alias: "b", Key: rsa, KeyId: 5}, {Alias: "c", Key: rsa, KeyId: 4}})
+	l, err := finding.FromStore(at(), []api.Entry{{Alias: "a", Key: rsa, KeyId: 5}, {Alias: "b", Key: rsa, KeyId: 5}, {Alias: "c", Key: rsa, KeyId: 4}})
 	if s := points(l); s != "3 {5 2048} 4 3 {5 2048} 5 " || err != api.OK {
 		t.Error(s, err)
 	}
-	if l, err := FromStore(at(), []api.Entry{{}}); l != nil || err != api.ErrKeystore {
+	if l, err := finding.FromStore(at(), []api.Entry{{}}); l != nil || err != api.ErrKeystore {
 		t.Error(l, err)
 	}
-	if l, err := FromStore(api.Finding{}, []api.Entry{{}}); l != nil || err != api.ErrFinding {
+	if l, err := finding.FromStore(api.Finding{}, []api.Entry{{}}); l != nil || err != api.ErrFinding {
 		t.Error(l, err)
 	}
-	l, err = FromUses(at(), []api.Use{rsa, md5, rsa})
+	l, err = finding.FromUses(at(), []api.Use{rsa, md5, rsa})
 	if s := points(l); s != "1 {1 0} 0 1 {5 2048} 0 " || err != api.OK {
 		t.Error(s, err)
 	}
-	if l, err := FromUses(at(), []api.Use{md5, {}}); l != nil || err != api.ErrUse {
+	if l, err := finding.FromUses(at(), []api.Use{md5, {}}); l != nil || err != api.ErrUse {
 		t.Error(l, err)
 	}
-	if l, err := FromUses(api.Finding{}, []api.Use{{}}); l != nil || err != api.ErrFinding {
+	if l, err := finding.FromUses(api.Finding{}, []api.Use{{}}); l != nil || err != api.ErrFinding {
 		t.Error(l, err)
 	}
 	var many []api.Use
 	for i := range 401 {
 		many = append(many, api.Use{Alg: api.RSA, Bits: 512 + i})
 	}
-	if l, err := FromUses(at(), many); l != nil || err != api.ErrLimit {
+	if l, err := finding.FromUses(at(), many); l != nil || err != api.ErrLimit {
 		t.Error(len(l), err)
 	}
 }
 
 func TestFromCapture(t *testing.T) {
 	h := api.Hello{Most: 4, Suites: []int{10}}
-	l, err := FromCapture(at(), h, api.Choice{Version: 3, Suite: 10, KeyId: 5})
+	l, err := finding.FromCapture(at(), h, api.Choice{Version: 3, Suite: 10, KeyId: 5})
 	if s := points(l); s != "1 {17 128} 0 1 {22 0} 0 2 {0 0} 10 4 {0 0} 3 " || err != api.OK {
 		t.Error(s, err)
 	}
-	l, err = FromCapture(at(), h, api.Choice{Version: 3, Suite: 999})
+	l, err = finding.FromCapture(at(), h, api.Choice{Version: 3, Suite: 999})
 	if s := points(l); s != "2 {0 0} 999 4 {0 0} 3 " || err != api.OK {
 		t.Error(s, err)
 	}
-	if l, err := FromCapture(at(), api.Hello{}, api.Choice{Version: 3}); l != nil || err != api.ErrMessage {
+	if l, err := finding.FromCapture(at(), api.Hello{}, api.Choice{Version: 3}); l != nil || err != api.ErrMessage {
 		t.Error(l, err)
 	}
-	if l, err := FromCapture(at(), h, api.Choice{}); l != nil || err != api.ErrMessage {
+	if l, err := finding.FromCapture(at(), h, api.Choice{}); l != nil || err != api.ErrMessage {
 		t.Error(l, err)
 	}
-	if l, err := FromCapture(api.Finding{}, h, api.Choice{}); l != nil || err != api.ErrFinding {
+	if l, err := finding.FromCapture(api.Finding{}, h, api.Choice{}); l != nil || err != api.ErrFinding {
 		t.Error(l, err)
 	}
 }

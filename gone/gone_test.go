@@ -1,4 +1,4 @@
-package gone
+package gone_test
 
 import (
 	"fmt"
@@ -7,6 +7,7 @@ import (
 	"cipherplan/api"
 	"cipherplan/exception"
 	"cipherplan/finding"
+	"cipherplan/gone"
 )
 
 var (
@@ -44,7 +45,7 @@ func TestSpeaks(t *testing.T) {
 		{api.Fact{Kind: api.FindSuite, Number: 2}, api.MD5, false}, {api.Fact{Kind: api.FindSuite, Number: 14}, 0, false}, {api.Fact{Kind: api.FindSuite, Number: 99}, api.RSA, false}, {api.Fact{Kind: api.FindOff, Use: md5}, api.MD5, false},
 		{api.Fact{Kind: api.FindMost, Number: 2, Use: md5}, api.MD5, false}, {api.Fact{Kind: api.FindUse}, 0, false}, {api.Fact{Kind: api.FindUse, Use: api.Use{Alg: 23}}, 23, false},
 	} {
-		if Speaks(x.f, x.alg) != x.want {
+		if gone.Speaks(x.f, x.alg) != x.want {
 			t.Errorf("%v", x)
 		}
 	}
@@ -80,8 +81,8 @@ func TestAllAndGone(t *testing.T) {
 		"unknown suite":      {norm(f("a", 1, 3, api.FindSuite, api.Use{}, 999)), 4, api.RC4, nil, "[]", true},
 		"by finding, sorted": {norm(f("a", 1, 3, api.FindSuite, api.Use{}, 2), f("a", 1, 4, api.FindSuite, api.Use{}, 1), f("a", 1, 5, api.FindUse, rc4, 0)), 6, api.RC4, nil, "[{0 false} {1 false} {2 false}]", false},
 	} {
-		l, e := All(x.l, 0, x.day, 9, x.alg, x.x, o)
-		gone, err := Gone(x.l, 0, x.day, 9, x.alg, x.x, o)
+		l, e := gone.All(x.l, 0, x.day, 9, x.alg, x.x, o)
+		gone, err := gone.Gone(x.l, 0, x.day, 9, x.alg, x.x, o)
 		if fmt.Sprint(l) != x.want || gone != x.gone || e != api.OK || err != api.OK {
 			t.Errorf("%s: %v, %v, %v", name, l, gone, e)
 		}
@@ -89,7 +90,7 @@ func TestAllAndGone(t *testing.T) {
 	sign := except(md5, "a", 4, 5, 1)
 	sign.Purpose = api.PurposeSign
 	sign, _ = exception.Sign(sign, 1)
-	if gone, _ := Gone(two[:1], 0, 4, 9, api.MD5, []api.Exception{sign}, o); gone {
+	if gone, _ := gone.Gone(two[:1], 0, 4, 9, api.MD5, []api.Exception{sign}, o); gone {
 		t.Error("covered for another purpose")
 	}
 }
@@ -113,14 +114,14 @@ func TestErrors(t *testing.T) {
 		"age": {good, 0, 0, -1, 0, nil, api.ErrRange, api.ErrRange}, "great age": {good, 0, 0, 4001, 0, nil, api.ErrRange, api.ErrRange}, "day": {good, 0, -1, 0, 0, nil, api.ErrRange, api.ErrUse}, "late day": {good, 0, 40001, 0, 1, nil, api.ErrRange, api.ErrRange},
 		"algorithm": {good, 0, 0, 0, 0, []api.Exception{{}}, api.ErrUse, api.ErrUse}, "23": {good, 0, 0, 0, 23, []api.Exception{{}}, api.ErrUse, api.ErrUse}, "exception": {good, 0, 0, 0, 1, []api.Exception{{}}, api.ErrException, api.ErrException},
 	} {
-		l, a := All(x.l, x.gap, x.day, x.age, x.alg, x.x, o)
-		ok, b := Gone(x.l, x.gap, x.day, x.age, x.alg, x.x, o)
-		c := Retired(estate(10), x.l, x.gap, x.day, x.age, x.alg, x.x, o)
-		day, found, d := First(x.l, x.gap, x.age, x.alg, x.x, o, []int{x.day})
+		l, a := gone.All(x.l, x.gap, x.day, x.age, x.alg, x.x, o)
+		ok, b := gone.Gone(x.l, x.gap, x.day, x.age, x.alg, x.x, o)
+		c := gone.Retired(estate(10), x.l, x.gap, x.day, x.age, x.alg, x.x, o)
+		day, found, d := gone.First(x.l, x.gap, x.age, x.alg, x.x, o, []int{x.day})
 		if l != nil || ok || day != 0 || found || a != x.e || b != x.e || c != x.e || d != x.first {
 			t.Errorf("%s: %v, %v, %v, %v", name, a, b, c, d)
 		}
-		if e := Retired(bad, x.l, x.gap, x.day, x.age, x.alg, x.x, o); e != api.ErrEstate {
+		if e := gone.Retired(bad, x.l, x.gap, x.day, x.age, x.alg, x.x, o); e != api.ErrEstate {
 			t.Errorf("%s: %v", name, e)
 		}
 	}
@@ -129,7 +130,7 @@ func TestErrors(t *testing.T) {
 		alg  int
 		want api.Errno
 	}{{bad, 0, api.ErrEstate}, {estate(10), 0, api.ErrUse}, {estate(10), 23, api.ErrUse}, {estate(10), -1, api.ErrUse}} {
-		if l, e := Possible(x.e, x.alg); l != nil || e != x.want {
+		if l, e := gone.Possible(x.e, x.alg); l != nil || e != x.want {
 			t.Error(l, e)
 		}
 	}
@@ -137,7 +138,7 @@ func TestErrors(t *testing.T) {
 
 func TestPossibleAndRetired(t *testing.T) {
 	for alg, want := range map[int]string{api.RC4: "[0]", api.RSA: "[0]", api.RSAKX: "[0]", api.ECDHE: "[0]", api.HMACSHA1: "[0]", api.CHACHA: "[]", api.MD5: "[]"} {
-		if l, e := Possible(estate(10, 2), alg); fmt.Sprint(l) != want || e != api.OK {
+		if l, e := gone.Possible(estate(10, 2), alg); fmt.Sprint(l) != want || e != api.OK {
 			t.Errorf("%d: %v, %v", alg, l, e)
 		}
 	}
@@ -148,7 +149,7 @@ func TestPossibleAndRetired(t *testing.T) {
 		x    []api.Exception
 		want api.Errno
 	}{{estate(10, 2), 5, nil, api.ErrMethod}, {estate(10), 4, nil, api.ErrMethod}, {estate(10), 5, nil, api.OK}, {estate(10), 4, []api.Exception{except(rc4, "web", 4, 5, 1)}, api.OK}, {estate(10, 2), 4, []api.Exception{except(rc4, "web", 4, 5, 1)}, api.ErrMethod}} {
-		if e := Retired(x.e, l, 0, x.day, 9, api.RC4, x.x, o); e != x.want {
+		if e := gone.Retired(x.e, l, 0, x.day, 9, api.RC4, x.x, o); e != x.want {
 			t.Errorf("%v: %v", x, e)
 		}
 	}
@@ -160,11 +161,11 @@ func TestFirst(t *testing.T) {
 		days []int
 		want string
 	}{{nil, "0 false"}, {[]int{3, 4, 8}, "0 false"}, {[]int{4, 7, 5, 2}, "7 true"}, {[]int{0}, "0 true"}, {[]int{8, 18}, "18 true"}} {
-		if day, ok, e := First(l, 0, 9, api.MD5, nil, o, x.days); fmt.Sprint(day, ok) != x.want || e != api.OK {
+		if day, ok, e := gone.First(l, 0, 9, api.MD5, nil, o, x.days); fmt.Sprint(day, ok) != x.want || e != api.OK {
 			t.Errorf("%v: %d, %v, %v", x.days, day, ok, e)
 		}
 	}
-	if _, _, e := First(l, 0, 9, api.MD5, nil, o, []int{5, 40001}); e != api.ErrRange {
+	if _, _, e := gone.First(l, 0, 9, api.MD5, nil, o, []int{5, 40001}); e != api.ErrRange {
 		t.Error(e)
 	}
 }

@@ -1,4 +1,4 @@
-package handshake
+package handshake_test
 
 import (
 	"fmt"
@@ -7,6 +7,7 @@ import (
 	"testing"
 
 	"cipherplan/api"
+	"cipherplan/handshake"
 )
 
 var (
@@ -44,31 +45,31 @@ func TestEncodeHello(t *testing.T) {
 		"hash twice": {api.Hello{Most: 1, Suites: []int{1}, Hashes: []int{2, 2}}, ""},
 		"17 hashes":  {api.Hello{Most: 1, Suites: []int{1}, Hashes: upTo(1, 17)}, ""},
 	} {
-		b, e := EncodeHello(x.h)
+		b, e := handshake.EncodeHello(x.h)
 		if string(b) != x.want || (e == api.OK) != (x.want != "") || e != api.OK && e != api.ErrMessage {
 			t.Errorf("%s: %x, %v", name, b, e)
 		}
-		if h, c, n, f := Decode(append(b, 9)); e == api.OK && (!same(h, x.h) || c != (api.Choice{}) || n != len(b) || f != api.OK) {
+		if h, c, n, f := handshake.Decode(append(b, 9)); e == api.OK && (!same(h, x.h) || c != (api.Choice{}) || n != len(b) || f != api.OK) {
 			t.Errorf("%s: %v, %d, %v", name, h, n, f)
 		}
 	}
 	many := api.Hello{Most: 4, Suites: upTo(65520, 16), Hashes: upTo(1, 16)}
-	b, _ := EncodeHello(many)
-	if h, _, n, e := Decode(b); !same(h, many) || n != 52 || e != api.OK {
+	b, _ := handshake.EncodeHello(many)
+	if h, _, n, e := handshake.Decode(b); !same(h, many) || n != 52 || e != api.OK {
 		t.Error(h, n, e)
 	}
 }
 
 func TestEncodeChoice(t *testing.T) {
-	b, e := EncodeChoice(server)
+	b, e := handshake.EncodeChoice(server)
 	if string(b) != "\x02\x03\xff\xff\x80\x00\x00\x00" || e != api.OK {
 		t.Errorf("%x, %v", b, e)
 	}
-	if h, c, n, e := Decode(append(b, 1)); !same(h, api.Hello{}) || c != server || n != 8 || e != api.OK {
+	if h, c, n, e := handshake.Decode(append(b, 1)); !same(h, api.Hello{}) || c != server || n != 8 || e != api.OK {
 		t.Error(c, n, e)
 	}
 	for _, c := range []api.Choice{{Suite: 1}, {Version: 5}, {Version: 1, Suite: 65536}, {Version: 1, Suite: -1}, {Version: 1, KeyId: -1}, {Version: 1, KeyId: api.MaxKey + 1}} {
-		if b, e := EncodeChoice(c); b != nil || e != api.ErrMessage {
+		if b, e := handshake.EncodeChoice(c); b != nil || e != api.ErrMessage {
 			t.Errorf("%v: %v, %v", c, b, e)
 		}
 	}
@@ -90,45 +91,45 @@ func TestDecodeErrors(t *testing.T) {
 		"\x02\x03\xff\xff\x80\x00\x00\x01": api.ErrMessage,
 		"\x02\x00\xff\xff\x00\x00\x00\x01": api.ErrMessage,
 	} {
-		if h, c, n, e := Decode([]byte(b)); e != want || n != 0 || c != (api.Choice{}) || !same(h, api.Hello{}) {
+		if h, c, n, e := handshake.Decode([]byte(b)); e != want || n != 0 || c != (api.Choice{}) || !same(h, api.Hello{}) {
 			t.Errorf("%x: %v, %v, %d, %v", b, h, c, n, e)
 		}
 	}
 }
 
 func TestRecords(t *testing.T) {
-	b, e := Records([]byte("abcde"), 2)
+	b, e := handshake.Records([]byte("abcde"), 2)
 	if string(b) != "\x16\x00\x02ab\x16\x00\x02cd\x16\x00\x01e" || e != api.OK {
 		t.Errorf("%x, %v", b, e)
 	}
-	if m, e := Messages(b); string(m) != "abcde" || e != api.OK {
+	if m, e := handshake.Messages(b); string(m) != "abcde" || e != api.OK {
 		t.Errorf("%q, %v", m, e)
 	}
-	if b, e := Records(nil, 1); len(b) != 0 || e != api.OK {
+	if b, e := handshake.Records(nil, 1); len(b) != 0 || e != api.OK {
 		t.Error(b, e)
 	}
 	for _, x := range []struct {
 		n, size int
 		e       api.Errno
 	}{{5000, 0, api.ErrRange}, {5000, 65536, api.ErrRange}, {4097, 65535, api.ErrLimit}, {4096, 1, api.OK}, {4096, 65535, api.OK}} {
-		b, e := Records(make([]byte, x.n), x.size)
+		b, e := handshake.Records(make([]byte, x.n), x.size)
 		if e != x.e || e != api.OK && b != nil {
 			t.Errorf("%v: %v", x, e)
 		}
-		if m, f := Messages(b); e == api.OK && (len(m) != x.n || f != api.OK) {
+		if m, f := handshake.Messages(b); e == api.OK && (len(m) != x.n || f != api.OK) {
 			t.Errorf("%v: %d, %v", x, len(m), f)
 		}
 	}
 	for b, want := range map[string]api.Errno{"": api.OK, "\x16\x00\x00": api.ErrForm, "\x16\x00": api.ErrForm, "\x16\x00\x02a": api.ErrForm, "\x17\x00\x01a": api.ErrForm, "\x16\x00\x01ab": api.ErrForm, strings.Repeat("x", 4*4096+1): api.ErrLimit} {
-		if m, e := Messages([]byte(b)); e != want || len(m) > 0 {
+		if m, e := handshake.Messages([]byte(b)); e != want || len(m) > 0 {
 			t.Errorf("%.9x: %v, %v", b, m, e)
 		}
 	}
 }
 
 func TestCapture(t *testing.T) {
-	hello, _ := EncodeHello(client)
-	choice, _ := EncodeChoice(server)
+	hello, _ := handshake.EncodeHello(client)
+	choice, _ := handshake.EncodeChoice(server)
 	badHello := append([]byte{1, 9}, hello[2:]...)
 	badChoice := append([]byte{2, 9}, choice[2:]...)
 	for name, x := range map[string]struct {
@@ -151,17 +152,17 @@ func TestCapture(t *testing.T) {
 			all = append(all, b...)
 		}
 		for size := 1; size < 20; size++ {
-			b, _ := Records(all, size)
-			h, c, e := Capture(b)
+			b, _ := handshake.Records(all, size)
+			h, c, e := handshake.Capture(b)
 			if e != x.e || e == api.OK && (!same(h, client) || c != server) || e != api.OK && (!same(h, api.Hello{}) || c != (api.Choice{})) {
 				t.Errorf("%s: %v, %v, %v", name, h, c, e)
 			}
 		}
 	}
-	if _, _, e := Capture([]byte{22}); e != api.ErrForm {
+	if _, _, e := handshake.Capture([]byte{22}); e != api.ErrForm {
 		t.Error(e)
 	}
-	if _, _, e := Capture(make([]byte, 4*4096+1)); e != api.ErrLimit {
+	if _, _, e := handshake.Capture(make([]byte, 4*4096+1)); e != api.ErrLimit {
 		t.Error(e)
 	}
 }
@@ -174,13 +175,13 @@ func TestDecodeAny(t *testing.T) {
 		for i := range b {
 			b[i] = byte(r.Intn(4))
 		}
-		h, c, n, e := Decode(b)
+		h, c, n, e := handshake.Decode(b)
 		if e != api.OK {
 			continue
 		}
-		w, f := EncodeHello(h)
+		w, f := handshake.EncodeHello(h)
 		if b[0] == 2 {
-			w, f = EncodeChoice(c)
+			w, f = handshake.EncodeChoice(c)
 		}
 		if f != api.OK || string(w) != string(b[:n]) {
 			t.Fatalf("%x: %x, %v", b, w, f)

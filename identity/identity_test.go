@@ -1,4 +1,4 @@
-package identity
+package identity_test
 
 import (
 	"fmt"
@@ -8,6 +8,7 @@ import (
 
 	"cipherplan/api"
 	"cipherplan/finding"
+	"cipherplan/identity"
 )
 
 func f(host string, machine, day, number int) api.Finding {
@@ -40,7 +41,7 @@ func TestEntities(t *testing.T) {
 		"two hosts":          {norm(f("a", 0, 1, 0), f("b", 0, 1, 0)), 2, "[{0 [a] [] [0]} {1 [b] [] [1]}]"},
 		"through a machine":  {norm(f("a", 0, 1, 0), f("a", 5, 1, 0), f("b", 0, 9, 0), f("b", 5, 9, 0)), 2, "[{0 [a b] [5] [0 1 2 3]}]"},
 	} {
-		l, e := Entities(x.l, x.gap)
+		l, e := identity.Entities(x.l, x.gap)
 		if fmt.Sprint(l) != x.want || e != api.OK {
 			t.Errorf("%s: %v, %v", name, l, e)
 		}
@@ -63,51 +64,51 @@ func TestErrors(t *testing.T) {
 		"invalid":  {[]api.Finding{{}}, 0, api.ErrFinding},
 		"many":     {make([]api.Finding, 401), 0, api.ErrFinding},
 	} {
-		l, e := Entities(x.l, x.gap)
-		m, g := Names(x.l, x.gap, "a", 3)
-		n, h := Touched(x.l, x.gap, f("a", 0, 0, 0))
+		l, e := identity.Entities(x.l, x.gap)
+		m, g := identity.Names(x.l, x.gap, "a", 3)
+		n, h := identity.Touched(x.l, x.gap, f("a", 0, 0, 0))
 		if e != x.e || g != x.e || h != x.e || e != api.OK && (l != nil || m != nil || n != nil) {
 			t.Errorf("%s: %v, %v, %v", name, e, g, h)
 		}
-		c, e := Clones(x.l)
+		c, e := identity.Clones(x.l)
 		if (e == api.ErrFinding) != (x.e == api.ErrFinding) || e != api.OK && c != nil {
 			t.Errorf("%s: %v", name, e)
 		}
 	}
-	if n, e := Touched(good, 0, api.Finding{Host: "a"}); n != nil || e != api.ErrFinding {
+	if n, e := identity.Touched(good, 0, api.Finding{Host: "a"}); n != nil || e != api.ErrFinding {
 		t.Error(n, e)
 	}
-	if _, e := Touched(good, -1, api.Finding{}); e != api.ErrRange {
+	if _, e := identity.Touched(good, -1, api.Finding{}); e != api.ErrRange {
 		t.Error(e)
 	}
 }
 
 func TestOf(t *testing.T) {
-	l, _ := Entities(norm(f("a", 1, 3, 0), f("b", 2, 3, 0), f("c", 1, 3, 0)), 0)
-	if Of(l, 0) != 0 || Of(l, 1) != 1 || Of(l, 2) != 0 || Of(l, 3) != -1 || Of(nil, 0) != -1 {
+	l, _ := identity.Entities(norm(f("a", 1, 3, 0), f("b", 2, 3, 0), f("c", 1, 3, 0)), 0)
+	if identity.Of(l, 0) != 0 || identity.Of(l, 1) != 1 || identity.Of(l, 2) != 0 || identity.Of(l, 3) != -1 || identity.Of(nil, 0) != -1 {
 		t.Error(l)
 	}
 }
 
 func TestClones(t *testing.T) {
 	l := norm(f("c", 2, 3, 0), f("b", 2, 3, 0), f("b", 2, 3, 1), f("b", 2, 4, 0), f("b", 1, 9, 0), f("a", 1, 9, 0), f("a", 0, 9, 0), f("d", 0, 9, 0), f("e", 3, 1, 0), f("e", 3, 1, 1))
-	if c, e := Clones(l); fmt.Sprint(c) != "[{1 9 [a b]} {2 3 [b c]}]" || e != api.OK {
+	if c, e := identity.Clones(l); fmt.Sprint(c) != "[{1 9 [a b]} {2 3 [b c]}]" || e != api.OK {
 		t.Error(c, e)
 	}
 }
 
 func TestNamesAndTouched(t *testing.T) {
 	l := norm(f("a", 1, 3, 0), f("a", 2, 3, 0), f("a", 1, 4, 0), f("b", 2, 9, 0), f("c", 3, 3, 0), f("c", 4, 3, 0))
-	if n, e := Names(l, 0, "a", 3); fmt.Sprint(n) != "[0 2]" || e != api.OK {
+	if n, e := identity.Names(l, 0, "a", 3); fmt.Sprint(n) != "[0 2]" || e != api.OK {
 		t.Error(n, e)
 	}
-	if n, e := Names(l, 0, "b", 3); len(n) != 0 || e != api.OK {
+	if n, e := identity.Names(l, 0, "b", 3); len(n) != 0 || e != api.OK {
 		t.Error(n, e)
 	}
-	if n, e := Touched(l, 0, f("b", 3, 1, 0)); fmt.Sprint(n) != "[2 4]" || e != api.OK {
+	if n, e := identity.Touched(l, 0, f("b", 3, 1, 0)); fmt.Sprint(n) != "[2 4]" || e != api.OK {
 		t.Error(n, e)
 	}
-	if n, e := Touched(l, 0, f("x", 0, 1, 0)); len(n) != 0 || e != api.OK {
+	if n, e := identity.Touched(l, 0, f("x", 0, 1, 0)); len(n) != 0 || e != api.OK {
 		t.Error(n, e)
 	}
 }
@@ -123,7 +124,7 @@ func TestLateFinding(t *testing.T) {
 		}
 		l = norm(l...)
 		gap, late := r.Intn(4), some()
-		before, _ := Entities(l, gap)
+		before, _ := identity.Entities(l, gap)
 		count := 0
 		for _, e := range before {
 			count += len(e.Findings)
@@ -135,8 +136,8 @@ func TestLateFinding(t *testing.T) {
 			t.Fatalf("%d of %d", count, len(l))
 		}
 		merged, _ := finding.Merge(l, []api.Finding{late})
-		after, _ := Entities(merged, gap)
-		touched, _ := Touched(l, gap, late)
+		after, _ := identity.Entities(merged, gap)
+		touched, _ := identity.Touched(l, gap, late)
 		for _, e := range before {
 			if slices.Contains(touched, e.Number) {
 				continue

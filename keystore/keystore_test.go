@@ -1,4 +1,4 @@
-package keystore
+package keystore_test
 
 import (
 	"fmt"
@@ -7,6 +7,7 @@ import (
 
 	"cipherplan/api"
 	"cipherplan/der"
+	"cipherplan/keystore"
 )
 
 var rsa = api.Use{Alg: api.RSA, Bits: 2048}
@@ -57,11 +58,11 @@ func TestCheck(t *testing.T) {
 		"65":           {func(l []api.Entry) []api.Entry { return many(65) }, api.ErrKeystore},
 	} {
 		l := x.change(store())
-		b, e := Encode(l)
-		if Check(l) != x.e || e != x.e {
-			t.Errorf("%s: %v, %v", name, Check(l), e)
+		b, e := keystore.Encode(l)
+		if keystore.Check(l) != x.e || e != x.e {
+			t.Errorf("%s: %v, %v", name, keystore.Check(l), e)
 		}
-		if m, e := Decode(b); x.e == api.OK && (e != api.OK || !Same(l, m)) {
+		if m, e := keystore.Decode(b); x.e == api.OK && (e != api.OK || !keystore.Same(l, m)) {
 			t.Errorf("%s: %v, %v", name, m, e)
 		}
 	}
@@ -78,14 +79,14 @@ func chainOf(n int) []api.Certificate {
 func TestEncodeBytes(t *testing.T) {
 	l := store()[1:]
 	want, _ := der.Encode(der.List([]api.Value{der.List([]api.Value{der.Text("b"), der.List([]api.Value{der.Int(5), der.Int(2048)}), der.Int(2), der.Bool(true), der.List(nil)})}))
-	if b, e := Encode(l); e != api.OK || string(b) != string(want) {
+	if b, e := keystore.Encode(l); e != api.OK || string(b) != string(want) {
 		t.Errorf("%x, %v", b, e)
 	}
 	l = many(60)
 	for i := range l {
 		l[i].Chain = []api.Certificate{cert(i)}
 	}
-	if b, e := Encode(l); e != api.ErrLimit || b != nil {
+	if b, e := keystore.Encode(l); e != api.ErrLimit || b != nil {
 		t.Errorf("%d bytes, %v", len(b), e)
 	}
 }
@@ -97,9 +98,9 @@ func TestDecodeErrors(t *testing.T) {
 	}
 	two := der.List([]api.Value{der.Int(5), der.Int(2048)})
 	bad := der.List([]api.Value{der.Text("a"), two, der.Int(-1), der.Bool(true), der.List(nil)})
-	badCert, _ := Encode(store()[:1])
+	badCert, _ := keystore.Encode(store()[:1])
 	badCert[strings.Index(string(badCert), "root")] = ' ' // a certificate with a right form
-	wrongCert, _ := Encode(store()[:1])
+	wrongCert, _ := keystore.Encode(store()[:1])
 	wrongCert[strings.Index(string(wrongCert), "root")] = 7
 	for name, x := range map[string]struct {
 		b []byte
@@ -118,7 +119,7 @@ func TestDecodeErrors(t *testing.T) {
 		"bad certificate":   {badCert, api.ErrKeystore},
 		"wrong certificate": {wrongCert, api.ErrForm},
 	} {
-		if l, e := Decode(x.b); e != x.e || l != nil {
+		if l, e := keystore.Decode(x.b); e != x.e || l != nil {
 			t.Errorf("%s: %v, %v", name, l, e)
 		}
 	}
@@ -126,7 +127,7 @@ func TestDecodeErrors(t *testing.T) {
 
 func TestFind(t *testing.T) {
 	l := []api.Entry{entry1("a", 1, cert(1)), entry1("a", 2)}
-	x, ok := Find(l, "a")
+	x, ok := keystore.Find(l, "a")
 	if !ok || x.KeyId != 1 {
 		t.Error(x, ok)
 	}
@@ -134,7 +135,7 @@ func TestFind(t *testing.T) {
 	if l[0].Chain[0].Names[0] != "web" {
 		t.Error("memory is shared")
 	}
-	if x, ok := Find(l, "b"); ok || !Same([]api.Entry{x}, []api.Entry{{}}) {
+	if x, ok := keystore.Find(l, "b"); ok || !keystore.Same([]api.Entry{x}, []api.Entry{{}}) {
 		t.Error(x, ok)
 	}
 }
@@ -142,11 +143,11 @@ func TestFind(t *testing.T) {
 func TestMerge(t *testing.T) {
 	a, b := []api.Entry{entry1("a", 1), entry1("b", 2)}, []api.Entry{entry1("b", 3, cert(3)), entry1("c", 4)}
 	want := []api.Entry{a[0], b[0], b[1]}
-	l, e := Merge(a, b)
-	if e != api.OK || !Same(l, want) {
+	l, e := keystore.Merge(a, b)
+	if e != api.OK || !keystore.Same(l, want) {
 		t.Errorf("%v, %v", l, e)
 	}
-	if m, e := Merge(l, l); e != api.OK || !Same(m, l) {
+	if m, e := keystore.Merge(l, l); e != api.OK || !keystore.Same(m, l) {
 		t.Errorf("%v, %v", m, e)
 	}
 	l[1].Chain[0].Names[0] = "x"
@@ -154,20 +155,20 @@ func TestMerge(t *testing.T) {
 		t.Error("memory is shared")
 	}
 	c := []api.Entry{entry1("a", 9)}
-	ab, _ := Merge(a, b)
-	bc, _ := Merge(b, c)
-	x, _ := Merge(ab, c)
-	if y, _ := Merge(a, bc); !Same(x, y) {
+	ab, _ := keystore.Merge(a, b)
+	bc, _ := keystore.Merge(b, c)
+	x, _ := keystore.Merge(ab, c)
+	if y, _ := keystore.Merge(a, bc); !keystore.Same(x, y) {
 		t.Errorf("%v, %v", x, y)
 	}
-	if l, e := Merge(many(64), []api.Entry{entry1("a", 1)}); e != api.ErrLimit || l != nil {
+	if l, e := keystore.Merge(many(64), []api.Entry{entry1("a", 1)}); e != api.ErrLimit || l != nil {
 		t.Error(e)
 	}
-	if l, e := Merge(many(64), many(3)); e != api.OK || len(l) != 64 {
+	if l, e := keystore.Merge(many(64), many(3)); e != api.OK || len(l) != 64 {
 		t.Error(e)
 	}
 	for _, p := range [][2][]api.Entry{{many(65), nil}, {nil, many(65)}} {
-		if l, e := Merge(p[0], p[1]); e != api.ErrKeystore || l != nil {
+		if l, e := keystore.Merge(p[0], p[1]); e != api.ErrKeystore || l != nil {
 			t.Error(e)
 		}
 	}
@@ -179,11 +180,11 @@ func TestSame(t *testing.T) {
 		func(l []api.Entry) { l[0].Secret = true }, func(l []api.Entry) { l[0].Chain[1].Serial++ }, func(l []api.Entry) { l[0].Chain = l[0].Chain[:1] },
 	} {
 		l := store()
-		if change(l); Same(l, store()) {
+		if change(l); keystore.Same(l, store()) {
 			t.Errorf("%d", i)
 		}
 	}
-	if !Same(store(), store()) || Same(store(), store()[:1]) {
+	if !keystore.Same(store(), store()) || keystore.Same(store(), store()[:1]) {
 		t.Error("same")
 	}
 }

@@ -1,4 +1,4 @@
-package ledger
+package ledger_test
 
 import (
 	"fmt"
@@ -7,6 +7,7 @@ import (
 	"testing"
 
 	"cipherplan/api"
+	"cipherplan/ledger"
 )
 
 func d(day, known, kind, subject, value int) api.Decision {
@@ -25,36 +26,36 @@ func TestCheckAndAdd(t *testing.T) {
 		"negative": {d(5, -1, 3, 2, 1), api.ErrDecision}, "kind 0": {d(5, 7, 0, 2, 1), api.ErrDecision}, "kind 6": {d(5, 7, 6, 2, 1), api.ErrDecision}, "subject": {d(5, 7, 3, 41, 1), api.ErrDecision}, "no subject": {d(5, 7, 3, -1, 1), api.ErrDecision},
 		"value": {d(5, 7, 3, 2, 2), api.ErrDecision}, "-1": {d(5, 7, 3, 2, -1), api.ErrDecision}, "day falls": {d(4, 7, 3, 2, 1), api.ErrOrder}, "known falls": {d(5, 6, 3, 2, 1), api.ErrOrder}, "falls, wrong": {d(4, 7, 3, 2, 2), api.ErrDecision},
 	} {
-		l, e := Add(of(good), x.d)
+		l, e := ledger.Add(of(good), x.d)
 		want := of(good)
 		if x.e == api.OK {
 			want = of(good, x.d)
 		}
-		if !Same(l, want) || e != x.e || Check(of(good, x.d)) != x.e {
+		if !ledger.Same(l, want) || e != x.e || ledger.Check(of(good, x.d)) != x.e {
 			t.Errorf("%s: %v, %v", name, l, e)
 		}
 	}
-	if l, e := Add(api.Ledger{}, good); !Same(l, of(good)) || e != api.OK || Check(api.Ledger{}) != api.OK {
+	if l, e := ledger.Add(api.Ledger{}, good); !ledger.Same(l, of(good)) || e != api.OK || ledger.Check(api.Ledger{}) != api.OK {
 		t.Error(l, e)
 	}
 	first := of(d(5, 7, 3, 2, 1), d(4, 7, 3, 2, 1), d(5, 7, 9, 2, 1))
-	if l, e := Add(first, api.Decision{}); !Same(l, first) || e != api.ErrOrder || Check(first) != api.ErrOrder {
+	if l, e := ledger.Add(first, api.Decision{}); !ledger.Same(l, first) || e != api.ErrOrder || ledger.Check(first) != api.ErrOrder {
 		t.Error(l, e)
 	}
 	full := of(slices.Repeat([]api.Decision{good}, 128)...)
-	if l, e := Add(full, api.Decision{}); !Same(l, full) || e != api.ErrLimit || Check(full) != api.OK {
+	if l, e := ledger.Add(full, api.Decision{}); !ledger.Same(l, full) || e != api.ErrLimit || ledger.Check(full) != api.OK {
 		t.Error(e)
 	}
-	if e := Check(of(make([]api.Decision, 129)...)); e != api.ErrLimit {
+	if e := ledger.Check(of(make([]api.Decision, 129)...)); e != api.ErrLimit {
 		t.Error(e)
 	}
-	if l, e := Add(of(full.Decisions[:127]...), good); !Same(l, full) || e != api.OK {
+	if l, e := ledger.Add(of(full.Decisions[:127]...), good); !ledger.Same(l, full) || e != api.OK {
 		t.Error(e)
 	}
 	room := make([]api.Decision, 1, 5)
 	room[0] = good
-	a, _ := Add(of(room...), d(6, 7, 1, 1, 1))
-	b, _ := Add(of(room...), d(7, 7, 1, 1, 1))
+	a, _ := ledger.Add(of(room...), d(6, 7, 1, 1, 1))
+	b, _ := ledger.Add(of(room...), d(7, 7, 1, 1, 1))
 	if a.Decisions[1].Day != 6 || b.Decisions[1].Day != 7 {
 		t.Error("memory is shared")
 	}
@@ -69,46 +70,46 @@ func TestLatestThenKnown(t *testing.T) {
 		kind, subject, day int
 		want               string
 	}{{3, 2, 0, "{0 0 0 0 0} false"}, {3, 2, 2, "{1 0 3 2 1} true"}, {3, 2, 3, "{3 2 3 2 0} true"}, {3, 2, 40000, "{9 8 3 2 1} true"}, {2, 2, 9, "{3 5 2 2 1} true"}, {3, 4, 8, "{0 0 0 0 0} false"}, {3, 3, 9, "{0 0 0 0 0} false"}} {
-		if got, ok := Latest(some(), x.kind, x.subject, x.day); fmt.Sprint(got, ok) != x.want {
+		if got, ok := ledger.Latest(some(), x.kind, x.subject, x.day); fmt.Sprint(got, ok) != x.want {
 			t.Errorf("%v: %v, %v", x, got, ok)
 		}
 	}
 	for day, want := range map[int][2]int{-1: {0, 0}, 0: {0, 0}, 1: {1, 0}, 3: {3, 5}, 6: {3, 5}, 7: {4, 5}, 9: {6, 9}, 50000: {6, 9}} {
-		l := Then(some(), day)
-		if !Same(l, of(some().Decisions[:want[0]]...)) || Known(some(), day) != want[1] {
-			t.Errorf("%d: %v, %d", day, l, Known(some(), day))
+		l := ledger.Then(some(), day)
+		if !ledger.Same(l, of(some().Decisions[:want[0]]...)) || ledger.Known(some(), day) != want[1] {
+			t.Errorf("%d: %v, %d", day, l, ledger.Known(some(), day))
 		}
 	}
 	l := some()
-	Then(l, 9).Decisions[0].Day = 99
+	ledger.Then(l, 9).Decisions[0].Day = 99
 	if l.Decisions[0].Day != 1 {
 		t.Error("memory is shared")
 	}
 }
 
 func TestChangedDifferSame(t *testing.T) {
-	if l := Changed(some(), 3, 2); fmt.Sprint(l) != "[0 1 4]" || Changed(some(), 1, 1) != nil {
+	if l := ledger.Changed(some(), 3, 2); fmt.Sprint(l) != "[0 1 4]" || ledger.Changed(some(), 1, 1) != nil {
 		t.Error(l)
 	}
-	if l := Changed(of(d(1, 0, 3, 2, 0), d(1, 0, 3, 2, 0)), 3, 2); fmt.Sprint(l) != "[0]" {
+	if l := ledger.Changed(of(d(1, 0, 3, 2, 0), d(1, 0, 3, 2, 0)), 3, 2); fmt.Sprint(l) != "[0]" {
 		t.Error(l)
 	}
 	a := some()
 	for i := range a.Decisions {
 		b := some()
 		b.Decisions[i].Value = 1 - b.Decisions[i].Value
-		if n, ok := Differ(a, b); n != i || !ok || Same(a, b) {
+		if n, ok := ledger.Differ(a, b); n != i || !ok || ledger.Same(a, b) {
 			t.Error(n, ok)
 		}
 		c := of(a.Decisions[:i]...)
-		if n, ok := Differ(a, c); n != i || !ok || Same(a, c) {
+		if n, ok := ledger.Differ(a, c); n != i || !ok || ledger.Same(a, c) {
 			t.Error(n, ok)
 		}
-		if n, ok := Differ(c, a); n != i || !ok {
+		if n, ok := ledger.Differ(c, a); n != i || !ok {
 			t.Error(n, ok)
 		}
 	}
-	if n, ok := Differ(a, some()); n != 0 || ok || !Same(a, some()) {
+	if n, ok := ledger.Differ(a, some()); n != 0 || ok || !ledger.Same(a, some()) {
 		t.Error(n, ok)
 	}
 }
@@ -122,21 +123,21 @@ func TestConsequences(t *testing.T) {
 		for range 20 {
 			day += r.Intn(3)
 			before := l
-			l, _ = Add(l, d(day, 0, 1+r.Intn(2), r.Intn(2), r.Intn(2)))
+			l, _ = ledger.Add(l, d(day, 0, 1+r.Intn(2), r.Intn(2), r.Intn(2)))
 			for past := range day {
-				if !Same(Then(before, past), Then(l, past)) {
+				if !ledger.Same(ledger.Then(before, past), ledger.Then(l, past)) {
 					t.Fatalf("%v", l)
 				}
 				for kind := 1; kind < 3; kind++ {
-					a, ok := Latest(l, kind, 1, past)
-					b, there := Latest(Then(l, past), kind, 1, day)
+					a, ok := ledger.Latest(l, kind, 1, past)
+					b, there := ledger.Latest(ledger.Then(l, past), kind, 1, day)
 					if a != b || ok != there {
 						t.Fatalf("%v", l)
 					}
 				}
 			}
 		}
-		changed := Changed(l, 1, 1)
+		changed := ledger.Changed(l, 1, 1)
 		for i := 1; i < len(changed); i++ {
 			if l.Decisions[changed[i]].Value == l.Decisions[changed[i-1]].Value {
 				t.Fatalf("%v: %v", l, changed)

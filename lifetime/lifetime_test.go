@@ -1,4 +1,4 @@
-package lifetime
+package lifetime_test
 
 import (
 	"fmt"
@@ -6,6 +6,7 @@ import (
 	"testing"
 
 	"cipherplan/api"
+	"cipherplan/lifetime"
 	"cipherplan/rule"
 )
 
@@ -28,6 +29,8 @@ func item(kind int, links ...api.Link) api.Item {
 }
 
 func link(u api.Use, day int) api.Link { return api.Link{Use: u, Day: day} }
+
+func lastDay(i api.Item) int { return i.Links[len(i.Links)-1].Day }
 
 func TestCheck(t *testing.T) {
 	for name, x := range map[string]struct {
@@ -55,24 +58,24 @@ func TestCheck(t *testing.T) {
 	} {
 		i := item(api.ItemSigned, link(md5, 1), link(sha256, 8))
 		x.change(&i)
-		if e := Check(i); (e == api.OK) != x.ok || !x.ok && e != api.ErrItem {
+		if e := lifetime.Check(i); (e == api.OK) != x.ok || !x.ok && e != api.ErrItem {
 			t.Errorf("%s: %v", name, e)
 		}
-		_, e := Links(policy(), i)
-		_, _, f := Fails(policy(), i)
-		_, _, g := Latest(policy(), i)
-		_, h := Renew(policy(), i, api.Use{}, 0)
-		_, _, k := Wanted(policy(), i)
-		if c := Check(i); e != c || f != c || g != c || k != c || c != api.OK && h != c || c == api.OK && h != api.ErrUse {
+		_, e := lifetime.Links(policy(), i)
+		_, _, f := lifetime.Fails(policy(), i)
+		_, _, g := lifetime.Latest(policy(), i)
+		_, h := lifetime.Renew(policy(), i, api.Use{}, 0)
+		_, _, k := lifetime.Wanted(policy(), i)
+		if c := lifetime.Check(i); e != c || f != c || g != c || k != c || c != api.OK && h != c || c == api.OK && h != api.ErrUse {
 			t.Errorf("%s: %v, %v, %v, %v, %v", name, e, f, g, h, k)
 		}
 	}
 	bad := api.Policy{Rules: []api.Rule{{}}}
-	n, e := Links(bad, api.Item{})
-	d, ok, f := Fails(bad, api.Item{})
-	l, may, g := Latest(bad, api.Item{})
-	i, h := Renew(bad, api.Item{}, api.Use{}, 0)
-	w, kept, k := Wanted(bad, api.Item{})
+	n, e := lifetime.Links(bad, api.Item{})
+	d, ok, f := lifetime.Fails(bad, api.Item{})
+	l, may, g := lifetime.Latest(bad, api.Item{})
+	i, h := lifetime.Renew(bad, api.Item{}, api.Use{}, 0)
+	w, kept, k := lifetime.Wanted(bad, api.Item{})
 	if n+d+l+w != 0 || ok || may || kept || i.Name != "" || e != api.ErrRule || f != e || g != e || h != e || k != e {
 		t.Error(e, f, g, h, k)
 	}
@@ -111,9 +114,9 @@ func TestFailsAndLatest(t *testing.T) {
 		"secret, very late":   {item(1, link(sha256, 1), link(md5, 150)), 2, "100 true", "0 false"},
 		"good secret":         {item(1, link(sha384, 1)), 1, "0 false", "0 false"},
 	} {
-		n, e := Links(policy(), x.i)
-		day, ok, f := Fails(policy(), x.i)
-		last, may, g := Latest(policy(), x.i)
+		n, e := lifetime.Links(policy(), x.i)
+		day, ok, f := lifetime.Fails(policy(), x.i)
+		last, may, g := lifetime.Latest(policy(), x.i)
 		if n != x.links || fmt.Sprint(day, ok) != x.fails || fmt.Sprint(last, may) != x.last || e != api.OK || f != api.OK || g != api.OK {
 			t.Errorf("%s: %d, %d %v, %d %v", name, n, day, ok, last, may)
 		}
@@ -121,14 +124,14 @@ func TestFailsAndLatest(t *testing.T) {
 	i := item(2, link(md5, 1))
 	i.Purpose = api.PurposeCode
 	p, _, _ := rule.Parse("forbid md5 for sign")
-	if day, ok, e := Fails(p, i); day != 0 || ok || e != api.OK {
+	if day, ok, e := lifetime.Fails(p, i); day != 0 || ok || e != api.OK {
 		t.Error(day, ok, e)
 	}
 }
 
 func TestRenew(t *testing.T) {
 	i := item(2, link(md5, 1))
-	j, e := Renew(policy(), i, sha256, 8)
+	j, e := lifetime.Renew(policy(), i, sha256, 8)
 	if fmt.Sprint(j.Links) != "[{{1 0} 1} {{3 0} 8}]" || e != api.OK || len(i.Links) != 1 {
 		t.Error(j, e)
 	}
@@ -142,7 +145,7 @@ func TestRenew(t *testing.T) {
 		"use": {full, api.Use{}, 0, api.ErrUse}, "same day": {i, md5, 1, api.ErrDays}, "too late": {i, md5, 40001, api.ErrDays}, "last day": {i, md5, 40000, api.OK},
 		"full": {full, md5, 9, api.ErrLimit}, "full, and late": {full, md5, 40001, api.ErrDays},
 	} {
-		if j, e := Renew(policy(), x.i, x.u, x.day); e != x.e || e != api.OK && j.Name != "" {
+		if j, e := lifetime.Renew(policy(), x.i, x.u, x.day); e != x.e || e != api.OK && j.Name != "" {
 			t.Errorf("%s: %v, %v", name, j, e)
 		}
 	}
@@ -152,12 +155,12 @@ func TestWanted(t *testing.T) {
 	i := item(2, link(md5, 150), link(md5, 160))
 	for purpose, want := range map[int]string{api.PurposeSign: "200 true", api.PurposeBackup: "40000 false", api.PurposeCode: "150 true"} {
 		i.Purpose = purpose
-		if day, ok, e := Wanted(policy(), i); fmt.Sprint(day, ok) != want || e != api.OK {
+		if day, ok, e := lifetime.Wanted(policy(), i); fmt.Sprint(day, ok) != want || e != api.OK {
 			t.Errorf("%d: %d, %v, %v", purpose, day, ok, e)
 		}
 	}
 	i.Purpose, i.Until = api.PurposeSign, 199
-	if day, ok, _ := Wanted(policy(), i); day != 200 || ok {
+	if day, ok, _ := lifetime.Wanted(policy(), i); day != 200 || ok {
 		t.Error(day, ok)
 	}
 }
@@ -169,13 +172,13 @@ func TestConsequences(t *testing.T) {
 	for range 2000 {
 		i := item(1+r.Intn(2), link(uses[r.Intn(3)], r.Intn(60)))
 		for range r.Intn(4) {
-			i, _ = Renew(policy(), i, uses[r.Intn(3)], lastDay(i)+1+r.Intn(60))
+			i, _ = lifetime.Renew(policy(), i, uses[r.Intn(3)], lastDay(i)+1+r.Intn(60))
 		}
-		before, fails, _ := Fails(policy(), i)
-		n, _ := Links(policy(), i)
-		latest, may, _ := Latest(policy(), i)
-		j, _ := Renew(policy(), i, sha384, lastDay(i)+1+r.Intn(60))
-		after, still, _ := Fails(policy(), j)
+		before, fails, _ := lifetime.Fails(policy(), i)
+		n, _ := lifetime.Links(policy(), i)
+		latest, may, _ := lifetime.Latest(policy(), i)
+		j, _ := lifetime.Renew(policy(), i, sha384, lastDay(i)+1+r.Intn(60))
+		after, still, _ := lifetime.Fails(policy(), j)
 		switch {
 		case i.Kind == api.ItemSecret:
 			if fails && (!still || after > before) {

@@ -1,4 +1,4 @@
-package need
+package need_test
 
 import (
 	"fmt"
@@ -7,7 +7,8 @@ import (
 	"testing"
 
 	"cipherplan/api"
-	"cipherplan/graph"
+	"cipherplan/need"
+	"cipherplan/order"
 )
 
 func estate() api.Estate {
@@ -27,7 +28,7 @@ func TestRank(t *testing.T) {
 		{api.AddAnchor, 5, 0}, {api.AddHash, 3, 0}, {api.AddIdentity, 0, 1}, {api.AddSuite, 5, 2}, {api.SetMost, 4, 2}, {api.SetMost, 2, 3}, {api.SetMost, 3, 3}, {api.SetLeast, 1, 2}, {api.SetLeast, 3, 3},
 		{api.SetLeast, 2, 3}, {api.SetFallback, 1, 2}, {api.SetFallback, 0, 3}, {api.SetFallback, 2, 3}, {api.SetOrder, 0, 2}, {api.SetOrder, 1, 2}, {api.DropSuite, 1, 3}, {api.DropIdentity, 1, 3}, {api.DropAnchor, 1, 3}, {api.DropHash, 1, 3}, {0, 0, 3}, {13, 1, 3}, {-1, 1, 3},
 	} {
-		if n := Rank(e, api.Change{Kind: x.kind, Number: x.number}); n != x.want {
+		if n := need.Rank(e, api.Change{Kind: x.kind, Number: x.number}); n != x.want {
 			t.Errorf("%v: %d", x, n)
 		}
 	}
@@ -36,7 +37,7 @@ func TestRank(t *testing.T) {
 func TestDerive(t *testing.T) {
 	l := []api.Change{{Endpoint: 1, Kind: api.DropSuite}, {Endpoint: 0, Kind: api.AddAnchor}, {Endpoint: 1, Kind: api.AddIdentity}, {Endpoint: 0, Kind: api.DropSuite}, {Endpoint: 2, Kind: api.AddSuite}, {Endpoint: 0, Kind: api.AddAnchor}}
 	want := "[{1 0} {1 2} {1 3} {2 0} {2 3} {2 4} {4 0} {5 0} {5 2} {5 3}]"
-	if r, err := Derive(estate(), l); fmt.Sprint(r) != want || err != api.OK || graph.Check(len(l), r) != api.OK {
+	if r, err := need.Derive(estate(), l); fmt.Sprint(r) != want || err != api.OK || order.Check(len(l), r) != api.OK {
 		t.Error(r, err)
 	}
 	for _, x := range []struct {
@@ -44,7 +45,7 @@ func TestDerive(t *testing.T) {
 		l    []api.Change
 		want api.Errno
 	}{{bad(), make([]api.Change, 25), api.ErrEstate}, {estate(), slices.Repeat([]api.Change{{Endpoint: 9}}, 25), api.ErrLimit}, {estate(), []api.Change{{}, {Endpoint: 3}}, api.ErrChange}, {estate(), []api.Change{{Endpoint: -1}}, api.ErrChange}, {estate(), make([]api.Change, 24), api.OK}} {
-		if r, err := Derive(x.e, x.l); r != nil || err != x.want {
+		if r, err := need.Derive(x.e, x.l); r != nil || err != x.want {
 			t.Error(r, err)
 		}
 	}
@@ -54,7 +55,7 @@ func r(first, then int) api.Required { return api.Required{First: first, Then: t
 
 func TestUnion(t *testing.T) {
 	a, b := []api.Required{r(2, 1), r(0, 1), r(2, 1)}, []api.Required{r(2, 0), r(0, 1)}
-	if l := Union(a, b); fmt.Sprint(l) != "[{0 1} {2 0} {2 1}]" || !slices.Equal(l, Union(b, a)) || !slices.Equal(l, Union(l, l)) || Union(nil, nil) != nil {
+	if l := need.Union(a, b); fmt.Sprint(l) != "[{0 1} {2 0} {2 1}]" || !slices.Equal(l, need.Union(b, a)) || !slices.Equal(l, need.Union(l, l)) || need.Union(nil, nil) != nil {
 		t.Error(l)
 	}
 	if a[0] != r(2, 1) {
@@ -78,10 +79,15 @@ func TestReduce(t *testing.T) {
 		"order":    {2, []api.Required{r(1, 0), r(0, 1)}, "[]", api.ErrOrder},
 		"loop":     {2, []api.Required{r(0, 1), r(1, 0)}, "[]", api.ErrLoop},
 	} {
-		if l, err := Reduce(x.n, x.l); fmt.Sprint(l) != x.want || err != x.err {
+		if l, err := need.Reduce(x.n, x.l); fmt.Sprint(l) != x.want || err != x.err {
 			t.Errorf("%s: %v, %v", name, l, err)
 		}
 	}
+}
+
+func closure(l []api.Required) []api.Required {
+	to, _ := order.Closure(7, l)
+	return to
 }
 
 // From Reduce the same follows, and not from a part of it; what Derive returns leads nowhere back.
@@ -92,16 +98,16 @@ func TestReduceIsLeast(t *testing.T) {
 		for range 7 {
 			changes = append(changes, api.Change{Endpoint: rnd.Intn(3), Kind: 1 + rnd.Intn(12), Number: 1})
 		}
-		l, _ := Derive(estate(), changes)
-		if graph.Check(7, l) != api.OK {
+		l, _ := need.Derive(estate(), changes)
+		if order.Check(7, l) != api.OK {
 			t.Fatalf("%v", l)
 		}
-		least, _ := Reduce(7, l)
-		if graph.Reach(least) != graph.Reach(l) {
+		least, _ := need.Reduce(7, l)
+		if !slices.Equal(closure(least), closure(l)) {
 			t.Fatalf("%v: %v", l, least)
 		}
 		for i := range least {
-			if graph.Reach(slices.Delete(slices.Clone(least), i, i+1)) == graph.Reach(l) {
+			if slices.Equal(closure(slices.Delete(slices.Clone(least), i, i+1)), closure(l)) {
 				t.Fatalf("%v: %v", l, least)
 			}
 		}
@@ -109,10 +115,10 @@ func TestReduceIsLeast(t *testing.T) {
 }
 
 func TestChain(t *testing.T) {
-	if l := Chain([]int{2, 0, 1}); fmt.Sprint(l) != "[{0 1} {2 0}]" {
+	if l := need.Chain([]int{2, 0, 1}); fmt.Sprint(l) != "[{0 1} {2 0}]" {
 		t.Error(l)
 	}
-	if Chain(nil) != nil || Chain([]int{3}) != nil {
+	if need.Chain(nil) != nil || need.Chain([]int{3}) != nil {
 		t.Error("no requirements")
 	}
 }
@@ -124,14 +130,14 @@ func TestWhy(t *testing.T) {
 		want string
 		err  api.Errno
 	}{{r(0, 1), "[0 1]", api.OK}, {r(1, 0), "[0 1]", api.OK}, {r(2, 1), "[2]", api.OK}, {r(0, 2), "[]", api.OK}, {r(1, 3), "[]", api.OK}, {r(0, 5), "[]", api.ErrNeed}, {r(-1, 4), "[]", api.ErrNeed}, {r(0, 4), "[]", api.ErrChange}, {r(4, 0), "[]", api.ErrChange}} {
-		if to, err := Why(estate(), l, x.r); fmt.Sprint(to) != x.want || err != x.err {
+		if to, err := need.Why(estate(), l, x.r); fmt.Sprint(to) != x.want || err != x.err {
 			t.Errorf("%v: %v, %v", x.r, to, err)
 		}
 	}
-	if _, err := Why(bad(), make([]api.Change, 25), r(0, 99)); err != api.ErrEstate {
+	if _, err := need.Why(bad(), make([]api.Change, 25), r(0, 99)); err != api.ErrEstate {
 		t.Error(err)
 	}
-	if _, err := Why(estate(), make([]api.Change, 25), r(0, 99)); err != api.ErrLimit {
+	if _, err := need.Why(estate(), make([]api.Change, 25), r(0, 99)); err != api.ErrLimit {
 		t.Error(err)
 	}
 }

@@ -1,4 +1,4 @@
-package negotiate
+package negotiate_test
 
 import (
 	"fmt"
@@ -8,6 +8,7 @@ import (
 
 	"cipherplan/api"
 	"cipherplan/certificate"
+	"cipherplan/negotiate"
 )
 
 var rsa = api.Use{Alg: api.RSA, Bits: 2048}
@@ -59,11 +60,11 @@ func TestChoose(t *testing.T) {
 		if x.change != nil {
 			x.change(&x.c, &x.s)
 		}
-		if o, e := Choose(x.c, x.s, 15); o != x.want || e != x.e {
+		if o, e := negotiate.Choose(x.c, x.s, 15); o != x.want || e != x.e {
 			t.Errorf("%s: %v, %v", name, o, e)
 		}
 	}
-	if _, e := Choose(client(10), server(10), 20); e != api.ErrTrust {
+	if _, e := negotiate.Choose(client(10), server(10), 20); e != api.ErrTrust {
 		t.Error(e)
 	}
 }
@@ -85,15 +86,15 @@ func TestWith(t *testing.T) {
 		"5":            {15, 5, nil, api.Outcome{}, api.ErrRange},
 		"nothing":      {15, 3, nil, api.Outcome{}, api.ErrNoSuite},
 	} {
-		if o, e := With(c, s, x.day, x.most, x.suites); o != x.want || e != x.e {
+		if o, e := negotiate.With(c, s, x.day, x.most, x.suites); o != x.want || e != x.e {
 			t.Errorf("%s: %v, %v", name, o, e)
 		}
 	}
 	c.Least = 3
-	if _, e := With(c, s, 15, 2, c.Suites); e != api.ErrNoVersion {
+	if _, e := negotiate.With(c, s, 15, 2, c.Suites); e != api.ErrNoVersion {
 		t.Error(e)
 	}
-	if _, e := With(api.Endpoint{}, s, -1, 9, nil); e != api.ErrEndpoint {
+	if _, e := negotiate.With(api.Endpoint{}, s, -1, 9, nil); e != api.ErrEndpoint {
 		t.Error(e)
 	}
 }
@@ -102,21 +103,21 @@ func TestIdentityAndUses(t *testing.T) {
 	s := server(10)
 	s.Identities = []api.Identity{identity(api.Use{Alg: api.ECDSA, Bits: 256}, 2), identity(rsa, 1), identity(api.Use{Alg: api.RSA, Bits: 4096}, 3)}
 	for suite, want := range map[int]int{10: 1, 1: 1, 9: 0, 14: 0, 4: -1, 0: -1, 17: -1} {
-		if i, ok := Identity(s, suite); i != want || ok != (want >= 0) {
+		if i, ok := negotiate.Identity(s, suite); i != want || ok != (want >= 0) {
 			t.Errorf("%d: %d, %v", suite, i, ok)
 		}
 	}
 	for suite, want := range map[int]string{10: "[{12 256} {5 2048} {17 128} {22 0}]", 1: "[{10 2048} {5 2048} {14 128} {19 0}]", 9: "[{12 256} {7 256} {16 256} {21 0}]", 16: "[{13 768} {7 256} {17 256} {22 0}]"} {
-		if l, e := Uses(s, api.Outcome{Version: 3, Suite: suite}); fmt.Sprint(l) != want || e != api.OK {
+		if l, e := negotiate.Uses(s, api.Outcome{Version: 3, Suite: suite}); fmt.Sprint(l) != want || e != api.OK {
 			t.Errorf("%d: %v, %v", suite, l, e)
 		}
 	}
 	for suite, want := range map[int]api.Errno{4: api.ErrNone, 17: api.ErrSuite} {
-		if l, e := Uses(s, api.Outcome{Suite: suite}); l != nil || e != want {
+		if l, e := negotiate.Uses(s, api.Outcome{Suite: suite}); l != nil || e != want {
 			t.Errorf("%d: %v, %v", suite, l, e)
 		}
 	}
-	if l, e := Uses(api.Endpoint{}, api.Outcome{Suite: 17}); l != nil || e != api.ErrEndpoint {
+	if l, e := negotiate.Uses(api.Endpoint{}, api.Outcome{Suite: 17}); l != nil || e != api.ErrEndpoint {
 		t.Error(l, e)
 	}
 }
@@ -124,10 +125,10 @@ func TestIdentityAndUses(t *testing.T) {
 func TestCommon(t *testing.T) {
 	c, s := client(14, 10, 8, 1, 9), server(1, 8, 9, 10, 14)
 	c.Least, c.Most, s.Most = 2, 4, 4
-	if l := Common(c, s); fmt.Sprint(l) != "[{2 1} {2 8} {3 8} {3 10} {4 14}]" {
+	if l := negotiate.Common(c, s); fmt.Sprint(l) != "[{2 1} {2 8} {3 8} {3 10} {4 14}]" {
 		t.Error(l)
 	}
-	if Common(api.Endpoint{}, s) != nil || Common(c, api.Endpoint{}) != nil {
+	if negotiate.Common(api.Endpoint{}, s) != nil || negotiate.Common(c, api.Endpoint{}) != nil {
 		t.Error("endpoints that are none")
 	}
 }
@@ -155,8 +156,8 @@ func TestConsequences(t *testing.T) {
 	r := rand.New(rand.NewSource(13))
 	for range 3000 {
 		c, s := random(r)
-		o, e := Choose(c, s, 15)
-		common := Common(c, s)
+		o, e := negotiate.Choose(c, s, 15)
+		common := negotiate.Common(c, s)
 		if e == api.OK && !slices.Contains(common, o) {
 			t.Fatalf("%v, %v: %v is not in %v", c, s, o, common)
 		}
@@ -167,7 +168,7 @@ func TestConsequences(t *testing.T) {
 			d := c
 			d.Suites = slices.Clone(c.Suites)
 			r.Shuffle(len(d.Suites), func(i, j int) { d.Suites[i], d.Suites[j] = d.Suites[j], d.Suites[i] })
-			if p, _ := Choose(d, s, 15); p != o {
+			if p, _ := negotiate.Choose(d, s, 15); p != o {
 				t.Fatalf("%v, %v: %v, %v", c, s, o, p)
 			}
 		}

@@ -1,4 +1,4 @@
-package order
+package order_test
 
 import (
 	"fmt"
@@ -7,10 +7,21 @@ import (
 	"testing"
 
 	"cipherplan/api"
-	"cipherplan/graph"
+	"cipherplan/order"
 )
 
 func r(first, then int) api.Required { return api.Required{First: first, Then: then} }
+
+// set returns the indices of the bits that are set.
+func set(bits int) api.Set {
+	var s api.Set
+	for i := range 24 {
+		if bits>>i&1 == 1 {
+			s = append(s, i)
+		}
+	}
+	return s
+}
 
 func TestCheckAndClosure(t *testing.T) {
 	for name, x := range map[string]struct {
@@ -29,19 +40,19 @@ func TestCheckAndClosure(t *testing.T) {
 		"twice":    {2, []api.Required{r(0, 1), r(0, 1)}, "[]", api.ErrOrder},
 		"loop":     {3, []api.Required{r(0, 1), r(1, 2), r(2, 0)}, "[]", api.ErrLoop},
 	} {
-		l, e := Closure(x.n, x.l)
-		if fmt.Sprint(l) != x.want || e != x.e || Check(x.n, x.l) != x.e {
-			t.Errorf("%s: %v, %v, %v", name, l, e, Check(x.n, x.l))
+		l, e := order.Closure(x.n, x.l)
+		if fmt.Sprint(l) != x.want || e != x.e || order.Check(x.n, x.l) != x.e {
+			t.Errorf("%s: %v, %v, %v", name, l, e, order.Check(x.n, x.l))
 		}
 		if x.e == api.OK {
 			continue
 		}
-		ok, a := Closed(x.n, x.l, api.Set{99})
-		s, b := Sets(x.n, x.l)
-		c, d := Ready(x.n, x.l, api.Set{99})
-		f, g := Removable(x.n, x.l, api.Set{99})
-		h, i := First(x.n, x.l)
-		j, k := Part(x.n, x.l, api.Set{99})
+		ok, a := order.Closed(x.n, x.l, api.Set{99})
+		s, b := order.Sets(x.n, x.l)
+		c, d := order.Ready(x.n, x.l, api.Set{99})
+		f, g := order.Removable(x.n, x.l, api.Set{99})
+		h, i := order.First(x.n, x.l)
+		j, k := order.Part(x.n, x.l, api.Set{99})
 		if ok || s != nil || c != nil || f != nil || h != nil || j != nil || a != x.e || b != x.e || d != x.e || g != x.e || i != x.e || k != x.e {
 			t.Errorf("%s: %v %v %v %v %v %v", name, a, b, d, g, i, k)
 		}
@@ -49,26 +60,26 @@ func TestCheckAndClosure(t *testing.T) {
 }
 
 func TestSets(t *testing.T) {
-	if l, e := Sets(3, []api.Required{r(0, 1)}); fmt.Sprint(l) != "[[] [0] [2] [0 1] [0 2] [0 1 2]]" || e != api.OK {
+	if l, e := order.Sets(3, []api.Required{r(0, 1)}); fmt.Sprint(l) != "[[] [0] [2] [0 1] [0 2] [0 1 2]]" || e != api.OK {
 		t.Error(l, e)
 	}
-	if l, e := Sets(0, nil); fmt.Sprint(l) != "[[]]" || e != api.OK {
+	if l, e := order.Sets(0, nil); fmt.Sprint(l) != "[[]]" || e != api.OK {
 		t.Error(l, e)
 	}
-	if l, e := Sets(12, nil); len(l) != 4096 || e != api.OK {
+	if l, e := order.Sets(12, nil); len(l) != 4096 || e != api.OK {
 		t.Error(len(l), e)
 	}
-	if l, e := Sets(13, nil); l != nil || e != api.ErrLimit {
+	if l, e := order.Sets(13, nil); l != nil || e != api.ErrLimit {
 		t.Error(len(l), e)
 	}
-	if l, e := Sets(24, nil); l != nil || e != api.ErrLimit {
+	if l, e := order.Sets(24, nil); l != nil || e != api.ErrLimit {
 		t.Error(len(l), e)
 	}
 	var row []api.Required
 	for i := range 23 {
 		row = append(row, r(i, i+1))
 	}
-	if l, e := Sets(24, row); len(l) != 25 || len(l[24]) != 24 || e != api.OK {
+	if l, e := order.Sets(24, row); len(l) != 25 || len(l[24]) != 24 || e != api.OK {
 		t.Error(len(l), e)
 	}
 }
@@ -84,9 +95,9 @@ func TestClosedReadyRemovable(t *testing.T) {
 		{nil, true, "[0 3 4]", "[]", api.OK}, {api.Set{0}, true, "[1 3 4]", "[0]", api.OK}, {api.Set{0, 1, 3}, true, "[2 4]", "[1 3]", api.OK}, {api.Set{0, 1, 2, 3, 4}, true, "[]", "[1 2 4]", api.OK},
 		{api.Set{1}, false, "[]", "[]", api.OK}, {api.Set{0, 2}, false, "[]", "[]", api.OK}, {api.Set{1, 0}, false, "[]", "[]", api.ErrSet}, {api.Set{0, 0}, false, "[]", "[]", api.ErrSet}, {api.Set{5}, false, "[]", "[]", api.ErrSet}, {api.Set{-1, 0}, false, "[]", "[]", api.ErrSet},
 	} {
-		ok, e := Closed(5, l, x.s)
-		ready, f := Ready(5, l, x.s)
-		removable, g := Removable(5, l, x.s)
+		ok, e := order.Closed(5, l, x.s)
+		ready, f := order.Ready(5, l, x.s)
+		removable, g := order.Removable(5, l, x.s)
 		want := api.OK
 		if !x.closed {
 			want = api.ErrSet
@@ -98,10 +109,10 @@ func TestClosedReadyRemovable(t *testing.T) {
 }
 
 func TestFirst(t *testing.T) {
-	if s, e := First(5, []api.Required{r(1, 0), r(3, 1), r(4, 2)}); fmt.Sprint(s) != "[3 1 0 4 2]" || e != api.OK {
+	if s, e := order.First(5, []api.Required{r(1, 0), r(3, 1), r(4, 2)}); fmt.Sprint(s) != "[3 1 0 4 2]" || e != api.OK {
 		t.Error(s, e)
 	}
-	if s, e := First(24, nil); len(s) != 24 || s[23] != 23 || e != api.OK {
+	if s, e := order.First(24, nil); len(s) != 24 || s[23] != 23 || e != api.OK {
 		t.Error(s, e)
 	}
 }
@@ -113,7 +124,7 @@ func TestPart(t *testing.T) {
 		want string
 		e    api.Errno
 	}{{api.Set{0, 4}, "[{0 1}]", api.OK}, {api.Set{0, 1, 2, 3, 4}, "[{0 2} {0 4} {2 4} {3 1}]", api.OK}, {api.Set{1, 3}, "[{1 0}]", api.OK}, {nil, "[]", api.OK}, {api.Set{4, 0}, "[]", api.ErrSet}, {api.Set{5}, "[]", api.ErrSet}} {
-		if p, e := Part(5, l, x.s); fmt.Sprint(p) != x.want || e != x.e {
+		if p, e := order.Part(5, l, x.s); fmt.Sprint(p) != x.want || e != x.e {
 			t.Errorf("%v: %v, %v", x.s, p, e)
 		}
 	}
@@ -133,14 +144,14 @@ func TestConsequences(t *testing.T) {
 				}
 			}
 		}
-		slices.SortFunc(l, graph.Compare)
-		sets, e := Sets(n, l)
+		slices.SortFunc(l, func(a, b api.Required) int { return (a.First-b.First)*100 + a.Then - b.Then })
+		sets, e := order.Sets(n, l)
 		if e != api.OK {
 			t.Fatal(l, e)
 		}
 		count := 0
 		for bits := range 1 << n {
-			if ok, _ := Closed(n, l, mask(bits).set()); ok {
+			if ok, _ := order.Closed(n, l, set(bits)); ok {
 				count++
 			}
 		}
@@ -148,23 +159,23 @@ func TestConsequences(t *testing.T) {
 			t.Fatalf("%v: %v", l, sets)
 		}
 		for _, s := range sets {
-			ready, _ := Ready(n, l, s)
+			ready, _ := order.Ready(n, l, s)
 			for _, i := range ready {
 				more := append(slices.Clone(s), i)
 				slices.Sort(more)
-				removable, _ := Removable(n, l, more)
-				if ok, _ := Closed(n, l, more); !ok || !slices.Contains(removable, i) {
+				removable, _ := order.Removable(n, l, more)
+				if ok, _ := order.Closed(n, l, more); !ok || !slices.Contains(removable, i) {
 					t.Fatalf("%v: %v", l, more)
 				}
 			}
 		}
-		part := mask(rnd.Intn(1 << n))
-		of, _ := Part(n, l, part.set())
-		small, _ := Sets(len(part.set()), of)
+		part := set(rnd.Intn(1 << n))
+		of, _ := order.Part(n, l, part)
+		small, _ := order.Sets(len(part), of)
 		common := map[string]bool{}
 		for _, s := range sets {
 			var both api.Set
-			for place, i := range part.set() {
+			for place, i := range part {
 				if slices.Contains(s, i) {
 					both = append(both, place)
 				}
@@ -174,10 +185,10 @@ func TestConsequences(t *testing.T) {
 		if len(common) != len(small) {
 			t.Fatalf("%v of %v: %v", part, l, small)
 		}
-		first, _ := First(n, l)
+		first, _ := order.First(n, l)
 		for i := range first {
 			begin := slices.Sorted(slices.Values(first[:i]))
-			if ok, _ := Closed(n, l, begin); !ok {
+			if ok, _ := order.Closed(n, l, begin); !ok {
 				t.Fatalf("%v: %v", l, first)
 			}
 		}

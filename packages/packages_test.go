@@ -1,4 +1,4 @@
-package packages
+package packages_test
 
 import (
 	"fmt"
@@ -6,25 +6,26 @@ import (
 	"testing"
 
 	"cipherplan/api"
+	"cipherplan/packages"
 )
 
 func TestVersion(t *testing.T) {
 	for s, want := range map[string]string{"0": "[0]", "1.10": "[1 10]", "1.2.3.99999": "[1 2 3 99999]"} {
-		v, e := Version(s)
+		v, e := packages.Version(s)
 		if fmt.Sprint(v) != want || e != api.OK {
 			t.Errorf("%q: %v, %v", s, v, e)
 		}
-		if u, e := Text(v); u != s || e != api.OK {
+		if u, e := packages.Text(v); u != s || e != api.OK {
 			t.Errorf("%v: %q, %v", v, u, e)
 		}
 	}
 	for _, s := range []string{"", ".", "1.", ".1", "1..2", "01", "1.2.3.4.5", "100000", "-1", "1 ", "a", "1.99999999999999999999"} {
-		if v, e := Version(s); v != nil || e != api.ErrVersion {
+		if v, e := packages.Version(s); v != nil || e != api.ErrVersion {
 			t.Errorf("%q: %v, %v", s, v, e)
 		}
 	}
 	for _, v := range [][]int{nil, {1, 2, 3, 4, 5}, {-1}, {100000}} {
-		if s, e := Text(v); s != "" || e != api.ErrVersion {
+		if s, e := packages.Text(v); s != "" || e != api.ErrVersion {
 			t.Errorf("%v: %q, %v", v, s, e)
 		}
 	}
@@ -35,8 +36,8 @@ func TestCompare(t *testing.T) {
 		a, b []int
 		want int
 	}{{[]int{1, 10}, []int{1, 9}, 1}, {[]int{1, 2}, []int{1, 2, 0}, 0}, {[]int{1, 2}, []int{1, 2, 0, 1}, -1}, {[]int{2}, []int{1, 99}, 1}} {
-		if Compare(x.a, x.b) != x.want || Compare(x.b, x.a) != -x.want {
-			t.Errorf("%v, %v: %d", x.a, x.b, Compare(x.a, x.b))
+		if packages.Compare(x.a, x.b) != x.want || packages.Compare(x.b, x.a) != -x.want {
+			t.Errorf("%v, %v: %d", x.a, x.b, packages.Compare(x.a, x.b))
 		}
 	}
 }
@@ -44,12 +45,12 @@ func TestCompare(t *testing.T) {
 func TestIn(t *testing.T) {
 	r := api.Range{Low: []int{1, 2}, High: []int{2}}
 	for s, want := range map[string]bool{"1.2": true, "1.99": true, "2.0": false, "1.1.9": false, "1.2.0.0": true} {
-		v, _ := Version(s)
-		if In(r, v) != want {
+		v, _ := packages.Version(s)
+		if packages.In(r, v) != want {
 			t.Errorf("%s: %v", s, !want)
 		}
 	}
-	if !In(api.Range{}, []int{0}) || !In(api.Range{Low: []int{1}}, []int{9}) || In(api.Range{High: []int{1}}, []int{1}) {
+	if !packages.In(api.Range{}, []int{0}) || !packages.In(api.Range{Low: []int{1}}, []int{9}) || packages.In(api.Range{High: []int{1}}, []int{1}) {
 		t.Error("without bounds")
 	}
 }
@@ -98,21 +99,21 @@ func TestCheck(t *testing.T) {
 		"a name twice": {func(l []api.Package) []api.Package { l[0].Name = "lib"; return l }, api.ErrOrder},
 	} {
 		l := x.change(list())
-		m, e := Missing(l)
-		r, f := Reach(l, "none")
-		u, g := Uses(l, []api.Known{{Range: api.Range{Low: []int{-1}}}}, "none")
-		if c := Check(l); c != x.e || e != x.e || x.e != api.OK && (m != nil || f != x.e || g != x.e) || x.e == api.OK && (f != api.ErrNone || g != api.ErrNone) || r != nil || u != nil {
+		m, e := packages.Missing(l)
+		r, f := packages.Reach(l, "none")
+		u, g := packages.Uses(l, []api.Known{{Range: api.Range{Low: []int{-1}}}}, "none")
+		if c := packages.Check(l); c != x.e || e != x.e || x.e != api.OK && (m != nil || f != x.e || g != x.e) || x.e == api.OK && (f != api.ErrNone || g != api.ErrNone) || r != nil || u != nil {
 			t.Errorf("%s: %v, %v, %v, %v", name, c, e, f, g)
 		}
 	}
 }
 
 func TestMissingAndReach(t *testing.T) {
-	if l, e := Missing(list()); fmt.Sprint(l) != "[old tls]" || e != api.OK {
+	if l, e := packages.Missing(list()); fmt.Sprint(l) != "[old tls]" || e != api.OK {
 		t.Errorf("%v, %v", l, e)
 	}
 	for name, want := range map[string]string{"app": "[app lib math tls]", "lib": "[lib math]", "math": "[lib math]", "tls": "[tls]", "old": "[app lib math old tls]"} {
-		if l, e := Reach(list(), name); fmt.Sprint(l) != want || e != api.OK {
+		if l, e := packages.Reach(list(), name); fmt.Sprint(l) != want || e != api.OK {
 			t.Errorf("%s: %v, %v", name, l, e)
 		}
 	}
@@ -127,18 +128,18 @@ func TestUses(t *testing.T) {
 		{Name: "old", Uses: []api.Use{{Alg: api.CHACHA}}},
 		{Name: "none", Uses: []api.Use{{Alg: api.CHACHA}}},
 	}
-	if l, e := Uses(list(), k, "app"); fmt.Sprint(l) != "[{1 0} {5 1024} {5 2048}]" || e != api.OK {
+	if l, e := packages.Uses(list(), k, "app"); fmt.Sprint(l) != "[{1 0} {5 1024} {5 2048}]" || e != api.OK {
 		t.Errorf("%v, %v", l, e)
 	}
-	if l, e := Uses(list(), k, "lib"); fmt.Sprint(l) != "[{1 0} {5 2048}]" || e != api.OK {
+	if l, e := packages.Uses(list(), k, "lib"); fmt.Sprint(l) != "[{1 0} {5 2048}]" || e != api.OK {
 		t.Errorf("%v, %v", l, e)
 	}
 	k = append(k, api.Known{Name: "x", Uses: []api.Use{{}}})
-	if l, e := Uses(list(), k, "lib"); l != nil || e != api.ErrUse {
+	if l, e := packages.Uses(list(), k, "lib"); l != nil || e != api.ErrUse {
 		t.Errorf("%v, %v", l, e)
 	}
 	k = append(k, api.Known{Name: "x", Range: api.Range{High: []int{-1}}})
-	if l, e := Uses(list(), k, "lib"); l != nil || e != api.ErrVersion {
+	if l, e := packages.Uses(list(), k, "lib"); l != nil || e != api.ErrVersion {
 		t.Errorf("%v, %v", l, e)
 	}
 }

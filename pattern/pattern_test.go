@@ -1,4 +1,4 @@
-package pattern
+package pattern_test
 
 import (
 	"bytes"
@@ -9,6 +9,7 @@ import (
 	"testing"
 
 	"cipherplan/api"
+	"cipherplan/pattern"
 )
 
 func patterns(l ...string) []api.Pattern {
@@ -33,12 +34,12 @@ func TestCheck(t *testing.T) {
 		"no use":    {[]api.Pattern{{Bytes: []byte("a")}}, false},
 		"wrong use": {[]api.Pattern{{Use: api.Use{Alg: api.RSA, Bits: 5}, Bytes: []byte("a")}}, false},
 	} {
-		if e := Check(x.p); (e == api.OK) != x.ok || !x.ok && e != api.ErrPattern {
+		if e := pattern.Check(x.p); (e == api.OK) != x.ok || !x.ok && e != api.ErrPattern {
 			t.Errorf("%s: %v", name, e)
 		}
-		hits, e := Find(x.p, make([]byte, 5000))
-		first, f := First(x.p, make([]byte, 5000))
-		if uses, g := Uses(x.p, api.Image{Sections: []api.Section{{}}}); !x.ok && (e != api.ErrPattern || f != api.ErrPattern || g != api.ErrPattern) || x.ok && (e != api.ErrLimit || f != api.ErrLimit || g != api.ErrImage) || hits != nil || first != nil || uses != nil {
+		hits, e := pattern.Find(x.p, make([]byte, 5000))
+		first, f := pattern.First(x.p, make([]byte, 5000))
+		if uses, g := pattern.Uses(x.p, api.Image{Sections: []api.Section{{}}}); !x.ok && (e != api.ErrPattern || f != api.ErrPattern || g != api.ErrPattern) || x.ok && (e != api.ErrLimit || f != api.ErrLimit || g != api.ErrImage) || hits != nil || first != nil || uses != nil {
 			t.Errorf("%s: %v, %v, %v", name, e, f, g)
 		}
 	}
@@ -46,22 +47,22 @@ func TestCheck(t *testing.T) {
 
 func TestFind(t *testing.T) {
 	p := patterns("she", "he", "hers", "his", "he", "s")
-	hits, e := Find(p, []byte("ushers"))
+	hits, e := pattern.Find(p, []byte("ushers"))
 	if want := "[{0 1} {5 1} {1 2} {2 2} {4 2} {5 5}]"; fmt.Sprint(hits) != want || e != api.OK {
 		t.Errorf("%v, %v", hits, e)
 	}
-	l, e := First(p, []byte("ushers"))
+	l, e := pattern.First(p, []byte("ushers"))
 	if fmt.Sprint(l) != "[1 2 2 -1 2 1]" || e != api.OK {
 		t.Errorf("%v, %v", l, e)
 	}
 	p = patterns("a")
-	if hits, e := Find(p, bytes.Repeat([]byte("a"), 1000)); len(hits) != 1000 || e != api.OK {
+	if hits, e := pattern.Find(p, bytes.Repeat([]byte("a"), 1000)); len(hits) != 1000 || e != api.OK {
 		t.Error(len(hits), e)
 	}
-	if hits, e := Find(p, bytes.Repeat([]byte("a"), 1001)); hits != nil || e != api.ErrLimit {
+	if hits, e := pattern.Find(p, bytes.Repeat([]byte("a"), 1001)); hits != nil || e != api.ErrLimit {
 		t.Error(len(hits), e)
 	}
-	if l, e := First(p, bytes.Repeat([]byte("a"), 4096)); fmt.Sprint(l) != "[0]" || e != api.OK {
+	if l, e := pattern.First(p, bytes.Repeat([]byte("a"), 4096)); fmt.Sprint(l) != "[0]" || e != api.OK {
 		t.Error(l, e)
 	}
 }
@@ -94,8 +95,8 @@ func TestFindAll(t *testing.T) {
 				}
 			}
 		}
-		hits, e := Find(p, b)
-		l, f := First(p, b)
+		hits, e := pattern.Find(p, b)
+		l, f := pattern.First(p, b)
 		if e != api.OK || f != api.OK || !slices.Equal(hits, want) || !slices.Equal(l, first) {
 			t.Fatalf("%v in %q: %v, %v", p, b, hits, l)
 		}
@@ -107,7 +108,7 @@ func TestUses(t *testing.T) {
 	p[1].Use, p[4].Use = api.Use{Alg: api.RSA, Bits: 2048}, api.Use{Alg: api.RSA, Bits: 1024}
 	p = append(p, p[1])
 	i := api.Image{Sections: []api.Section{{Name: "1", Bytes: []byte("bbx")}, {Name: "2", Bytes: []byte("yacd")}}}
-	l, e := Uses(p, i)
+	l, e := pattern.Uses(p, i)
 	if fmt.Sprint(l) != "[{3 0} {4 0} {5 1024} {5 2048}]" || e != api.OK {
 		t.Errorf("%v, %v", l, e)
 	}
@@ -115,7 +116,7 @@ func TestUses(t *testing.T) {
 
 func TestPrefix(t *testing.T) {
 	for s, want := range map[string]string{"": "[]", "a": "[0]", "abab": "[0 0 1 2]", "aaa": "[0 1 2]", "aabaaab": "[0 1 0 1 2 2 3]"} {
-		if got := fmt.Sprint(Prefix([]byte(s))); got != want {
+		if got := fmt.Sprint(pattern.Prefix([]byte(s))); got != want {
 			t.Errorf("%q: %s", s, got)
 		}
 	}

@@ -1,4 +1,4 @@
-package plan
+package plan_test
 
 import (
 	"fmt"
@@ -7,8 +7,8 @@ import (
 	"testing"
 
 	"cipherplan/api"
-	"cipherplan/graph"
 	"cipherplan/order"
+	"cipherplan/plan"
 )
 
 func w(from, to int, teams ...int) api.Window {
@@ -35,7 +35,7 @@ func changes(at ...int) []api.Change {
 }
 
 func TestTeams(t *testing.T) {
-	if l, e := Teams(calendar(), changes(2, 0, 1)); fmt.Sprint(l) != "[1 0 0]" || e != api.OK {
+	if l, e := plan.Teams(calendar(), changes(2, 0, 1)); fmt.Sprint(l) != "[1 0 0]" || e != api.OK {
 		t.Error(l, e)
 	}
 	bad := calendar()
@@ -45,11 +45,11 @@ func TestTeams(t *testing.T) {
 		l []api.Change
 		e api.Errno
 	}{{bad, make([]api.Change, 25), api.ErrForm}, {calendar(), slices.Repeat(changes(9), 25), api.ErrLimit}, {calendar(), changes(0, 3), api.ErrChange}, {calendar(), changes(-1), api.ErrChange}} {
-		if l, e := Teams(x.c, x.l); l != nil || e != x.e {
+		if l, e := plan.Teams(x.c, x.l); l != nil || e != x.e {
 			t.Error(l, e)
 		}
 	}
-	if l, e := Teams(calendar(), make([]api.Change, 24)); len(l) != 24 || e != api.OK {
+	if l, e := plan.Teams(calendar(), make([]api.Change, 24)); len(l) != 24 || e != api.OK {
 		t.Error(l, e)
 	}
 }
@@ -78,7 +78,7 @@ func TestCheck(t *testing.T) {
 		"window":   {estate(), api.Plan{Changes: changes(0, 2), Days: []int{0, 12}}, api.ErrWindow},
 		"full":     {estate(), api.Plan{Changes: changes(0, 1), Days: []int{0, 4}}, api.ErrFull},
 	} {
-		if e := Check(x.e, calendar(), x.p); e != x.want {
+		if e := plan.Check(x.e, calendar(), x.p); e != x.want {
 			t.Errorf("%s: %v", name, e)
 		}
 	}
@@ -86,10 +86,10 @@ func TestCheck(t *testing.T) {
 
 func TestOrderDueLast(t *testing.T) {
 	p := api.Plan{Changes: changes(0, 0, 0, 0), Required: []api.Required{r(1, 0), r(2, 3)}, Days: []int{7, 3, 3, 9}}
-	if l := Order(p); fmt.Sprint(l) != "[1 2 0 3]" || Order(api.Plan{}) != nil {
+	if l := plan.Order(p); fmt.Sprint(l) != "[1 2 0 3]" || plan.Order(api.Plan{}) != nil {
 		t.Error(l)
 	}
-	if Last(p) != 9 || Last(api.Plan{}) != -1 {
+	if plan.Last(p) != 9 || plan.Last(api.Plan{}) != -1 {
 		t.Error("last")
 	}
 	for _, x := range []struct {
@@ -98,7 +98,7 @@ func TestOrderDueLast(t *testing.T) {
 		want string
 		e    api.Errno
 	}{{nil, 2, "[]", api.OK}, {nil, 3, "[1 2]", api.OK}, {nil, 99, "[1 2]", api.OK}, {api.Set{1}, 6, "[2]", api.OK}, {api.Set{1}, 7, "[0 2]", api.OK}, {api.Set{1, 2}, 9, "[0 3]", api.OK}, {api.Set{0}, 9, "[]", api.ErrSet}, {api.Set{2, 1}, 9, "[]", api.ErrSet}, {api.Set{4}, 9, "[]", api.ErrSet}} {
-		if s, e := Due(p, x.done, x.day); fmt.Sprint(s) != x.want || e != x.e {
+		if s, e := plan.Due(p, x.done, x.day); fmt.Sprint(s) != x.want || e != x.e {
 			t.Errorf("%v: %v, %v", x, s, e)
 		}
 	}
@@ -126,27 +126,27 @@ func TestSchedule(t *testing.T) {
 		"change":         {changes(7), []api.Required{r(0, 1), r(1, 0)}, 0, "[]", api.ErrChange},
 		"no requirement": {changes(0), []api.Required{r(0, 1)}, 0, "[]", api.ErrNeed},
 	} {
-		p, e := Schedule(estate(), calendar(), x.l, x.r, x.from)
-		if fmt.Sprint(p.Days) != x.want || e != x.e || e != api.OK && !Same(p, api.Plan{}) {
+		p, e := plan.Schedule(estate(), calendar(), x.l, x.r, x.from)
+		if fmt.Sprint(p.Days) != x.want || e != x.e || e != api.OK && !plan.Same(p, api.Plan{}) {
 			t.Errorf("%s: %v, %v", name, p, e)
 		}
-		if e == api.OK && (!Same(p, api.Plan{Changes: x.l, Required: x.r, Days: p.Days}) || Check(estate(), calendar(), p) != api.OK) {
+		if e == api.OK && (!plan.Same(p, api.Plan{Changes: x.l, Required: x.r, Days: p.Days}) || plan.Check(estate(), calendar(), p) != api.OK) {
 			t.Errorf("%s: %v", name, p)
 		}
 	}
 	bad := estate()
 	bad.Endpoints[0].Least = 0
-	if _, e := Schedule(bad, api.Calendar{}, nil, nil, 0); e != api.ErrEstate {
+	if _, e := plan.Schedule(bad, api.Calendar{}, nil, nil, 0); e != api.ErrEstate {
 		t.Error(e)
 	}
-	if _, e := Schedule(estate(), api.Calendar{}, make([]api.Change, 30), nil, 0); e != api.ErrForm {
+	if _, e := plan.Schedule(estate(), api.Calendar{}, make([]api.Change, 30), nil, 0); e != api.ErrForm {
 		t.Error(e)
 	}
 }
 
 func TestSame(t *testing.T) {
 	a := api.Plan{Changes: changes(0), Required: []api.Required{r(0, 1)}, Days: []int{1}}
-	if !Same(a, a) || Same(a, api.Plan{Changes: a.Changes, Required: a.Required}) || Same(a, api.Plan{Changes: a.Changes, Days: a.Days}) || Same(a, api.Plan{Changes: changes(1), Required: a.Required, Days: a.Days}) {
+	if !plan.Same(a, a) || plan.Same(a, api.Plan{Changes: a.Changes, Required: a.Required}) || plan.Same(a, api.Plan{Changes: a.Changes, Days: a.Days}) || plan.Same(a, api.Plan{Changes: changes(1), Required: a.Required, Days: a.Days}) {
 		t.Error("same")
 	}
 }
@@ -167,17 +167,17 @@ func TestConsequences(t *testing.T) {
 				}
 			}
 		}
-		slices.SortFunc(needs, graph.Compare)
-		p, e := Schedule(estate(), calendar(), l, needs, rnd.Intn(6))
+		slices.SortFunc(needs, func(a, b api.Required) int { return (a.First-b.First)*100 + a.Then - b.Then })
+		p, e := plan.Schedule(estate(), calendar(), l, needs, rnd.Intn(6))
 		if e == api.ErrNoPlan {
 			continue
 		}
-		if Check(estate(), calendar(), p) != api.OK {
-			t.Fatalf("%v: %v", p, Check(estate(), calendar(), p))
+		if plan.Check(estate(), calendar(), p) != api.OK {
+			t.Fatalf("%v: %v", p, plan.Check(estate(), calendar(), p))
 		}
 		var done api.Set
 		for day := range 15 {
-			due, _ := Due(p, done, day)
+			due, _ := plan.Due(p, done, day)
 			for _, i := range due {
 				done = append(done, i)
 				slices.Sort(done)

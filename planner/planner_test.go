@@ -1,4 +1,4 @@
-package planner
+package planner_test
 
 import (
 	"fmt"
@@ -11,6 +11,7 @@ import (
 	"cipherplan/change"
 	"cipherplan/estate"
 	"cipherplan/plan"
+	"cipherplan/planner"
 	"cipherplan/proof"
 	"cipherplan/rule"
 )
@@ -64,14 +65,14 @@ func TestGood(t *testing.T) {
 		"none": {nil, 5, 90, true}, "one": {api.Set{2}, 5, 90, true}, "too early": {api.Set{1, 2}, 5, 90, false}, "all": {api.Set{1, 2, 3}, 5, 90, true}, "no state": {api.Set{0, 1, 2, 3}, 5, 290, true},
 		"until": {nil, 5, 100, false}, "turned": {nil, 6, 5, false}, "drop": {api.Set{0}, 5, 90, false},
 	} {
-		if ok, err := Good(world(), renew(), x.s, x.from, x.to); ok != x.want || err != api.OK {
+		if ok, err := planner.Good(world(), renew(), x.s, x.from, x.to); ok != x.want || err != api.OK {
 			t.Errorf("%s: %v, %v", name, ok, err)
 		}
 	}
-	if ok, err := Good(world(), []api.Change{anchor(0, 9)}, api.Set{0}, 5, 90); ok || err != api.OK {
+	if ok, err := planner.Good(world(), []api.Change{anchor(0, 9)}, api.Set{0}, 5, 90); ok || err != api.OK {
 		t.Error(ok, err)
 	}
-	if ok, err := Good(api.Estate{}, nil, nil, 6, 5); !ok || err != api.OK {
+	if ok, err := planner.Good(api.Estate{}, nil, nil, 6, 5); !ok || err != api.OK {
 		t.Error(ok, err)
 	}
 	for _, x := range []struct {
@@ -81,10 +82,10 @@ func TestGood(t *testing.T) {
 		from int
 		want api.Errno
 	}{{bad(), 25, api.Set{30}, -1, api.ErrEstate}, {world(), 25, api.Set{30}, -1, api.ErrLimit}, {world(), 24, api.Set{24}, -1, api.ErrSet}, {world(), 24, api.Set{1, 1}, -1, api.ErrSet}, {world(), 24, api.Set{-1}, 0, api.ErrSet}, {world(), 24, nil, -1, api.ErrRange}, {world(), 24, nil, 40001, api.ErrRange}} {
-		if ok, err := Good(x.e, make([]api.Change, x.n), x.s, x.from, 9); ok || err != x.want {
+		if ok, err := planner.Good(x.e, make([]api.Change, x.n), x.s, x.from, 9); ok || err != x.want {
 			t.Error(ok, err)
 		}
-		if ok, err := Good(world(), nil, nil, 9, x.from); x.want == api.ErrRange && (ok || err != x.want) {
+		if ok, err := planner.Good(world(), nil, nil, 9, x.from); x.want == api.ErrRange && (ok || err != x.want) {
 			t.Error(ok, err)
 		}
 	}
@@ -108,11 +109,11 @@ func TestSequence(t *testing.T) {
 		"to":          {nil, 0, 40001, "[]", api.ErrRange},
 		"unnamed":     {[]api.Change{anchor(9, 8)}, 5, 90, "[]", api.ErrNoPlan},
 	} {
-		if l, err := Sequence(world(), x.l, x.from, x.to); fmt.Sprint(l) != x.want || err != x.e {
+		if l, err := planner.Sequence(world(), x.l, x.from, x.to); fmt.Sprint(l) != x.want || err != x.e {
 			t.Errorf("%s: %v, %v", name, l, err)
 		}
 	}
-	if _, err := Sequence(bad(), make([]api.Change, 11), -1, 0); err != api.ErrEstate {
+	if _, err := planner.Sequence(bad(), make([]api.Change, 11), -1, 0); err != api.ErrEstate {
 		t.Error(err)
 	}
 	var ten []api.Change
@@ -120,7 +121,7 @@ func TestSequence(t *testing.T) {
 		ten = append(ten, anchor(i%2, 20+i))
 	}
 	ten[9] = add // never possible: all sets are tried
-	if l, err := Sequence(world(), ten, 5, 90); l != nil || err != api.ErrNoPlan {
+	if l, err := planner.Sequence(world(), ten, 5, 90); l != nil || err != api.ErrNoPlan {
 		t.Error(l, err)
 	}
 }
@@ -141,7 +142,7 @@ func TestSequenceIsLeast(t *testing.T) {
 			}
 			ok := true
 			for i := range 5 {
-				good, _ := Good(world(), l, slices.Sorted(slices.Values(row[:i])), 5, 90)
+				good, _ := planner.Good(world(), l, slices.Sorted(slices.Values(row[:i])), 5, 90)
 				ok = ok && good
 			}
 			if ok {
@@ -149,7 +150,7 @@ func TestSequenceIsLeast(t *testing.T) {
 				found++
 			}
 		}
-		got, err := Sequence(world(), l, 5, 90)
+		got, err := planner.Sequence(world(), l, 5, 90)
 		if (err == api.OK) != (want != "") || err == api.OK && fmt.Sprint(got) != want {
 			t.Fatalf("%v: %v, %v, want %s", l, got, err, want)
 		}
@@ -179,7 +180,7 @@ func TestMake(t *testing.T) {
 		"too long":   {nil, api.Policy{}, 100, "[]", "[]", api.ErrNoPlan},
 		"versions":   {down, api.Policy{}, 90, "[{2 0} {2 1}]", "[5 5 1]", api.OK},
 	} {
-		p, f, err := Make(world(), calendar(), x.l, x.p, nil, api.Owners{}, 1, x.to)
+		p, f, err := planner.Make(world(), calendar(), x.l, x.p, nil, api.Owners{}, 1, x.to)
 		if fmt.Sprint(p.Required) != x.required || fmt.Sprint(p.Days) != x.days || err != x.e {
 			t.Errorf("%s: %v, %v, %v", name, p.Required, p.Days, err)
 		}
@@ -205,12 +206,12 @@ func versions() (api.Estate, []api.Change) {
 // Where the ranks are of no use: both changes have the same one, but only one order keeps the edges.
 func TestMakeBySequence(t *testing.T) {
 	e, l := versions()
-	p, f, err := Make(e, calendar(), l, api.Policy{}, nil, api.Owners{}, 1, 90)
+	p, f, err := planner.Make(e, calendar(), l, api.Policy{}, nil, api.Owners{}, 1, 90)
 	if fmt.Sprint(p.Required, p.Days) != "[{1 0}] [5 1]" || err != api.OK || proof.Check(e, p, 1, 90, f) != api.OK {
 		t.Error(p.Required, p.Days, err)
 	}
 	forbid, _, _ := rule.Parse("forbid aesgcm")
-	if p, f, err := Make(e, calendar(), l, forbid, nil, api.Owners{}, 1, 90); err != api.ErrNoPlan || len(f.Cases) > 0 {
+	if p, f, err := planner.Make(e, calendar(), l, forbid, nil, api.Owners{}, 1, 90); err != api.ErrNoPlan || len(f.Cases) > 0 {
 		t.Error(p, err)
 	}
 }
@@ -224,10 +225,10 @@ func TestMakeAsGiven(t *testing.T) {
 	l = []api.Change{{Endpoint: 2, Kind: api.AddIdentity, Identity: identity(2, 8, 5, 300)}, l[1], l[0]}
 	c := calendar()
 	c.Windows = c.Windows[1:]
-	if _, err := Sequence(e, l, 1, 90); err != api.ErrNoPlan {
+	if _, err := planner.Sequence(e, l, 1, 90); err != api.ErrNoPlan {
 		t.Error(err)
 	}
-	p, f, err := Make(e, c, l, api.Policy{}, nil, api.Owners{}, 1, 90)
+	p, f, err := planner.Make(e, c, l, api.Policy{}, nil, api.Owners{}, 1, 90)
 	if fmt.Sprint(p.Required, p.Days) != "[{0 1} {1 2}] [5 10 15]" || err != api.OK || proof.Check(e, p, 1, 90, f) != api.OK {
 		t.Error(p.Required, p.Days, err)
 	}
@@ -235,7 +236,7 @@ func TestMakeAsGiven(t *testing.T) {
 	for i := range 8 {
 		many = append(many, anchor(0, 30+i))
 	}
-	if _, _, err := Make(e, c, many, api.Policy{}, nil, api.Owners{}, 1, 90); err != api.ErrNoPlan {
+	if _, _, err := planner.Make(e, c, many, api.Policy{}, nil, api.Owners{}, 1, 90); err != api.ErrNoPlan {
 		t.Error(err)
 	}
 }
@@ -262,7 +263,7 @@ func TestMakeErrors(t *testing.T) {
 		"from":      {world(), calendar(), nil, api.Policy{}, nil, -1, 0, api.ErrRange},
 		"to":        {world(), calendar(), nil, api.Policy{}, nil, 0, 40001, api.ErrRange},
 	} {
-		if p, f, err := Make(x.e, x.c, x.l, x.p, x.x, api.Owners{}, x.from, x.to); err != x.want || len(f.Cases) > 0 || !plan.Same(p, api.Plan{}) {
+		if p, f, err := planner.Make(x.e, x.c, x.l, x.p, x.x, api.Owners{}, x.from, x.to); err != x.want || len(f.Cases) > 0 || !plan.Same(p, api.Plan{}) {
 			t.Errorf("%s: %v", name, err)
 		}
 	}
@@ -270,25 +271,25 @@ func TestMakeErrors(t *testing.T) {
 
 func TestRelax(t *testing.T) {
 	l := append(renew()[1:], anchor(0, 30), anchor(0, 31))
-	p, _, err := Make(world(), calendar(), l, api.Policy{}, nil, api.Owners{}, 1, 90)
+	p, _, err := planner.Make(world(), calendar(), l, api.Policy{}, nil, api.Owners{}, 1, 90)
 	if err != api.OK {
 		t.Fatal(err)
 	}
-	q, err := Relax(world(), p, 1, 90)
+	q, err := planner.Relax(world(), p, 1, 90)
 	if fmt.Sprint(q.Required) != "[{1 0} {2 0}]" || !slices.Equal(q.Days, p.Days) || len(p.Required) != 4 || err != api.OK {
 		t.Error(q.Required, p.Required, err)
 	}
-	if q, err := Relax(world(), p, 1, 100); err != api.ErrEdge || !plan.Same(q, api.Plan{}) {
+	if q, err := planner.Relax(world(), p, 1, 100); err != api.ErrEdge || !plan.Same(q, api.Plan{}) {
 		t.Error(q, err)
 	}
-	if _, err := Relax(world(), p, -1, 100); err != api.ErrRange {
+	if _, err := planner.Relax(world(), p, -1, 100); err != api.ErrRange {
 		t.Error(err)
 	}
 }
 
 func TestReverse(t *testing.T) {
 	l := []api.Change{anchor(0, 8), {Endpoint: 2, Kind: api.DropIdentity, Number: 1}, {Endpoint: 0, Kind: api.DropAnchor, Number: 8}, {Endpoint: 2, Kind: api.AddIdentity, Identity: identity(2, 8, 0, 9)}, {Endpoint: 2, Kind: api.SetMost, Number: 4}}
-	back, err := Reverse(world(), l)
+	back, err := planner.Reverse(world(), l)
 	if err != api.OK || len(back) != 5 || !change.Same(back[4], api.Change{Kind: api.DropAnchor, Number: 8}) || !change.Same(back[0], api.Change{Endpoint: 2, Kind: api.SetMost, Number: 3}) {
 		t.Error(back, err)
 	}
@@ -305,11 +306,11 @@ func TestReverse(t *testing.T) {
 		l    []api.Change
 		want api.Errno
 	}{{bad(), make([]api.Change, 25), api.ErrEstate}, {world(), make([]api.Change, 25), api.ErrLimit}, {world(), []api.Change{anchor(0, 8), anchor(0, 8)}, api.ErrDone}, {world(), []api.Change{anchor(9, 8)}, api.ErrChange}} {
-		if back, err := Reverse(x.e, x.l); back != nil || err != x.want {
+		if back, err := planner.Reverse(x.e, x.l); back != nil || err != x.want {
 			t.Error(back, err)
 		}
 	}
-	if back, err := Reverse(world(), nil); len(back) != 0 || err != api.OK {
+	if back, err := planner.Reverse(world(), nil); len(back) != 0 || err != api.OK {
 		t.Error(back, err)
 	}
 }

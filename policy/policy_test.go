@@ -1,4 +1,4 @@
-package policy
+package policy_test
 
 import (
 	"fmt"
@@ -9,6 +9,7 @@ import (
 	"cipherplan/api"
 	"cipherplan/downgrade"
 	"cipherplan/exception"
+	"cipherplan/policy"
 	"cipherplan/rule"
 )
 
@@ -41,7 +42,7 @@ func TestOpen(t *testing.T) {
 		edge, day int
 		want      string
 	}{{"forbid rc4", 0, 15, "[{1 2} {2 2} {3 2}]"}, {"forbid rc4", 1, 15, "[]"}, {"forbid rc4", 0, 16, "[]"}, {"forbid any", 1, 15, "[{3 10}]"}, {"forbid rc4 from 16", 0, 15, "[]"}, {"forbid rc4 for sign", 0, 15, "[]"}} {
-		if l, err := Open(e, rules(y.text), []api.Exception{x}, o, y.edge, y.day); fmt.Sprint(l) != y.want || err != api.OK {
+		if l, err := policy.Open(e, rules(y.text), []api.Exception{x}, o, y.edge, y.day); fmt.Sprint(l) != y.want || err != api.OK {
 			t.Errorf("%v: %v, %v", y, l, err)
 		}
 	}
@@ -68,10 +69,10 @@ func TestErrors(t *testing.T) {
 		"day":       {good, good, api.Policy{}, nil, -1, api.ErrRange, api.ErrRange},
 		"late day":  {good, good, api.Policy{}, nil, 40001, api.ErrRange, api.ErrRange},
 	} {
-		l, a := Step(x.before, x.after, x.p, x.l, api.Owners{}, x.day)
-		n, m, b := Progress(x.before, x.after, x.p, x.l, api.Owners{}, x.day)
-		k, c := Clean(x.after, x.p, x.l, api.Owners{}, x.day)
-		o, d := Open(x.after, x.p, x.l, api.Owners{}, 9, x.day)
+		l, a := policy.Step(x.before, x.after, x.p, x.l, api.Owners{}, x.day)
+		n, m, b := policy.Progress(x.before, x.after, x.p, x.l, api.Owners{}, x.day)
+		k, c := policy.Clean(x.after, x.p, x.l, api.Owners{}, x.day)
+		o, d := policy.Open(x.after, x.p, x.l, api.Owners{}, 9, x.day)
 		if l != nil || n != 0 || m != 0 || k != nil || o != nil || a != x.step || b != x.step || c != x.open || d != x.open {
 			t.Errorf("%s: %v, %v, %v, %v", name, a, b, c, d)
 		}
@@ -80,14 +81,14 @@ func TestErrors(t *testing.T) {
 		before, after api.Estate
 		want          api.Errno
 	}{{bad, good, api.ErrEstate}, {good, bad, api.ErrEstate}, {good, other, api.ErrEdge}, {good, good, api.ErrNone}} {
-		if o, e := Enables(x.before, x.after, 2); o != nil || e != x.want {
+		if o, e := policy.Enables(x.before, x.after, 2); o != nil || e != x.want {
 			t.Error(o, e)
 		}
 	}
-	if o, e := Open(good, api.Policy{}, nil, api.Owners{}, 2, 5); o != nil || e != api.ErrNone {
+	if o, e := policy.Open(good, api.Policy{}, nil, api.Owners{}, 2, 5); o != nil || e != api.ErrNone {
 		t.Error(o, e)
 	}
-	if o, e := Open(good, api.Policy{}, nil, api.Owners{}, -1, 5); o != nil || e != api.ErrNone {
+	if o, e := policy.Open(good, api.Policy{}, nil, api.Owners{}, -1, 5); o != nil || e != api.ErrNone {
 		t.Error(o, e)
 	}
 }
@@ -108,13 +109,13 @@ func TestEnablesAndStep(t *testing.T) {
 		"with other uses": {estate([]int{10, 2}, []int{10}, []int{2, 10}), other, "[{1 2} {2 2} {3 2} {3 10}]", "[0]"},
 		"nothing":         {other, other, "[]", "[]"},
 	} {
-		l, e := Enables(x.before, x.after, 0)
-		m, f := Step(x.before, x.after, rules("forbid rc4"), nil, api.Owners{}, 5)
+		l, e := policy.Enables(x.before, x.after, 0)
+		m, f := policy.Step(x.before, x.after, rules("forbid rc4"), nil, api.Owners{}, 5)
 		if fmt.Sprint(l) != x.enables || fmt.Sprint(m) != x.step || e != api.OK || f != api.OK {
 			t.Errorf("%s: %v, %v, %v, %v", name, l, m, e, f)
 		}
 	}
-	if l, _ := Step(estate(nil, nil, nil), estate([]int{2}, nil, []int{2}), rules("forbid rc4 from 6"), nil, api.Owners{}, 5); len(l) != 0 {
+	if l, _ := policy.Step(estate(nil, nil, nil), estate([]int{2}, nil, []int{2}), rules("forbid rc4 from 6"), nil, api.Owners{}, 5); len(l) != 0 {
 		t.Error(l)
 	}
 }
@@ -122,10 +123,10 @@ func TestEnablesAndStep(t *testing.T) {
 func TestCleanAndProgress(t *testing.T) {
 	before, after := estate([]int{10, 2}, []int{10}, []int{10, 2}), estate([]int{10, 2}, []int{10, 1}, []int{10, 1})
 	p := rules("forbid rc4")
-	if l, e := Clean(before, p, nil, api.Owners{}, 5); fmt.Sprint(l) != "[1]" || e != api.OK {
+	if l, e := policy.Clean(before, p, nil, api.Owners{}, 5); fmt.Sprint(l) != "[1]" || e != api.OK {
 		t.Error(l, e)
 	}
-	if n, m, e := Progress(before, after, p, nil, api.Owners{}, 5); n != 3 || m != 2 || e != api.OK {
+	if n, m, e := policy.Progress(before, after, p, nil, api.Owners{}, 5); n != 3 || m != 2 || e != api.OK {
 		t.Error(n, m, e)
 	}
 }
@@ -143,15 +144,15 @@ func TestConsequences(t *testing.T) {
 	p := rules("forbid rc4\nforbid des3\nforbid rsakx")
 	for range 500 {
 		before, after := estate(some(), some(), some()), estate(some(), some(), some())
-		steps, _ := Step(before, after, p, nil, api.Owners{}, 5)
+		steps, _ := policy.Step(before, after, p, nil, api.Owners{}, 5)
 		for edge := range 2 {
-			open, _ := Open(after, p, nil, api.Owners{}, edge, 5)
-			fresh, _ := Enables(before, after, edge)
+			open, _ := policy.Open(after, p, nil, api.Owners{}, edge, 5)
+			fresh, _ := policy.Enables(before, after, edge)
 			if named := slices.ContainsFunc(open, func(o api.Outcome) bool { return slices.Contains(fresh, o) }); named != slices.Contains(steps, edge) {
 				t.Fatalf("%v, %v: %v", open, fresh, steps)
 			}
 		}
-		clean, _ := Clean(after, p, nil, api.Owners{}, 5)
+		clean, _ := policy.Clean(after, p, nil, api.Owners{}, 5)
 		for _, edge := range clean {
 			client, server := after.Endpoints[edge], after.Endpoints[2]
 			if ways, _ := downgrade.Down(client, server, p, nil, api.Owners{}, 5, 512); len(ways) > 0 {
@@ -161,7 +162,7 @@ func TestConsequences(t *testing.T) {
 		dropped := after
 		dropped.Endpoints = slices.Clone(after.Endpoints)
 		dropped.Endpoints[2].Suites = after.Endpoints[2].Suites[:len(after.Endpoints[2].Suites)/2]
-		if l, _ := Step(after, dropped, p, nil, api.Owners{}, 5); len(l) > 0 {
+		if l, _ := policy.Step(after, dropped, p, nil, api.Owners{}, 5); len(l) > 0 {
 			t.Fatalf("%v", l)
 		}
 	}

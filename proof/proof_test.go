@@ -1,4 +1,4 @@
-package proof
+package proof_test
 
 import (
 	"fmt"
@@ -11,6 +11,7 @@ import (
 	"cipherplan/conversation"
 	"cipherplan/estate"
 	"cipherplan/order"
+	"cipherplan/proof"
 	"cipherplan/rule"
 )
 
@@ -43,16 +44,16 @@ func renew() api.Plan {
 
 func TestSets(t *testing.T) {
 	for edge, want := range []string{"[[] [0] [0 2] [0 2 3]]", "[[] [1] [1 2] [1 2 3]]"} {
-		if l, err := Sets(estate1(), renew(), edge); fmt.Sprint(l) != want || err != api.OK {
+		if l, err := proof.Sets(estate1(), renew(), edge); fmt.Sprint(l) != want || err != api.OK {
 			t.Errorf("%d: %v, %v", edge, l, err)
 		}
 	}
 	p := renew()
 	p.Required = []api.Required{r(0, 1), r(1, 3)} // 0 before 3 follows through a change that is not relevant
-	if l, err := Sets(estate1(), p, 0); fmt.Sprint(l) != "[[] [0] [2] [0 2] [0 3] [0 2 3]]" || err != api.OK {
+	if l, err := proof.Sets(estate1(), p, 0); fmt.Sprint(l) != "[[] [0] [2] [0 2] [0 3] [0 2 3]]" || err != api.OK {
 		t.Error(l, err)
 	}
-	if l, err := Sets(estate1(), api.Plan{}, 0); fmt.Sprint(l) != "[[]]" || err != api.OK {
+	if l, err := proof.Sets(estate1(), api.Plan{}, 0); fmt.Sprint(l) != "[[]]" || err != api.OK {
 		t.Error(l, err)
 	}
 }
@@ -93,33 +94,33 @@ func TestErrors(t *testing.T) {
 		"edge, from":  {estate1(), renew(), -1, 0, api.ErrNone, api.ErrRange, api.ErrRule},
 		"to":          {estate1(), free(13), 0, 40001, api.ErrNone, api.ErrRange, api.ErrRule},
 	} {
-		l, a := Sets(x.e, x.p, 7)
-		f, b := Make(x.e, x.p, x.from, x.to)
-		c, ok, d := Fails(x.e, x.p, x.from, x.to)
-		g := Check(x.e, x.p, x.from, x.to, api.Proof{})
-		s, h := Steps(x.e, x.p, rules, []api.Exception{{}}, api.Owners{})
+		l, a := proof.Sets(x.e, x.p, 7)
+		f, b := proof.Make(x.e, x.p, x.from, x.to)
+		c, ok, d := proof.Fails(x.e, x.p, x.from, x.to)
+		g := proof.Check(x.e, x.p, x.from, x.to, api.Proof{})
+		s, h := proof.Steps(x.e, x.p, rules, []api.Exception{{}}, api.Owners{})
 		if l != nil || f.Cases != nil || c.Set != nil || ok || s != nil || a != x.sets || b != x.made || d != x.made || g != x.made || h != x.step {
 			t.Errorf("%s: %v %v %v %v %v", name, a, b, d, g, h)
 		}
 	}
 	for n, want := range map[int]api.Errno{12: api.OK, 13: api.ErrLimit} {
-		if l, err := Sets(one, free(n), 0); err != want || err == api.OK && len(l) != 4096 {
+		if l, err := proof.Sets(one, free(n), 0); err != want || err == api.OK && len(l) != 4096 {
 			t.Errorf("%d: %d, %v", n, len(l), err)
 		}
-		if _, _, err := Fails(one, free(n), 50, 40); err != want {
+		if _, _, err := proof.Fails(one, free(n), 50, 40); err != want {
 			t.Errorf("%d: %v", n, err)
 		}
-		if _, err := Make(estate1(), free(n), 50, 40); err != api.ErrLimit {
+		if _, err := proof.Make(estate1(), free(n), 50, 40); err != api.ErrLimit {
 			t.Errorf("%d: %v", n, err)
 		}
 	}
-	if _, err := Steps(estate1(), renew(), api.Policy{}, []api.Exception{{}}, api.Owners{}); err != api.ErrException {
+	if _, err := proof.Steps(estate1(), renew(), api.Policy{}, []api.Exception{{}}, api.Owners{}); err != api.ErrException {
 		t.Error(err)
 	}
-	if _, err := Steps(one, free(13), api.Policy{}, nil, api.Owners{}); err != api.ErrLimit {
+	if _, err := proof.Steps(one, free(13), api.Policy{}, nil, api.Owners{}); err != api.ErrLimit {
 		t.Error(err)
 	}
-	if _, err := Sets(estate1(), renew(), -1); err != api.ErrNone {
+	if _, err := proof.Sets(estate1(), renew(), -1); err != api.ErrNone {
 		t.Error(err)
 	}
 }
@@ -150,21 +151,21 @@ func TestMakeAndFails(t *testing.T) {
 		"but not in time":     {change(func(p *api.Plan) { p.Changes[0].Number = 9 }), 5, 9, "", 2},
 		"no changes":          {api.Plan{}, 5, 90, "", 2},
 	} {
-		c, fails, err := Fails(long, x.p, x.from, x.to)
-		f, err2 := Make(long, x.p, x.from, x.to)
+		c, fails, err := proof.Fails(long, x.p, x.from, x.to)
+		f, err2 := proof.Make(long, x.p, x.from, x.to)
 		if fails != (x.fails != "") || fails && fmt.Sprint(c) != x.fails || !fails && c.Set != nil || err != api.OK || len(f.Cases) != x.cases || (err2 == api.ErrEdge) != fails {
 			t.Errorf("%s: %v, %v, %v, %v", name, c, err, f, err2)
 		}
 		want := err2
-		if e := Check(long, x.p, x.from, x.to, f); e != want {
+		if e := proof.Check(long, x.p, x.from, x.to, f); e != want {
 			t.Errorf("%s: %v", name, e)
 		}
 		f.Cases = append(f.Cases, api.Case{})
-		if e := Check(long, x.p, x.from, x.to, f); e != api.ErrProof && want == api.OK {
+		if e := proof.Check(long, x.p, x.from, x.to, f); e != api.ErrProof && want == api.OK {
 			t.Errorf("%s: %v", name, e)
 		}
 	}
-	f, _ := Make(long, renew(), 5, 90)
+	f, _ := proof.Make(long, renew(), 5, 90)
 	if fmt.Sprint(f) != "{[{0 [] {3 2}} {0 [0] {3 2}} {0 [0 2] {3 2}} {0 [0 2 3] {3 2}} {1 [] {3 2}} {1 [1] {3 2}} {1 [1 2] {3 2}} {1 [1 2 3] {3 2}}]}" {
 		t.Error(f)
 	}
@@ -173,11 +174,11 @@ func TestMakeAndFails(t *testing.T) {
 func TestSame(t *testing.T) {
 	a := api.Proof{Cases: []api.Case{{Edge: 1, Set: api.Set{1}, Outcome: api.Outcome{Version: 1}}}}
 	for _, c := range []api.Case{{Edge: 2, Set: api.Set{1}, Outcome: api.Outcome{Version: 1}}, {Edge: 1, Set: api.Set{2}, Outcome: api.Outcome{Version: 1}}, {Edge: 1, Set: api.Set{1}, Outcome: api.Outcome{Suite: 1}}} {
-		if Same(a, api.Proof{Cases: []api.Case{c}}) {
+		if proof.Same(a, api.Proof{Cases: []api.Case{c}}) {
 			t.Error(c)
 		}
 	}
-	if !Same(a, a) || Same(a, api.Proof{}) {
+	if !proof.Same(a, a) || proof.Same(a, api.Proof{}) {
 		t.Error("same")
 	}
 }
@@ -206,7 +207,7 @@ func TestSteps(t *testing.T) {
 		if name == "the other end" || name == "needed" || name == "impossible" {
 			e.Edges = e.Edges[:1]
 		}
-		if l, err := Steps(e, x.p, p, nil, api.Owners{}); fmt.Sprint(l) != x.want || err != api.OK {
+		if l, err := proof.Steps(e, x.p, p, nil, api.Owners{}); fmt.Sprint(l) != x.want || err != api.OK {
 			t.Errorf("%s: %v, %v", name, l, err)
 		}
 	}
@@ -214,7 +215,7 @@ func TestSteps(t *testing.T) {
 	q := api.Plan{Changes: []api.Change{{Endpoint: 0, Kind: api.SetMost, Number: 2}, {Endpoint: 2, Kind: api.AddSuite, Number: 10}, {Endpoint: 0, Kind: api.SetMost, Number: 3}}, Required: []api.Required{r(0, 1), r(0, 2)}, Days: []int{1, 20, 14}}
 	e := estate1()
 	e.Edges = e.Edges[:1]
-	if l, err := Steps(e, q, p, nil, api.Owners{}); fmt.Sprint(l) != "[1]" || err != api.OK {
+	if l, err := proof.Steps(e, q, p, nil, api.Owners{}); fmt.Sprint(l) != "[1]" || err != api.OK {
 		t.Error(l, err)
 	}
 }
@@ -236,7 +237,7 @@ func TestAllStates(t *testing.T) {
 		slices.SortFunc(needs, func(a, b api.Required) int { return a.First*9 + a.Then - b.First*9 - b.Then })
 		p.Required = needs
 		e := estate1()
-		_, err := Make(e, p, 5, 60)
+		_, err := proof.Make(e, p, 5, 60)
 		good := true
 		sets, _ := order.Sets(4, needs)
 		for _, s := range sets {

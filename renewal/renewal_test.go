@@ -1,4 +1,4 @@
-package renewal
+package renewal_test
 
 import (
 	"fmt"
@@ -7,6 +7,7 @@ import (
 
 	"cipherplan/api"
 	"cipherplan/lifetime"
+	"cipherplan/renewal"
 	"cipherplan/rule"
 )
 
@@ -58,7 +59,7 @@ func TestBest(t *testing.T) {
 		"late":          {"", []api.Use{md5}, 40000, 40000, "{{1 0} 40000} true"},
 		"too late":      {"", []api.Use{md5}, 50000, 40000, "{{0 0} 0} false"},
 	} {
-		if l, ok, e := Best(policy(x.text), x.uses, api.PurposeSign, x.from, x.to); fmt.Sprint(l, ok) != x.want || e != api.OK {
+		if l, ok, e := renewal.Best(policy(x.text), x.uses, api.PurposeSign, x.from, x.to); fmt.Sprint(l, ok) != x.want || e != api.OK {
 			t.Errorf("%s: %v, %v, %v", name, l, ok, e)
 		}
 	}
@@ -68,7 +69,7 @@ func TestBest(t *testing.T) {
 		purpose, from, to int
 		e                 api.Errno
 	}{{rules, api.Use{}, 0, -1, 0, api.ErrRule}, {api.Policy{}, api.Use{}, 0, -1, 0, api.ErrUse}, {api.Policy{}, md5, 0, 0, 0, api.ErrRange}, {api.Policy{}, md5, 5, 0, 0, api.ErrRange}, {api.Policy{}, md5, 1, -1, 0, api.ErrRange}, {api.Policy{}, md5, 1, 0, 40001, api.ErrRange}} {
-		if l, ok, e := Best(x.p, []api.Use{md5, x.u}, x.purpose, x.from, x.to); l != (api.Link{}) || ok || e != x.e {
+		if l, ok, e := renewal.Best(x.p, []api.Use{md5, x.u}, x.purpose, x.from, x.to); l != (api.Link{}) || ok || e != x.e {
 			t.Error(l, ok, e)
 		}
 	}
@@ -80,8 +81,8 @@ func TestReachHoldsApply(t *testing.T) {
 		reach int
 		holds bool
 	}{{item(8, link(md5, 1)), 8, true}, {item(9, link(md5, 1)), 8, false}, {item(40000, link(sha384, 1)), 40000, true}, {item(99, link(md5, 1), link(sha256, 8)), 99, true}, {item(100, link(md5, 1), link(sha256, 8)), 99, false}} {
-		reach, e := Reach(policy(example), x.i)
-		holds, f := Holds(policy(example), x.i)
+		reach, e := renewal.Reach(policy(example), x.i)
+		holds, f := renewal.Holds(policy(example), x.i)
 		if reach != x.reach || holds != x.holds || e != api.OK || f != api.OK {
 			t.Errorf("%v: %d, %v", x.i, reach, holds)
 		}
@@ -90,14 +91,14 @@ func TestReachHoldsApply(t *testing.T) {
 		p api.Policy
 		e api.Errno
 	}{{rules, api.ErrRule}, {api.Policy{}, api.ErrItem}} {
-		reach, e := Reach(x.p, api.Item{})
-		holds, f := Holds(x.p, api.Item{})
+		reach, e := renewal.Reach(x.p, api.Item{})
+		holds, f := renewal.Holds(x.p, api.Item{})
 		if reach != 0 || holds || e != x.e || f != x.e {
 			t.Error(e, f)
 		}
 	}
 	i := item(8, link(md5, 1))
-	j := Apply(i, []api.Link{link(md5, 1), link(api.Use{}, -1)})
+	j := renewal.Apply(i, []api.Link{link(md5, 1), link(api.Use{}, -1)})
 	if fmt.Sprint(j.Links) != "[{{1 0} 1} {{1 0} 1} {{0 0} -1}]" || len(i.Links) != 1 {
 		t.Error(j)
 	}
@@ -139,7 +140,7 @@ func TestSchedule(t *testing.T) {
 		"one more":       {example, item(200, seven...), all, 0, "[]", api.ErrLimit},
 		"worse first":    {steps, item(12, link(md5, 1)), []api.Use{md5, sha1, sha384, sha256}, 0, "[{{4 0} 2}]", api.OK},
 	} {
-		l, e := Schedule(policy(x.text), x.i, x.uses, x.from)
+		l, e := renewal.Schedule(policy(x.text), x.i, x.uses, x.from)
 		if fmt.Sprint(l) != x.want || e != x.e {
 			t.Errorf("%s: %v, %v", name, l, e)
 		}
@@ -151,7 +152,7 @@ func TestSchedule(t *testing.T) {
 		from int
 		e    api.Errno
 	}{{rules, api.Item{}, api.Use{}, -1, api.ErrRule}, {api.Policy{}, api.Item{}, api.Use{}, -1, api.ErrItem}, {api.Policy{}, item(5, link(md5, 1)), api.Use{}, -1, api.ErrUse}, {api.Policy{}, item(5, link(md5, 1)), md5, -1, api.ErrRange}, {api.Policy{}, item(5, link(md5, 1)), md5, 40001, api.ErrRange}} {
-		if l, e := Schedule(x.p, x.i, []api.Use{x.u}, x.from); l != nil || e != x.e {
+		if l, e := renewal.Schedule(x.p, x.i, []api.Use{x.u}, x.from); l != nil || e != x.e {
 			t.Error(l, e)
 		}
 	}
@@ -169,11 +170,11 @@ func TestScheduleIsLeast(t *testing.T) {
 		}
 		i := item(5+r.Intn(20), link(uses[r.Intn(4)], r.Intn(3)))
 		from := r.Intn(4)
-		l, e := Schedule(p, i, uses, from)
+		l, e := renewal.Schedule(p, i, uses, from)
 		if e != api.OK {
 			continue
 		}
-		if ok, _ := Holds(p, Apply(i, l)); !ok {
+		if ok, _ := renewal.Holds(p, renewal.Apply(i, l)); !ok {
 			t.Fatalf("%v: %v", i, l)
 		}
 		some += len(l)
@@ -188,7 +189,7 @@ func TestScheduleIsLeast(t *testing.T) {
 
 // reaches tries all links, on all days.
 func reaches(p api.Policy, i api.Item, uses []api.Use, from, links int) bool {
-	if ok, _ := Holds(p, i); ok {
+	if ok, _ := renewal.Holds(p, i); ok {
 		return true
 	}
 	if links == 0 {
@@ -198,7 +199,7 @@ func reaches(p api.Policy, i api.Item, uses []api.Use, from, links int) bool {
 	latest, may, _ := lifetime.Latest(p, i)
 	for day := max(from, last+1); may && day <= latest; day++ {
 		for _, u := range uses {
-			if l, ok, _ := Best(p, []api.Use{u}, i.Purpose, day, day); ok && reaches(p, Apply(i, []api.Link{l}), uses, from, links-1) {
+			if l, ok, _ := renewal.Best(p, []api.Use{u}, i.Purpose, day, day); ok && reaches(p, renewal.Apply(i, []api.Link{l}), uses, from, links-1) {
 				return true
 			}
 		}

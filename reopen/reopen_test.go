@@ -1,4 +1,4 @@
-package reopen
+package reopen_test
 
 import (
 	"fmt"
@@ -9,6 +9,7 @@ import (
 	"cipherplan/api"
 	"cipherplan/finding"
 	"cipherplan/identity"
+	"cipherplan/reopen"
 )
 
 var md5 = api.Use{Alg: api.MD5}
@@ -36,7 +37,7 @@ func TestHosts(t *testing.T) {
 		"by host": {0, f("a", 0, 50, 0), "[a b]"}, "by machine": {0, f("x", 2, 50, 0), "[c x]"}, "both": {0, f("c", 1, 50, 0), "[a b c]"}, "new": {0, f("x", 9, 50, 0), "[x]"},
 		"one more joins": {2, f("d", 3, 6, 0), "[d e]"}, "without": {2, f("d", 0, 50, 0), "[d e]"}, "a new machine": {0, f("d", 4, 5, 0), "[d e]"},
 	} {
-		if hosts, e := Hosts(l, x.gap, x.f); fmt.Sprint(hosts) != x.want || e != api.OK {
+		if hosts, e := reopen.Hosts(l, x.gap, x.f); fmt.Sprint(hosts) != x.want || e != api.OK {
 			t.Errorf("%s: %v, %v", name, hosts, e)
 		}
 	}
@@ -50,7 +51,7 @@ func TestHosts(t *testing.T) {
 		f   api.Finding
 		e   api.Errno
 	}{{[]api.Finding{l[1], l[0]}, -1, api.Finding{}, api.ErrFinding}, {l, -1, api.Finding{}, api.ErrFinding}, {l, -1, l[0], api.ErrRange}, {l, 4001, l[0], api.ErrRange}, {many, 4001, f("b", 0, 1, 0), api.ErrRange}, {many, 0, f("b", 0, 1, 0), api.ErrLimit}, {many, 0, many[0], api.OK}} {
-		if hosts, e := Hosts(x.l, x.gap, x.f); e != x.e || e != api.OK && hosts != nil {
+		if hosts, e := reopen.Hosts(x.l, x.gap, x.f); e != x.e || e != api.OK && hosts != nil {
 			t.Error(hosts, e)
 		}
 	}
@@ -97,7 +98,7 @@ func TestTouch(t *testing.T) {
 		"late":          {nil, use("c", 7, md5), "{[2] [1 3] [0 2] [1] [6 7 10]}"},
 		"other machine": {norm(f("b", 3, 1, 0), f("c", 3, 1, 0)), f("c", 0, 8, 1), "{[1 2] [0 1 2 3] [] [0 1] [10]}"},
 	} {
-		got, e := Touch(estate(), p, ledger, x.l, 0, x.f)
+		got, e := reopen.Touch(estate(), p, ledger, x.l, 0, x.f)
 		if fmt.Sprint(got) != x.want || e != api.OK {
 			t.Errorf("%s: %v, %v", name, got, e)
 		}
@@ -116,7 +117,7 @@ func TestTouch(t *testing.T) {
 		{bad, api.Plan{Changes: make([]api.Change, 25)}, many, make([]api.Finding, 1), -1, api.ErrEstate}, {estate(), api.Plan{Changes: make([]api.Change, 25)}, many, make([]api.Finding, 1), -1, api.ErrPlan},
 		{estate(), api.Plan{Changes: []api.Change{{Endpoint: 3}}}, many, make([]api.Finding, 1), -1, api.ErrPlan}, {estate(), p, many, make([]api.Finding, 1), -1, api.ErrLimit}, {estate(), p, ledger, make([]api.Finding, 1), -1, api.ErrFinding}, {estate(), p, ledger, nil, -1, api.ErrRange},
 	} {
-		if got, e := Touch(x.e, x.p, x.d, x.l, x.gap, f("a", 0, 0, 0)); !Same(got, api.Touched{}) || e != x.want {
+		if got, e := reopen.Touch(x.e, x.p, x.d, x.l, x.gap, f("a", 0, 0, 0)); !reopen.Same(got, api.Touched{}) || e != x.want {
 			t.Error(got, e)
 		}
 	}
@@ -131,12 +132,12 @@ func TestBehind(t *testing.T) {
 		want string
 		e    api.Errno
 	}{{nil, "[]", api.OK}, {api.Set{0}, "[0 2 4]", api.OK}, {api.Set{2, 5}, "[2 3 4 5]", api.OK}, {api.Set{3, 4}, "[3 4]", api.OK}, {api.Set{1, 0}, "[]", api.ErrSet}, {api.Set{6}, "[]", api.ErrSet}, {api.Set{-1}, "[]", api.ErrSet}} {
-		if s, e := Behind(p, x.s); fmt.Sprint(s) != x.want || e != x.e {
+		if s, e := reopen.Behind(p, x.s); fmt.Sprint(s) != x.want || e != x.e {
 			t.Errorf("%v: %v, %v", x.s, s, e)
 		}
 	}
 	for _, q := range []api.Plan{{Changes: make([]api.Change, 25)}, {Changes: make([]api.Change, 2), Required: []api.Required{r(0, 1), r(1, 0)}}, {Required: []api.Required{r(0, 1)}}} {
-		if s, e := Behind(q, api.Set{99}); s != nil || e != api.ErrPlan {
+		if s, e := reopen.Behind(q, api.Set{99}); s != nil || e != api.ErrPlan {
 			t.Error(s, e)
 		}
 	}
@@ -145,12 +146,12 @@ func TestBehind(t *testing.T) {
 func TestUnionAndSame(t *testing.T) {
 	a := api.Touched{Endpoints: []int{1, 3}, Edges: []int{2}, Items: []int{1}, Changes: []int{5}, Decisions: []int{0}}
 	b := api.Touched{Endpoints: []int{0, 3}, Edges: []int{1}, Changes: []int{5, 6}}
-	u := Union(a, b)
-	if fmt.Sprint(u) != "{[0 1 3] [1 2] [1] [5 6] [0]}" || !Same(u, Union(b, a)) || !Same(u, Union(u, u)) || !Same(Union(u, a), u) {
+	u := reopen.Union(a, b)
+	if fmt.Sprint(u) != "{[0 1 3] [1 2] [1] [5 6] [0]}" || !reopen.Same(u, reopen.Union(b, a)) || !reopen.Same(u, reopen.Union(u, u)) || !reopen.Same(reopen.Union(u, a), u) {
 		t.Error(u)
 	}
 	for i, c := range []api.Touched{{Endpoints: []int{1}}, {Edges: []int{1}}, {Items: []int{1}}, {Changes: []int{1}}, {Decisions: []int{1}}} {
-		if Same(c, api.Touched{}) || !Same(c, c) {
+		if reopen.Same(c, api.Touched{}) || !reopen.Same(c, c) {
 			t.Errorf("%d", i)
 		}
 	}
@@ -165,7 +166,7 @@ func TestOthersStay(t *testing.T) {
 			some = append(some, f(string(rune('a'+rnd.Intn(4))), rnd.Intn(4), rnd.Intn(9), 0))
 		}
 		l, late := norm(some[1:]...), some[0]
-		hosts, _ := Hosts(l, 2, late)
+		hosts, _ := reopen.Hosts(l, 2, late)
 		merged := norm(append(l, late)...)
 		before, _ := identity.Entities(l, 2)
 		after, _ := identity.Entities(merged, 2)

@@ -1,4 +1,4 @@
-package report
+package report_test
 
 import (
 	"strings"
@@ -8,6 +8,7 @@ import (
 	"cipherplan/certificate"
 	"cipherplan/exposure"
 	"cipherplan/finding"
+	"cipherplan/report"
 	"cipherplan/rule"
 )
 
@@ -37,30 +38,30 @@ func TestRiskAndParse(t *testing.T) {
 		"broken app web\n": {Kind: api.RiskBroken}, "broken web app\n": {Kind: api.RiskBroken, Index: 1}, "open app web rsa-rc4-sha\n": {Kind: api.RiskOpen, Suite: 2},
 		"down web app mlkem-aes256-gcm\n": {Kind: api.RiskDown, Index: 1, Suite: 16}, "item log\n": {Kind: api.RiskItem}, "item tax\n": {Kind: api.RiskItem, Index: 2},
 	} {
-		if s, e := Risk(estate(), r); s != want || e != api.OK {
+		if s, e := report.Risk(estate(), r); s != want || e != api.OK {
 			t.Errorf("%v: %q, %v", r, s, e)
 		}
-		if p, e := Parse(estate(), want); p != r || e != api.OK {
+		if p, e := report.Parse(estate(), want); p != r || e != api.OK {
 			t.Errorf("%q: %v, %v", want, p, e)
 		}
 	}
-	if s, e := Risk(estate(), api.Risk{Kind: api.RiskItem, Index: 1}); s != "item log\n" || e != api.OK {
+	if s, e := report.Risk(estate(), api.Risk{Kind: api.RiskItem, Index: 1}); s != "item log\n" || e != api.OK {
 		t.Error(s, e)
 	}
 	for _, r := range []api.Risk{{}, {Kind: 5}, {Kind: -1}, {Kind: 1, Index: 2}, {Kind: 1, Index: -1}, {Kind: 1, Suite: 1}, {Kind: 2}, {Kind: 2, Suite: 17}, {Kind: 3, Suite: -1}, {Kind: 3, Index: 2, Suite: 1}, {Kind: 4, Index: 3}, {Kind: 4, Suite: 1}, {Kind: 4, Index: -1}} {
-		if s, e := Risk(estate(), r); s != "" || e != api.ErrRange {
+		if s, e := report.Risk(estate(), r); s != "" || e != api.ErrRange {
 			t.Errorf("%v: %q, %v", r, s, e)
 		}
 	}
 	for _, s := range []string{"", "\n", "broken app web", "broken  app web\n", "broken app db\n", "broken app web 5\n", "open app web\n", "open app web chacha", "item x\n", "item log\nitem log\n", " item log\n"} {
-		if r, e := Parse(estate(), s); r != (api.Risk{}) || e != api.ErrLine {
+		if r, e := report.Parse(estate(), s); r != (api.Risk{}) || e != api.ErrLine {
 			t.Errorf("%q: %v, %v", s, r, e)
 		}
 	}
-	if s, e := Risk(bad(), api.Risk{}); s != "" || e != api.ErrEstate {
+	if s, e := report.Risk(bad(), api.Risk{}); s != "" || e != api.ErrEstate {
 		t.Error(s, e)
 	}
-	if r, e := Parse(bad(), ""); r != (api.Risk{}) || e != api.ErrEstate {
+	if r, e := report.Parse(bad(), ""); r != (api.Risk{}) || e != api.ErrEstate {
 		t.Error(r, e)
 	}
 }
@@ -75,11 +76,11 @@ func TestFinding(t *testing.T) {
 		"3 web 5 tls use md5 90\n": f(api.FindUse, md5, 0, ""), "3 web 5 tls off rsa-2048 90\n": f(api.FindOff, rsa, 0, ""), "3 web 5 tls suite 10 90\n": f(api.FindSuite, none, 10, ""), "3 web 5 tls key rsa-2048 7 90\n": f(api.FindKey, rsa, 7, ""),
 		"3 web 5 tls most 4 90\n": f(api.FindMost, none, 4, ""), "3 web 5 tls least 1 90\n": f(api.FindLeast, none, 1, ""), "3 web 5 tls trust 9 90\n": f(api.FindTrust, none, 9, ""), "3 web 5 tls peer db 90\n": f(api.FindPeer, none, 0, "db"),
 	} {
-		if s, e := Finding(x); s != want || e != api.OK {
+		if s, e := report.Finding(x); s != want || e != api.OK {
 			t.Errorf("%v: %q, %v", x, s, e)
 		}
 	}
-	if s, e := Finding(f(0, md5, 0, "")); s != "" || e != api.ErrFinding {
+	if s, e := report.Finding(f(0, md5, 0, "")); s != "" || e != api.ErrFinding {
 		t.Error(s, e)
 	}
 }
@@ -87,7 +88,7 @@ func TestFinding(t *testing.T) {
 func TestWhy(t *testing.T) {
 	l, _ := finding.Norm([]api.Finding{f(api.FindUse, md5, 0, ""), f(api.FindMost, api.Use{}, 3, "")})
 	fact := api.Fact{Subject: "tls", Kind: api.FindUse, Use: md5, Text: "web"}
-	if s, e := Why(l, 0, 4, 9, fact); s != "3 web 5 tls use md5 90\n" || e != api.OK {
+	if s, e := report.Why(l, 0, 4, 9, fact); s != "3 web 5 tls use md5 90\n" || e != api.OK {
 		t.Errorf("%q, %v", s, e)
 	}
 	for _, x := range []struct {
@@ -95,7 +96,7 @@ func TestWhy(t *testing.T) {
 		gap, day int
 		e        api.Errno
 	}{{append(l, l...), -1, 4, api.ErrFinding}, {l, -1, 4, api.ErrRange}, {l, 0, 2, api.ErrNone}} {
-		if s, e := Why(x.l, x.gap, x.day, 9, fact); s != "" || e != x.e {
+		if s, e := report.Why(x.l, x.gap, x.day, 9, fact); s != "" || e != x.e {
 			t.Error(s, e)
 		}
 	}
@@ -103,7 +104,7 @@ func TestWhy(t *testing.T) {
 
 func TestAll(t *testing.T) {
 	p, _, _ := rule.Parse("forbid rc4\nforbid md5 from 12")
-	s, e := All(estate(), p, nil, api.Owners{}, 15, 0)
+	s, e := report.All(estate(), p, nil, api.Owners{}, 15, 0)
 	if s != "down app web rsa-rc4-sha\ndown app web rsa-rc4-sha\nbroken web app\nitem log\nitem log\nitem tax\n" || e != api.OK {
 		t.Errorf("%q, %v", s, e)
 	}
@@ -111,10 +112,10 @@ func TestAll(t *testing.T) {
 	if strings.Count(s, "\n") != len(risks) {
 		t.Error(risks)
 	}
-	if s, e := All(estate(), api.Policy{}, nil, api.Owners{}, -1, 0); s != "" || e != api.ErrRange {
+	if s, e := report.All(estate(), api.Policy{}, nil, api.Owners{}, -1, 0); s != "" || e != api.ErrRange {
 		t.Error(s, e)
 	}
-	if s, e := All(bad(), p, nil, api.Owners{}, 15, 0); s != "" || e != api.ErrEstate {
+	if s, e := report.All(bad(), p, nil, api.Owners{}, 15, 0); s != "" || e != api.ErrEstate {
 		t.Error(s, e)
 	}
 }
@@ -129,10 +130,10 @@ func TestChanges(t *testing.T) {
 		p.Changes, p.Days = append(p.Changes, c), append(p.Days, 30-kind/6)
 	}
 	want := "28 app order 24\n29 app drop-identity 12\n29 web add-anchor 14\n29 app drop-anchor 16\n29 web add-hash 18\n29 app drop-hash 20\n29 web fallback 22\n30 web add-suite 2\n30 app drop-suite 4\n30 web most 6\n30 app least 8\n30 web add-identity 77\n"
-	if s, e := Changes(estate(), p); s != want || e != api.OK {
+	if s, e := report.Changes(estate(), p); s != want || e != api.OK {
 		t.Errorf("%s, %v", s, e)
 	}
-	if s, e := Changes(estate(), api.Plan{}); s != "" || e != api.OK {
+	if s, e := report.Changes(estate(), api.Plan{}); s != "" || e != api.OK {
 		t.Error(s, e)
 	}
 	for _, x := range []struct {
@@ -140,7 +141,7 @@ func TestChanges(t *testing.T) {
 		p    api.Plan
 		want api.Errno
 	}{{bad(), api.Plan{Days: []int{1}}, api.ErrEstate}, {estate(), api.Plan{Days: []int{1}}, api.ErrPlan}, {estate(), api.Plan{Changes: []api.Change{{Endpoint: 2, Kind: 1}}, Days: []int{1}}, api.ErrPlan}, {estate(), api.Plan{Changes: []api.Change{{Kind: 13}}, Days: []int{1}}, api.ErrPlan}, {estate(), api.Plan{Changes: []api.Change{{}}, Days: []int{1}}, api.ErrPlan}, {estate(), api.Plan{Changes: make([]api.Change, 25), Days: make([]int, 25)}, api.ErrPlan}} {
-		if s, e := Changes(x.e, x.p); s != "" || e != x.want {
+		if s, e := report.Changes(x.e, x.p); s != "" || e != x.want {
 			t.Error(s, e)
 		}
 	}

@@ -1,4 +1,4 @@
-package rule
+package rule_test
 
 import (
 	"fmt"
@@ -8,6 +8,7 @@ import (
 	"testing"
 
 	"cipherplan/api"
+	"cipherplan/rule"
 )
 
 func TestParse(t *testing.T) {
@@ -20,7 +21,7 @@ func TestParse(t *testing.T) {
 		"allow any below 0 from 0 until 1":                                    {Rules: []api.Rule{{Allow: true, To: 1}}},
 		"forbid any below 16384 from 40000":                                   {Rules: []api.Rule{{Below: 16384, From: 40000, To: 40001}}},
 	} {
-		if p, n, e := Parse(text); !Same(p, want) || n != 0 || e != api.OK {
+		if p, n, e := rule.Parse(text); !rule.Same(p, want) || n != 0 || e != api.OK {
 			t.Errorf("%q: %v, %d, %v", text, p, n, e)
 		}
 	}
@@ -74,7 +75,7 @@ func TestParseErrors(t *testing.T) {
 		strings.Repeat("keep sign 1\n", 60):                   {0, api.OK},
 		strings.Repeat("allow any\n", 61) + "keep sign 40001": {62, api.ErrRule},
 	} {
-		if p, n, e := Parse(text); n != x.line || e != x.e || e != api.OK && !Same(p, api.Policy{}) {
+		if p, n, e := rule.Parse(text); n != x.line || e != x.e || e != api.OK && !rule.Same(p, api.Policy{}) {
 			t.Errorf("%.40q: %v, %d, %v", text, p, n, e)
 		}
 	}
@@ -102,8 +103,8 @@ func TestCheck(t *testing.T) {
 		"61":           {api.Policy{Rules: slices.Repeat([]api.Rule{good}, 61)}, false},
 		"61 keeps":     {api.Policy{Keeps: slices.Repeat([]api.Keep{{Purpose: 1}}, 61)}, false},
 	} {
-		s, e := Print(x.p)
-		if c := Check(x.p); (c == api.OK) != x.ok || c != e || !x.ok && (c != api.ErrRule || s != "") {
+		s, e := rule.Print(x.p)
+		if c := rule.Check(x.p); (c == api.OK) != x.ok || c != e || !x.ok && (c != api.ErrRule || s != "") {
 			t.Errorf("%s: %v, %v", name, c, e)
 		}
 	}
@@ -111,7 +112,7 @@ func TestCheck(t *testing.T) {
 
 func TestPrint(t *testing.T) {
 	p := api.Policy{Rules: []api.Rule{{Alg: api.RSA, Below: 2048, Purpose: 2, From: 100, To: 40001}, {Allow: true, To: 5}}, Keeps: []api.Keep{{Purpose: 3, Days: 7}}}
-	if s, e := Print(p); s != "forbid rsa below 2048 for sign from 100\nallow any until 5\nkeep backup 7\n" || e != api.OK {
+	if s, e := rule.Print(p); s != "forbid rsa below 2048 for sign from 100\nallow any until 5\nkeep backup 7\n" || e != api.OK {
 		t.Errorf("%q, %v", s, e)
 	}
 	r := rand.New(rand.NewSource(10))
@@ -122,21 +123,21 @@ func TestPrint(t *testing.T) {
 			p.Rules = append(p.Rules, api.Rule{Allow: r.Intn(2) > 0, Alg: r.Intn(23), Below: r.Intn(2) * r.Intn(16385), Purpose: r.Intn(5), From: from, To: from + 1 + r.Intn(40001-from)})
 			p.Keeps = append(p.Keeps, api.Keep{Purpose: 1 + r.Intn(4), Days: r.Intn(40001)})
 		}
-		s, e := Print(p)
-		q, _, f := Parse(s)
-		again, _ := Print(q)
-		if e != api.OK || f != api.OK || !Same(p, q) || s != again {
+		s, e := rule.Print(p)
+		q, _, f := rule.Parse(s)
+		again, _ := rule.Print(q)
+		if e != api.OK || f != api.OK || !rule.Same(p, q) || s != again {
 			t.Fatalf("%v: %q, %v", p, s, q)
 		}
 	}
 }
 
 func TestPurposeAndSame(t *testing.T) {
-	if fmt.Sprint(Purpose("transport"), Purpose("sign"), Purpose("backup"), Purpose("code"), Purpose(""), Purpose("Code")) != "1 2 3 4 0 0" {
+	if fmt.Sprint(rule.Purpose("transport"), rule.Purpose("sign"), rule.Purpose("backup"), rule.Purpose("code"), rule.Purpose(""), rule.Purpose("Code")) != "1 2 3 4 0 0" {
 		t.Error("purpose")
 	}
 	p := api.Policy{Rules: []api.Rule{{Alg: 1}}, Keeps: []api.Keep{{Days: 1}}}
-	if !Same(p, p) || Same(p, api.Policy{Rules: p.Rules}) || Same(p, api.Policy{Keeps: p.Keeps}) {
+	if !rule.Same(p, p) || rule.Same(p, api.Policy{Rules: p.Rules}) || rule.Same(p, api.Policy{Keeps: p.Keeps}) {
 		t.Error("same")
 	}
 }

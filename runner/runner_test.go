@@ -1,4 +1,4 @@
-package runner
+package runner_test
 
 import (
 	"fmt"
@@ -8,6 +8,7 @@ import (
 
 	"cipherplan/api"
 	"cipherplan/order"
+	"cipherplan/runner"
 )
 
 func r(first, then int) api.Required { return api.Required{First: first, Then: then} }
@@ -18,17 +19,17 @@ func some() api.Plan {
 }
 
 func run(day int, steps ...int) api.Run {
-	x, _ := New(some(), day)
+	x, _ := runner.New(some(), day)
 	copy(x.Steps, steps)
 	return x
 }
 
 func TestNewAndCheck(t *testing.T) {
-	x, e := New(some(), 5)
-	if !Same(x, api.Run{Plan: some(), Day: 5, Steps: make([]int, 4), Tries: make([]int, 4)}) || e != api.OK || Check(x) != api.OK {
+	x, e := runner.New(some(), 5)
+	if !runner.Same(x, api.Run{Plan: some(), Day: 5, Steps: make([]int, 4), Tries: make([]int, 4)}) || e != api.OK || runner.Check(x) != api.OK {
 		t.Error(x, e)
 	}
-	if x, e := New(api.Plan{}, 40000); e != api.OK || Check(x) != api.OK || Check(api.Run{}) != api.OK {
+	if x, e := runner.New(api.Plan{}, 40000); e != api.OK || runner.Check(x) != api.OK || runner.Check(api.Run{}) != api.OK {
 		t.Error(x, e)
 	}
 	for name, y := range map[string]struct {
@@ -47,7 +48,7 @@ func TestNewAndCheck(t *testing.T) {
 	} {
 		p := some()
 		y.change(&p)
-		if x, e := New(p, y.day); !Same(x, api.Run{}) || e != y.e {
+		if x, e := runner.New(p, y.day); !runner.Same(x, api.Run{}) || e != y.e {
 			t.Errorf("%s: %v", name, e)
 		}
 	}
@@ -56,14 +57,14 @@ func TestNewAndCheck(t *testing.T) {
 		"many tries": func(x *api.Run) { x.Tries[0] = 5 }, "few tries": func(x *api.Run) { x.Tries[0] = -1 }, "day": func(x *api.Run) { x.Day = -1 }, "not closed": func(x *api.Run) { x.Steps[0] = api.StepDone },
 	} {
 		x := run(5)
-		if change(&x); Check(x) != api.ErrPlan {
-			t.Errorf("%s: %v", name, Check(x))
+		if change(&x); runner.Check(x) != api.ErrPlan {
+			t.Errorf("%s: %v", name, runner.Check(x))
 		}
 	}
 	good := run(5, api.StepDone, api.StepDone, api.StepFailed, api.StepUndone)
 	good.Tries[2] = 4
-	if Check(good) != api.OK {
-		t.Error(Check(good))
+	if runner.Check(good) != api.OK {
+		t.Error(runner.Check(good))
 	}
 }
 
@@ -80,12 +81,12 @@ func TestDoneNextFinished(t *testing.T) {
 		"too early": {run(2), "[]", "0 false"}, "first": {run(3), "[]", "1 true"}, "second": {run(6, 0, 1), "[1]", "2 true"}, "third": {run(9, 0, 1, 1), "[1 2]", "0 true"}, "by day": {run(9, 0, 1), "[1]", "2 true"},
 		"failed": {run(3, 0, 2), "[]", "1 true"}, "undone": {run(9, 3, 1, 1, 1), "[1 2 3]", "0 true"}, "finished": {run(9, 1, 1, 1, 1), "[0 1 2 3]", "0 false"}, "tried": {full, "[]", "2 true"}, "stopped": {stopped, "[]", "0 false"},
 	} {
-		step, ok := Next(y.x)
-		if fmt.Sprint(Done(y.x)) != y.done || fmt.Sprint(step, ok) != y.next || Finished(y.x) != (name == "finished") {
-			t.Errorf("%s: %v, %d, %v", name, Done(y.x), step, ok)
+		step, ok := runner.Next(y.x)
+		if fmt.Sprint(runner.Done(y.x)) != y.done || fmt.Sprint(step, ok) != y.next || runner.Finished(y.x) != (name == "finished") {
+			t.Errorf("%s: %v, %d, %v", name, runner.Done(y.x), step, ok)
 		}
 	}
-	if !Finished(api.Run{}) {
+	if !runner.Finished(api.Run{}) {
 		t.Error("nothing to do")
 	}
 }
@@ -100,10 +101,10 @@ func TestReport(t *testing.T) {
 		"done": {a, b, b, api.StepDone, false}, "failed": {a, b, a, api.StepFailed, false}, "no change": {a, a, a, api.StepDone, false}, "another": {a, b, c, api.StepUndone, true},
 	} {
 		x := run(3, 0, api.StepUndone)
-		got, e := Report(x, 1, y.before, y.after, y.seen)
+		got, e := runner.Report(x, 1, y.before, y.after, y.seen)
 		want := run(3, 0, y.step)
 		want.Tries[1], want.Stopped = 1, y.stopped
-		if !Same(got, want) || e != api.OK || x.Tries[1] != 0 {
+		if !runner.Same(got, want) || e != api.OK || x.Tries[1] != 0 {
 			t.Errorf("%s: %v, %v", name, got, e)
 		}
 	}
@@ -118,15 +119,15 @@ func TestReport(t *testing.T) {
 	}{
 		"stopped": {stopped, 99, api.ErrStop}, "tried": {tried, 1, api.ErrNeed}, "too early": {run(2), 1, api.ErrNeed}, "needs": {run(9), 0, api.ErrNeed}, "is done": {run(9, 0, 1), 1, api.ErrNeed}, "no step": {run(9), 4, api.ErrNeed}, "negative": {run(9), -1, api.ErrNeed},
 	} {
-		if got, e := Report(y.x, y.step, a, b, b); !Same(got, y.x) || e != y.e {
+		if got, e := runner.Report(y.x, y.step, a, b, b); !runner.Same(got, y.x) || e != y.e {
 			t.Errorf("%s: %v, %v", name, got, e)
 		}
 	}
 	x := run(3)
 	for range 4 {
-		x, _ = Report(x, 1, a, b, a)
+		x, _ = runner.Report(x, 1, a, b, a)
 	}
-	if step, ok := Next(x); step != 2 || !ok || x.Tries[1] != 4 {
+	if step, ok := runner.Next(x); step != 2 || !ok || x.Tries[1] != 4 {
 		t.Error(step, ok)
 	}
 }
@@ -134,32 +135,32 @@ func TestReport(t *testing.T) {
 func TestUndoAdvanceStop(t *testing.T) {
 	x := run(9, 1, 1, 1)
 	x.Tries[0] = 3
-	got, e := Undo(x, 0)
-	if !Same(got, run(9, 3, 1, 1)) || e != api.OK {
+	got, e := runner.Undo(x, 0)
+	if !runner.Same(got, run(9, 3, 1, 1)) || e != api.OK {
 		t.Error(got, e)
 	}
-	stopped := Stop(x, true)
+	stopped := runner.Stop(x, true)
 	for name, y := range map[string]struct {
 		x    api.Run
 		step int
 		e    api.Errno
 	}{"needed": {x, 1, api.ErrNeed}, "not done": {x, 3, api.ErrNeed}, "no step": {x, 4, api.ErrNeed}, "negative": {x, -1, api.ErrNeed}, "stopped": {stopped, 9, api.ErrStop}} {
-		if got, e := Undo(y.x, y.step); !Same(got, y.x) || e != y.e {
+		if got, e := runner.Undo(y.x, y.step); !runner.Same(got, y.x) || e != y.e {
 			t.Errorf("%s: %v, %v", name, got, e)
 		}
 	}
 	for day, want := range map[int]api.Errno{8: api.ErrRange, 9: api.OK, 40000: api.OK, 40001: api.ErrRange} {
-		got, e := Advance(x, day)
-		if e != want || e == api.OK && got.Day != day || e != api.OK && !Same(got, x) {
+		got, e := runner.Advance(x, day)
+		if e != want || e == api.OK && got.Day != day || e != api.OK && !runner.Same(got, x) {
 			t.Errorf("%d: %v, %v", day, got, e)
 		}
 	}
-	if !stopped.Stopped || x.Stopped || Stop(stopped, false).Stopped || !Same(Stop(stopped, false), x) {
+	if !stopped.Stopped || x.Stopped || runner.Stop(stopped, false).Stopped || !runner.Same(runner.Stop(stopped, false), x) {
 		t.Error("stop")
 	}
 	for i, change := range []func(x *api.Run){func(x *api.Run) { x.Plan.Days[0]++ }, func(x *api.Run) { x.Day++ }, func(x *api.Run) { x.Steps[0]++ }, func(x *api.Run) { x.Tries[0]++ }, func(x *api.Run) { x.Stopped = true }} {
 		y := run(9)
-		if change(&y); Same(y, run(9)) {
+		if change(&y); runner.Same(y, run(9)) {
 			t.Errorf("%d", i)
 		}
 	}
@@ -172,16 +173,16 @@ func TestDoneStaysClosed(t *testing.T) {
 	for range 300 {
 		x := run(3)
 		for range 30 {
-			step, ok := Next(x)
+			step, ok := runner.Next(x)
 			switch {
 			case rnd.Intn(4) == 0:
-				x, _ = Undo(x, rnd.Intn(4))
+				x, _ = runner.Undo(x, rnd.Intn(4))
 			case ok:
-				x, _ = Report(x, step, ends[0], ends[1], ends[rnd.Intn(3)])
+				x, _ = runner.Report(x, step, ends[0], ends[1], ends[rnd.Intn(3)])
 			default:
-				x, _ = Advance(Stop(x, false), x.Day+1)
+				x, _ = runner.Advance(runner.Stop(x, false), x.Day+1)
 			}
-			if closed, e := order.Closed(4, x.Plan.Required, Done(x)); !closed || e != api.OK || Check(x) != api.OK {
+			if closed, e := order.Closed(4, x.Plan.Required, runner.Done(x)); !closed || e != api.OK || runner.Check(x) != api.OK {
 				t.Fatalf("%v", x)
 			}
 		}

@@ -1,4 +1,4 @@
-package settings
+package settings_test
 
 import (
 	"fmt"
@@ -7,6 +7,7 @@ import (
 	"testing"
 
 	"cipherplan/api"
+	"cipherplan/settings"
 )
 
 func TestParse(t *testing.T) {
@@ -24,7 +25,7 @@ func TestParse(t *testing.T) {
 		"a-b_c.D9 = 1":             "[{ a-b_c.D9 1 1}]",
 		"x = 1 \\\n\\\n\ny = 2":    "[{ x 1 1} { y 2 4}]",
 	} {
-		l, n, e := Parse(text)
+		l, n, e := settings.Parse(text)
 		if got := fmt.Sprint(l); got != want || n != 0 || e != api.OK {
 			t.Errorf("%q: %s, %d, %v", text, got, n, e)
 		}
@@ -53,17 +54,17 @@ func TestParseErrors(t *testing.T) {
 		"x = 1\n\n[a\nb":         3,
 		"y = a\\\\\n":            1,
 	} {
-		if l, n, e := Parse(text); l != nil || n != want || e != api.ErrForm {
+		if l, n, e := settings.Parse(text); l != nil || n != want || e != api.ErrForm {
 			t.Errorf("%q: %v, %d, %v", text, l, n, e)
 		}
 	}
 	for _, text := range []string{strings.Repeat("#", 8193), strings.Repeat("\n", 201), strings.Repeat("?\n", 201)} {
-		if l, n, e := Parse(text); l != nil || n != 0 || e != api.ErrLimit {
+		if l, n, e := settings.Parse(text); l != nil || n != 0 || e != api.ErrLimit {
 			t.Errorf("%v, %d, %v", l, n, e)
 		}
 	}
 	for _, text := range []string{strings.Repeat("#", 8192), strings.Repeat("\n", 200) + "#"} {
-		if l, n, e := Parse(text); l != nil || n != 0 || e != api.OK {
+		if l, n, e := settings.Parse(text); l != nil || n != 0 || e != api.OK {
 			t.Errorf("%v, %d, %v", l, n, e)
 		}
 	}
@@ -72,11 +73,11 @@ func TestParseErrors(t *testing.T) {
 func TestPrint(t *testing.T) {
 	l := []api.Setting{{Name: "x", Value: "1", Line: 9}, {Section: "a", Name: "y"}, {Section: "a", Name: "y", Value: "b c"}, {Section: "b", Name: "z", Value: "#"}, {Section: "a", Name: "z", Value: "="}}
 	want := "x = 1\n[a]\ny = \ny = b c\n[b]\nz = #\n[a]\nz = =\n"
-	s, e := Print(l)
+	s, e := settings.Print(l)
 	if s != want || e != api.OK {
 		t.Errorf("%q, %v", s, e)
 	}
-	m, _, e := Parse(s)
+	m, _, e := settings.Parse(s)
 	if e != api.OK || len(m) != len(l) {
 		t.Fatalf("%v, %v", m, e)
 	}
@@ -114,7 +115,7 @@ func TestPrintErrors(t *testing.T) {
 		"as much text":  {append(rows(77, big), api.Setting{Name: "x", Value: strings.Repeat("v", 102)}), api.OK},
 		"one byte more": {append(rows(77, big), api.Setting{Name: "x", Value: strings.Repeat("v", 103)}), api.ErrLimit},
 	} {
-		if s, e := Print(x.l); e != x.e || e != api.OK && s != "" {
+		if s, e := settings.Print(x.l); e != x.e || e != api.OK && s != "" {
 			t.Errorf("%s: %d, %v", name, len(s), e)
 		}
 	}
@@ -122,13 +123,13 @@ func TestPrintErrors(t *testing.T) {
 
 func TestGetAndSections(t *testing.T) {
 	l := []api.Setting{{Section: "b", Name: "x", Value: "1"}, {Section: "a", Name: "x", Value: "2"}, {Section: "b", Name: "x", Value: "3"}}
-	if s, ok := Get(l, "b", "x"); s != "3" || !ok {
+	if s, ok := settings.Get(l, "b", "x"); s != "3" || !ok {
 		t.Error(s, ok)
 	}
-	if s, ok := Get(l, "", "x"); s != "" || ok {
+	if s, ok := settings.Get(l, "", "x"); s != "" || ok {
 		t.Error(s, ok)
 	}
-	if s := Sections(l); !slices.Equal(s, []string{"b", "a"}) || Sections(nil) != nil {
+	if s := settings.Sections(l); !slices.Equal(s, []string{"b", "a"}) || settings.Sections(nil) != nil {
 		t.Error(s)
 	}
 }
@@ -142,16 +143,16 @@ func TestSet(t *testing.T) {
 		"new section": {"d", "y", "[{b x 1 4} {a x 2 0} {b x 3 7} {c z  0} {d y v 0}]"},
 		"no section":  {"", "y", "[{b x 1 4} {a x 2 0} {b x 3 7} {c z  0} { y v 0}]"},
 	} {
-		m, e := Set(l, x.section, x.name, "v")
+		m, e := settings.Set(l, x.section, x.name, "v")
 		if fmt.Sprint(m) != x.want || e != api.OK {
 			t.Errorf("%s: %v, %v", name, m, e)
 		}
-		if v, ok := Get(m, x.section, x.name); v != "v" || !ok {
+		if v, ok := settings.Get(m, x.section, x.name); v != "v" || !ok {
 			t.Errorf("%s: %q", name, v)
 		}
 	}
 	for _, x := range [][3]string{{"a b", "x", "v"}, {"a", "", "v"}, {"a", "x", " v"}, {"a", "x", `v\`}} {
-		if m, e := Set(l, x[0], x[1], x[2]); m != nil || e != api.ErrForm {
+		if m, e := settings.Set(l, x[0], x[1], x[2]); m != nil || e != api.ErrForm {
 			t.Errorf("%v: %v, %v", x, m, e)
 		}
 	}

@@ -1,4 +1,4 @@
-package suitespec
+package suitespec_test
 
 import (
 	"fmt"
@@ -8,6 +8,7 @@ import (
 	"testing"
 
 	"cipherplan/api"
+	"cipherplan/suitespec"
 )
 
 func TestParse(t *testing.T) {
@@ -36,7 +37,7 @@ func TestParse(t *testing.T) {
 		"rsa-aes256-gcm:rsa-aes256-gcm":   {13},
 		"aead+hmacsha1":                   {},
 	} {
-		l, n, e := Parse(spec)
+		l, n, e := suitespec.Parse(spec)
 		if !slices.Equal(l, want) || n != 0 || e != api.OK {
 			t.Errorf("%q: %v, %d, %v", spec, l, n, e)
 		}
@@ -48,7 +49,7 @@ func TestParseErrors(t *testing.T) {
 		":": 1, "all:": 2, ":all": 1, "all::all": 2, "rc5": 1, "All": 1, "all:x:y": 2, "v5": 1, "v0": 1, "-": 1, "!": 1, "+": 1,
 		"--all": 1, "+-all": 1, "all+": 1, "+all+": 1, "all++v4": 1, "-@strength": 1, "@strength+all": 1, "@": 1, "@strengt": 1, "rsa-2048": 1, "all v4": 1,
 	} {
-		if l, n, e := Parse(spec); l != nil || n != want || e != api.ErrWord {
+		if l, n, e := suitespec.Parse(spec); l != nil || n != want || e != api.ErrWord {
 			t.Errorf("%q: %v, %d, %v", spec, l, n, e)
 		}
 	}
@@ -60,7 +61,7 @@ func TestParseErrors(t *testing.T) {
 		strings.Repeat("a", 8192):            api.ErrWord,
 		"all" + strings.Repeat("+all", 2000): api.OK,
 	} {
-		if _, n, e := Parse(spec); e != want || e == api.ErrLimit && n != 0 {
+		if _, n, e := suitespec.Parse(spec); e != want || e == api.ErrLimit && n != 0 {
 			t.Errorf("%.20q: %d, %v", spec, n, e)
 		}
 	}
@@ -68,12 +69,12 @@ func TestParseErrors(t *testing.T) {
 
 func TestSet(t *testing.T) {
 	for names, want := range map[string][]int{"ecdsa": {9, 11}, "chacha+ecdhe": {12, 15}, "sha256": {}, "mlkem": {16}, "rsakx+high": {6, 13}} {
-		if l, ok := Set(names); !slices.Equal(l, want) || !ok {
+		if l, ok := suitespec.Set(names); !slices.Equal(l, want) || !ok {
 			t.Errorf("%q: %v, %v", names, l, ok)
 		}
 	}
 	for _, names := range []string{"", "+", "-all", "all+", "x", "all+x", "@strength", "all:all"} {
-		if l, ok := Set(names); l != nil || ok {
+		if l, ok := suitespec.Set(names); l != nil || ok {
 			t.Errorf("%q: %v, %v", names, l, ok)
 		}
 	}
@@ -86,20 +87,20 @@ func TestPrint(t *testing.T) {
 		for i := range l {
 			l[i]++
 		}
-		s, e := Print(l)
-		m, _, f := Parse(s)
+		s, e := suitespec.Print(l)
+		m, _, f := suitespec.Parse(s)
 		if e != api.OK || f != api.OK || !slices.Equal(l, m) {
 			t.Fatalf("%v: %q, %v", l, s, m)
 		}
 	}
-	if s, e := Print([]int{15, 12, 1}); s != "chacha+v4:ecdhe-rsa-chacha:rsa-rc4-md5" || e != api.OK {
+	if s, e := suitespec.Print([]int{15, 12, 1}); s != "chacha+v4:ecdhe-rsa-chacha:rsa-rc4-md5" || e != api.OK {
 		t.Errorf("%q, %v", s, e)
 	}
 	for _, x := range []struct {
 		l []int
 		e api.Errno
 	}{{[]int{0}, api.ErrSuite}, {[]int{17}, api.ErrSuite}, {[]int{1, 1}, api.ErrTwice}, {[]int{1, 1, 17}, api.ErrSuite}} {
-		if s, e := Print(x.l); s != "" || e != x.e {
+		if s, e := suitespec.Print(x.l); s != "" || e != x.e {
 			t.Errorf("%v: %q, %v", x.l, s, e)
 		}
 	}
@@ -107,13 +108,13 @@ func TestPrint(t *testing.T) {
 
 func TestStrength(t *testing.T) {
 	for code, want := range map[int]int{0: 0, 17: 0, -1: 0, 1: 60, 4: 112, 8: 128, 9: 256, 12: 256, 14: 128} {
-		if n := Strength(code); n != want {
+		if n := suitespec.Strength(code); n != want {
 			t.Errorf("%d: %d", code, n)
 		}
 	}
 	l := []int{1, 99, 14, 4, 12, 2, 9}
-	m := Sort(l)
-	if fmt.Sprint(m) != "[12 9 14 4 1 2 99]" || fmt.Sprint(l) != "[1 99 14 4 12 2 9]" || !slices.Equal(Sort(m), m) {
+	m := suitespec.Sort(l)
+	if fmt.Sprint(m) != "[12 9 14 4 1 2 99]" || fmt.Sprint(l) != "[1 99 14 4 12 2 9]" || !slices.Equal(suitespec.Sort(m), m) {
 		t.Errorf("%v, %v", m, l)
 	}
 }

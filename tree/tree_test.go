@@ -34,3 +34,22 @@ func TestWalk(t *testing.T) {
 		t.Error("a tree within itself has an end")
 	}
 }
+
+func TestLargeTrees(t *testing.T) {
+	all := func(x, y node, depth int) bool { return true }
+	flat := make([]node, 1100000)
+	deep := []node{{}}
+	for range 100000 {
+		deep = []node{{"", deep}}
+	}
+	if !Walk(flat, flat, inner, all) || !Walk(deep, deep, inner, all) {
+		t.Error("large, but finite")
+	}
+	wide := []node{{}, {}} // with two ways at each level there are too many nodes
+	for range 30 {
+		wide = []node{{"", wide}, {"", wide}}
+	}
+	if Walk(wide, wide, inner, all) {
+		t.Error("too many nodes")
+	}
+}

@@ -1,4 +1,4 @@
-package verdict
+package verdict_test
 
 import (
 	"fmt"
@@ -8,6 +8,7 @@ import (
 
 	"cipherplan/api"
 	"cipherplan/rule"
+	"cipherplan/verdict"
 )
 
 var (
@@ -36,7 +37,7 @@ func TestAllowed(t *testing.T) {
 		{api.Use{Alg: api.RSA, Bits: 2047}, 2, 8, true, -1}, {api.Use{Alg: api.RSA, Bits: 2047}, 1, 5, true, -1},
 		{api.Use{Alg: api.RSA, Bits: 1023}, 2, 5, false, 3}, {api.Use{Alg: api.SHA1}, 2, 5, true, -1}, {api.Use{Alg: api.DSA, Bits: 2047}, 2, 5, true, -1},
 	} {
-		if ok, i, e := Allowed(p, x.u, x.purpose, x.day); ok != x.ok || i != x.index || e != api.OK {
+		if ok, i, e := verdict.Allowed(p, x.u, x.purpose, x.day); ok != x.ok || i != x.index || e != api.OK {
 			t.Errorf("%v: %v, %d, %v", x, ok, i, e)
 		}
 	}
@@ -57,14 +58,14 @@ func TestErrors(t *testing.T) {
 		"day":      {api.Policy{}, md5, 1, -1, api.ErrRange, api.OK},
 		"late day": {api.Policy{}, md5, 4, 40001, api.ErrRange, api.OK},
 	} {
-		ok, i, e := Allowed(x.p, x.u, x.purpose, x.day)
-		spans, f := Spans(x.p, x.u, x.purpose)
-		day, falls, g := Falls(x.p, x.u, x.purpose)
+		ok, i, e := verdict.Allowed(x.p, x.u, x.purpose, x.day)
+		spans, f := verdict.Spans(x.p, x.u, x.purpose)
+		day, falls, g := verdict.Falls(x.p, x.u, x.purpose)
 		if ok || i != 0 || e != x.allowed || f != x.span || g != x.span || f != api.OK && spans != nil || day != 0 || falls {
 			t.Errorf("%s: %v, %v, %v", name, e, f, g)
 		}
 	}
-	if l, e := Dead(bad); l != nil || e != api.ErrRule {
+	if l, e := verdict.Dead(bad); l != nil || e != api.ErrRule {
 		t.Error(l, e)
 	}
 }
@@ -85,8 +86,8 @@ func TestSpansAndFalls(t *testing.T) {
 		"allow md5 until 5\nallow md5 from 5":                                         {"[{0 40001}]", 0, false},
 	} {
 		p := policy(t, text)
-		spans, e := Spans(p, md5, 1)
-		day, falls, f := Falls(p, md5, 1)
+		spans, e := verdict.Spans(p, md5, 1)
+		day, falls, f := verdict.Falls(p, md5, 1)
 		if fmt.Sprint(spans) != x.spans || day != x.day || falls != x.falls || e != api.OK || f != api.OK {
 			t.Errorf("%q: %v, %d, %v", text, spans, day, falls)
 		}
@@ -110,14 +111,14 @@ func TestDayByDay(t *testing.T) {
 		used := map[int]bool{}
 		for _, u := range []api.Use{{Alg: api.RSA, Bits: 512}, {Alg: api.RSA, Bits: 1000}, {Alg: api.RSA, Bits: 2000}, {Alg: api.SHA1}, {Alg: api.RC4, Bits: 40}} {
 			for purpose := 1; purpose <= 4; purpose++ {
-				spans, _ := Spans(p, u, purpose)
+				spans, _ := verdict.Spans(p, u, purpose)
 				for i := 1; i < len(spans); i++ {
 					if spans[i-1].To >= spans[i].From {
 						t.Fatalf("%v", spans)
 					}
 				}
 				for day := range 12 {
-					ok, i, _ := Allowed(p, u, purpose, day)
+					ok, i, _ := verdict.Allowed(p, u, purpose, day)
 					used[i] = true
 					if in := slices.ContainsFunc(spans, func(s api.Span) bool { return s.From <= day && day < s.To }); in != ok {
 						t.Fatalf("%v: %v on %d: %v", p, u, day, ok)
@@ -125,7 +126,7 @@ func TestDayByDay(t *testing.T) {
 				}
 			}
 		}
-		dead, _ := Dead(p)
+		dead, _ := verdict.Dead(p)
 		for i := range p.Rules {
 			if p.Rules[i].Alg != api.SHA1+1 && used[i] == slices.Contains(dead, i) && (used[i] || p.Rules[i].Alg == api.RSA || p.Rules[i].Alg == 0) {
 				t.Fatalf("%v: dead %v, used %v", p, dead, used)
@@ -136,7 +137,7 @@ func TestDayByDay(t *testing.T) {
 
 func TestKeep(t *testing.T) {
 	p := api.Policy{Keeps: []api.Keep{{Purpose: 1, Days: 5}, {Purpose: 2, Days: 6}, {Purpose: 1, Days: 7}}}
-	if Keep(p, 1) != 7 || Keep(p, 2) != 6 || Keep(p, 3) != 0 || Keep(p, -1) != 0 {
+	if verdict.Keep(p, 1) != 7 || verdict.Keep(p, 2) != 6 || verdict.Keep(p, 3) != 0 || verdict.Keep(p, -1) != 0 {
 		t.Error("keep")
 	}
 }
@@ -156,7 +157,7 @@ func TestDead(t *testing.T) {
 		"forbid rsa from 5 until 9\nallow rsa until 7\nallow rsa from 8": "[]",
 		"forbid rsa below 16384\nallow rsa below 16383":                  "[]",
 	} {
-		if l, e := Dead(policy(t, text)); fmt.Sprint(l) != want || e != api.OK {
+		if l, e := verdict.Dead(policy(t, text)); fmt.Sprint(l) != want || e != api.OK {
 			t.Errorf("%q: %v, %v", text, l, e)
 		}
 	}
@@ -164,7 +165,7 @@ func TestDead(t *testing.T) {
 	for i := range 60 {
 		long.Rules = append(long.Rules, api.Rule{Below: 600 + 100*i, From: i, To: 30000 - i})
 	}
-	if l, e := Dead(long); len(l) != 0 || e != api.OK {
+	if l, e := verdict.Dead(long); len(l) != 0 || e != api.OK {
 		t.Error(l, e)
 	}
 }

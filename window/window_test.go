@@ -1,4 +1,4 @@
-package window
+package window_test
 
 import (
 	"fmt"
@@ -7,6 +7,7 @@ import (
 	"testing"
 
 	"cipherplan/api"
+	"cipherplan/window"
 )
 
 func w(from, to int, teams ...int) api.Window {
@@ -50,15 +51,15 @@ func TestCheck(t *testing.T) {
 	} {
 		c := calendar()
 		x.change(&c)
-		if e := Check(c, 3); e != x.e {
+		if e := window.Check(c, 3); e != x.e {
 			t.Errorf("%s: %v", name, e)
 		}
-		_, _, a := At(c, 1)
-		_, b := May(c, 99, 1)
-		_, _, d := Next(c, 99, 1)
-		_, f := Load(c, []int{1}, nil)
-		g := Fits(c, []int{1}, nil)
-		_, _, h := Earliest(c, []int{1}, nil, 99, 0)
+		_, _, a := window.At(c, 1)
+		_, b := window.May(c, 99, 1)
+		_, _, d := window.Next(c, 99, 1)
+		_, f := window.Load(c, []int{1}, nil)
+		g := window.Fits(c, []int{1}, nil)
+		_, _, h := window.Earliest(c, []int{1}, nil, 99, 0)
 		if x.e != api.OK && (a != x.e || b != x.e || d != x.e || f != x.e || g != x.e || h != x.e) {
 			t.Errorf("%s: %v %v %v %v %v %v", name, a, b, d, f, g, h)
 		}
@@ -66,7 +67,7 @@ func TestCheck(t *testing.T) {
 			t.Errorf("%s: %v %v %v %v %v %v", name, a, b, d, f, g, h)
 		}
 	}
-	if Check(calendar(), 2) != api.ErrForm || Check(calendar(), 4) != api.ErrForm || Check(calendar(), -1) != api.ErrForm || Check(api.Calendar{}, 0) != api.OK {
+	if window.Check(calendar(), 2) != api.ErrForm || window.Check(calendar(), 4) != api.ErrForm || window.Check(calendar(), -1) != api.ErrForm || window.Check(api.Calendar{}, 0) != api.OK {
 		t.Error("endpoints")
 	}
 }
@@ -74,7 +75,7 @@ func TestCheck(t *testing.T) {
 func TestAtMayNext(t *testing.T) {
 	c := calendar()
 	for day, want := range map[int]string{9: "0 false", 10: "0 true", 11: "0 true", 12: "1 true", 15: "0 false", 29: "2 true", 30: "0 false", -1: "0 false"} {
-		if i, ok, e := At(c, day); fmt.Sprint(i, ok) != want || e != api.OK {
+		if i, ok, e := window.At(c, day); fmt.Sprint(i, ok) != want || e != api.OK {
 			t.Errorf("%d: %d, %v, %v", day, i, ok, e)
 		}
 	}
@@ -83,21 +84,21 @@ func TestAtMayNext(t *testing.T) {
 		may       bool
 		next      string
 	}{{0, 9, false, "10 true"}, {0, 11, true, "11 true"}, {0, 12, false, "20 true"}, {1, 12, true, "12 true"}, {1, 15, false, "0 false"}, {0, 30, false, "0 false"}, {1, -5, false, "10 true"}} {
-		ok, e := May(c, x.team, x.day)
-		day, found, f := Next(c, x.team, x.day)
+		ok, e := window.May(c, x.team, x.day)
+		day, found, f := window.Next(c, x.team, x.day)
 		if ok != x.may || fmt.Sprint(day, found) != x.next || e != api.OK || f != api.OK {
 			t.Errorf("%v: %v, %d, %v", x, ok, day, found)
 		}
 	}
 	c.Windows[0].Days.From = 0
-	if day, ok, _ := Next(c, 1, -5); day != 0 || !ok {
+	if day, ok, _ := window.Next(c, 1, -5); day != 0 || !ok {
 		t.Error(day, ok)
 	}
 	for _, team := range []int{-1, 2} {
-		if _, e := May(c, team, 10); e != api.ErrRange {
+		if _, e := window.May(c, team, 10); e != api.ErrRange {
 			t.Error(e)
 		}
-		if _, _, e := Next(c, team, 10); e != api.ErrRange {
+		if _, _, e := window.Next(c, team, 10); e != api.ErrRange {
 			t.Error(e)
 		}
 	}
@@ -119,14 +120,14 @@ func TestLoadFitsEarliest(t *testing.T) {
 		"form":     {[]int{2}, []int{10, 10}, "[]", api.ErrForm, api.ErrForm},
 		"25":       {slices.Repeat([]int{2}, 25), make([]int, 25), "[]", api.ErrLimit, api.ErrLimit},
 	} {
-		l, e := Load(c, x.teams, x.days)
-		f := Fits(c, x.teams, x.days)
-		_, _, g := Earliest(c, x.teams, x.days, 0, 0)
+		l, e := window.Load(c, x.teams, x.days)
+		f := window.Fits(c, x.teams, x.days)
+		_, _, g := window.Earliest(c, x.teams, x.days, 0, 0)
 		if fmt.Sprint(l) != x.load || e != x.le || f != x.fe || g != x.fe {
 			t.Errorf("%s: %v, %v, %v, %v", name, l, e, f, g)
 		}
 	}
-	if e := Fits(c, slices.Repeat([]int{2}, 25), make([]int, 24)); e != api.ErrForm {
+	if e := window.Fits(c, slices.Repeat([]int{2}, 25), make([]int, 24)); e != api.ErrForm {
 		t.Error(e)
 	}
 	for _, x := range []struct {
@@ -134,11 +135,11 @@ func TestLoadFitsEarliest(t *testing.T) {
 		want       string
 		e          api.Errno
 	}{{0, -9, "20 true", api.OK}, {0, 25, "25 true", api.OK}, {0, 30, "0 false", api.OK}, {1, 0, "10 true", api.OK}, {1, 12, "12 true", api.OK}, {2, 0, "0 false", api.ErrRange}, {-1, 0, "0 false", api.ErrRange}} {
-		if day, ok, e := Earliest(c, []int{0, 1}, []int{10, 10}, x.team, x.from); fmt.Sprint(day, ok) != x.want || e != x.e {
+		if day, ok, e := window.Earliest(c, []int{0, 1}, []int{10, 10}, x.team, x.from); fmt.Sprint(day, ok) != x.want || e != x.e {
 			t.Errorf("%v: %d, %v, %v", x, day, ok, e)
 		}
 	}
-	if _, _, e := Earliest(c, []int{0}, []int{12}, 2, 0); e != api.ErrRange {
+	if _, _, e := window.Earliest(c, []int{0}, []int{12}, 2, 0); e != api.ErrRange {
 		t.Error(e)
 	}
 }
@@ -151,15 +152,15 @@ func TestEarliestIsFirst(t *testing.T) {
 		var teams, days []int
 		for range r.Intn(5) {
 			teams, days = append(teams, r.Intn(2)), append(days, r.Intn(32))
-			if Fits(c, teams, days) != api.OK {
+			if window.Fits(c, teams, days) != api.OK {
 				teams, days = teams[:len(teams)-1], days[:len(days)-1]
 			}
 		}
 		team, from := r.Intn(2), r.Intn(32)
-		got, ok, _ := Earliest(c, teams, days, team, from)
+		got, ok, _ := window.Earliest(c, teams, days, team, from)
 		want, found := 0, false
 		for day := from; day < 40 && !found; day++ {
-			if Fits(c, append(slices.Clone(teams), team), append(slices.Clone(days), day)) == api.OK {
+			if window.Fits(c, append(slices.Clone(teams), team), append(slices.Clone(days), day)) == api.OK {
 				want, found = day, true
 			}
 		}

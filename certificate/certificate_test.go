@@ -195,3 +195,11 @@ func TestSame(t *testing.T) {
 		t.Error("equal ones")
 	}
 }
+
+func TestLeastNumbers(t *testing.T) {
+	c := api.Certificate{Issuer: "a", Subject: "b", Key: api.Use{Alg: api.ED25519}, Hash: api.Use{Alg: api.MD5}}
+	s, e := certificate.Sign(c, 0)
+	if certificate.Check(c) != api.OK || e != api.OK || !certificate.Sealed(s, 0) {
+		t.Error(s, e)
+	}
+}

@@ -145,3 +145,21 @@ func TestUntil(t *testing.T) {
 		t.Error("until")
 	}
 }
+
+func TestBuildLimits(t *testing.T) {
+	var pool []api.Certificate
+	for i := range 7 {
+		pool = append(pool, cert(2+i, 3+i))
+	}
+	for day, want := range map[int]api.Errno{9: api.ErrNone, 10: api.OK, 19: api.OK, 20: api.ErrNone} {
+		if l, e := chain.Build(cert(1, 2), pool, []int{9}, []int{api.SHA256}, day, "web"); e != want || e == api.OK && len(l) != 8 {
+			t.Errorf("%d: %d, %v", day, len(l), e)
+		}
+	}
+	if _, e := chain.Build(cert(1, 2), append(pool[:6:6], cert(8, 9), cert(9, 10)), []int{10}, []int{api.SHA256}, 12, "web"); e != api.ErrNone {
+		t.Error(e) // nine certificates would be needed
+	}
+	if chain.Until([]api.Certificate{{To: 5}}) != 5 {
+		t.Error("until")
+	}
+}

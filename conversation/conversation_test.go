@@ -160,3 +160,12 @@ func TestConsequences(t *testing.T) {
 		}
 	}
 }
+
+func TestFirstDay(t *testing.T) {
+	e := estate()
+	_, broken, err := conversation.All(e, 0)
+	l, err2 := conversation.Methods(e, 0, 0)
+	if fmt.Sprint(broken, l) != "[0 1] []" || err != api.OK || err2 != api.OK {
+		t.Error(broken, l, err, err2)
+	}
+}

@@ -195,3 +195,13 @@ func TestOwnMemory(t *testing.T) {
 		t.Error("memory is shared")
 	}
 }
+
+func TestJustPermitted(t *testing.T) {
+	b, _ := der.Encode(deep(16))
+	if v, e := der.Decode(b); e != api.OK || !der.Same(v, deep(16)) {
+		t.Error(e)
+	}
+	if n, e := der.AsInt(leaf(2, 1, 0, 0, 0, 0, 0, 0, 0, 0)); n != 0 || e != api.ErrForm {
+		t.Error(n, e)
+	}
+}

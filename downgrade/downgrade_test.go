@@ -170,3 +170,9 @@ func TestConsequences(t *testing.T) {
 		}
 	}
 }
+
+func TestFirstDay(t *testing.T) {
+	if l, e := downgrade.All(client(10), server(10), 0, 0); len(l) != 0 || e != api.OK {
+		t.Error(l, e)
+	}
+}

@@ -236,3 +236,17 @@ func TestOwnMemory(t *testing.T) {
 		t.Error("memory is shared")
 	}
 }
+
+func TestJustPermitted(t *testing.T) {
+	l, _, _ := settings.Parse("[web]\nleast = 2\nmost = 2\nkeys = a a a b\nanchors = 0 1 2 3 4 5 6 7 8 9 10 11 12 13 14 15\n")
+	e, n, err := endpoint.FromSettings(l, "web", store())
+	if len(e.Identities) != 4 || len(e.Anchors) != 16 || e.Least != 2 || n != 0 || err != api.OK || endpoint.Check(e) != api.OK {
+		t.Error(e, n, err)
+	}
+	one := full()
+	one.Identities, one.Anchors, one.Hashes = one.Identities[:1], []int{7}, []int{3}
+	s, _ := endpoint.ToSettings(one, []string{"a"})
+	if f, _, err := endpoint.FromSettings(s, "web", store()); !endpoint.Same(f, one) || err != api.OK {
+		t.Error(f, err)
+	}
+}

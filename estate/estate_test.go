@@ -69,7 +69,7 @@ func TestState(t *testing.T) {
 	}{
 		"none": {nil, 1, 3, api.OK}, "one": {api.Set{1}, 1, 4, api.OK}, "in a row": {api.Set{0, 1, 2}, 2, 3, api.OK}, "impossible": {api.Set{2}, 0, 0, api.ErrDone},
 		"twice": {api.Set{0, 3}, 0, 0, api.ErrDone}, "order": {api.Set{1, 0}, 0, 0, api.ErrSet}, "same": {api.Set{1, 1}, 0, 0, api.ErrSet},
-		"far": {api.Set{0, 4}, 0, 0, api.ErrSet}, "negative": {api.Set{-1, 0}, 0, 0, api.ErrSet},
+		"far": {api.Set{0, 4}, 0, 0, api.ErrSet}, "negative": {api.Set{-1, 0}, 0, 0, api.ErrSet}, "one negative": {api.Set{-1}, 0, 0, api.ErrSet}, "one far": {api.Set{4}, 0, 0, api.ErrSet}, "first": {api.Set{0}, 2, 3, api.OK},
 	} {
 		e, err := estate.State(start(), l, x.s)
 		if err != x.want || err == api.OK && (len(e.Endpoints[0].Anchors) != x.n || e.Endpoints[2].Most != x.most) || err != api.OK && !estate.Same(e, api.Estate{}) {

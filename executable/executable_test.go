@@ -133,3 +133,13 @@ func TestSame(t *testing.T) {
 		t.Error("equal ones")
 	}
 }
+
+func TestSizeOfSymbols(t *testing.T) {
+	for n, want := range map[int]api.Errno{4079: api.OK, 4080: api.ErrImage} {
+		i := api.Image{Sections: []api.Section{{Name: "s", Bytes: make([]byte, n)}}, Symbols: []api.Symbol{{Name: "abc"}}}
+		b, e := executable.Encode(i)
+		if e != want || e == api.OK && len(b) != 4096 {
+			t.Errorf("%d: %d, %v", n, len(b), e)
+		}
+	}
+}

@@ -315,3 +315,16 @@ func TestExplainMany(t *testing.T) {
 		t.Error(why, e)
 	}
 }
+
+func TestFirstDay(t *testing.T) {
+	l := norm(f("a", 1, 0, api.FindUse, md5, 0))
+	fact := api.Fact{Subject: "tls", Kind: api.FindUse, Use: md5}
+	ok, e := exposure.Holds(l, 0, 0, 0, fact)
+	why, g := exposure.Explain(l, 0, 0, 0, fact)
+	if !ok || fmt.Sprint(why) != "[0]" || e != api.OK || g != api.OK {
+		t.Error(ok, why, e, g)
+	}
+	if risks, e := exposure.Risks(estate(), api.Policy{}, nil, api.Owners{}, 0, 0); fmt.Sprint(risks) != "[{1 0 0} {1 1 0}]" || e != api.OK {
+		t.Error(risks, e)
+	}
+}

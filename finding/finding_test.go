@@ -221,3 +221,10 @@ func TestFromCapture(t *testing.T) {
 		t.Error(l, err)
 	}
 }
+
+func TestLeastNumbers(t *testing.T) {
+	f := api.Finding{Source: 1, Host: "a", Confidence: 1, Kind: api.FindKey, Subject: "b", Use: rsa}
+	if finding.Check(f) != api.OK {
+		t.Error(finding.Check(f))
+	}
+}

@@ -188,3 +188,10 @@ func TestDecodeAny(t *testing.T) {
 		}
 	}
 }
+
+func TestLeastChoice(t *testing.T) {
+	b, e := handshake.EncodeChoice(api.Choice{Version: 1})
+	if string(b) != "\x02\x01\x00\x00\x00\x00\x00\x00" || e != api.OK {
+		t.Errorf("%x, %v", b, e)
+	}
+}

@@ -106,3 +106,9 @@ func TestSameAndMemory(t *testing.T) {
 		t.Error("memory is shared")
 	}
 }
+
+func TestBackToTheFirst(t *testing.T) {
+	if h, e := host.Back(on(3, 1)); !host.Same(h, on(1)) || e != api.OK {
+		t.Error(h, e)
+	}
+}

@@ -59,7 +59,7 @@ func TestApply(t *testing.T) {
 		j    api.Job
 		want api.Errno
 	}{
-		"good": {world(), policy(), to(1, sha256, 20), api.OK}, "estate": {bad, rules, to(9, api.Use{}, 0), api.ErrEstate}, "rule": {world(), rules, to(9, api.Use{}, 0), api.ErrRule},
+		"good": {world(), policy(), to(1, sha256, 20), api.OK}, "last item": {world(), policy(), to(5, sha384, 20), api.OK}, "estate": {bad, rules, to(9, api.Use{}, 0), api.ErrEstate}, "rule": {world(), rules, to(9, api.Use{}, 0), api.ErrRule},
 		"item": {world(), policy(), to(6, api.Use{}, 0), api.ErrJob}, "negative": {world(), policy(), to(-1, api.Use{}, 0), api.ErrJob}, "use": {world(), policy(), to(0, api.Use{}, 0), api.ErrUse},
 		"day": {world(), policy(), to(0, md5, 1), api.ErrDays}, "late day": {world(), policy(), to(0, md5, 40001), api.ErrDays}, "full": {full, policy(), to(0, md5, 30), api.ErrLimit},
 		"forbidden": {world(), policy(), to(0, md5, 9), api.ErrForbid}, "not forbidden yet": {world(), policy(), to(0, md5, 8), api.OK}, "not allowed yet": {world(), policy(), to(0, sha384, 4), api.ErrForbid},

@@ -100,6 +100,8 @@ func TestDecodeErrors(t *testing.T) {
 	bad := der.List([]api.Value{der.Text("a"), two, der.Int(-1), der.Bool(true), der.List(nil)})
 	badCert, _ := keystore.Encode(store()[:1])
 	badCert[strings.Index(string(badCert), "root")] = ' ' // a certificate with a right form
+	firstBad, _ := keystore.Encode([]api.Entry{entry1("a", 1, cert(1), cert(7)), entry1("b", 2)})
+	firstBad[strings.Index(string(firstBad), "root")] = ' '
 	wrongCert, _ := keystore.Encode(store()[:1])
 	wrongCert[strings.Index(string(wrongCert), "root")] = 7
 	for name, x := range map[string]struct {
@@ -114,9 +116,16 @@ func TestDecodeErrors(t *testing.T) {
 		"key":               {element(der.List([]api.Value{der.Text("a"), der.Int(5), der.Int(1), der.Bool(true), der.List(nil)})), api.ErrForm},
 		"alias":             {element(der.List([]api.Value{der.Int(1), two, der.Int(1), der.Bool(true), der.List(nil)})), api.ErrForm},
 		"chain":             {element(der.List([]api.Value{der.Text("a"), two, der.Int(1), der.Bool(true), der.List([]api.Value{two})})), api.ErrForm},
+		"alg":               {element(der.List([]api.Value{der.Text("a"), der.List([]api.Value{der.Text("x"), der.Int(2048)}), der.Int(1), der.Bool(true), der.List(nil)})), api.ErrForm},
+		"bits":              {element(der.List([]api.Value{der.Text("a"), der.List([]api.Value{der.Int(5), der.Text("x")}), der.Int(1), der.Bool(true), der.List(nil)})), api.ErrForm},
+		"three of a key":    {element(der.List([]api.Value{der.Text("a"), der.List([]api.Value{der.Int(5), der.Int(2048), der.Int(1)}), der.Int(1), der.Bool(true), der.List(nil)})), api.ErrForm},
+		"key id":            {element(der.List([]api.Value{der.Text("a"), two, der.Text("x"), der.Bool(true), der.List(nil)})), api.ErrForm},
+		"secret":            {element(der.List([]api.Value{der.Text("a"), two, der.Int(1), der.Int(1), der.List(nil)})), api.ErrForm},
+		"chain of no list":  {element(der.List([]api.Value{der.Text("a"), two, der.Int(1), der.Bool(true), der.Int(1)})), api.ErrForm},
 		"not valid":         {element(bad), api.ErrKeystore},
 		"form before valid": {element(bad, der.Int(1)), api.ErrForm},
 		"bad certificate":   {badCert, api.ErrKeystore},
+		"bad, then good":    {firstBad, api.ErrKeystore},
 		"wrong certificate": {wrongCert, api.ErrForm},
 	} {
 		if l, e := keystore.Decode(x.b); e != x.e || l != nil {

@@ -35,6 +35,9 @@ func TestCheckAndAdd(t *testing.T) {
 			t.Errorf("%s: %v, %v", name, l, e)
 		}
 	}
+	if e := ledger.Check(of(d(0, 0, 1, 0, 0))); e != api.OK {
+		t.Error(e)
+	}
 	if l, e := ledger.Add(api.Ledger{}, good); !ledger.Same(l, of(good)) || e != api.OK || ledger.Check(api.Ledger{}) != api.OK {
 		t.Error(l, e)
 	}

@@ -55,6 +55,7 @@ func TestCheck(t *testing.T) {
 		"nine":         {func(i *api.Item) { i.Links = many(9) }, false},
 		"secret":       {func(i *api.Item) { i.Kind = api.ItemSecret }, true},
 		"another rule": {func(i *api.Item) { i.Purpose = 4 }, true},
+		"transport":    {func(i *api.Item) { i.Purpose = 1 }, true},
 	} {
 		i := item(api.ItemSigned, link(md5, 1), link(sha256, 8))
 		x.change(&i)

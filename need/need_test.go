@@ -129,7 +129,7 @@ func TestWhy(t *testing.T) {
 		r    api.Required
 		want string
 		err  api.Errno
-	}{{r(0, 1), "[0 1]", api.OK}, {r(1, 0), "[0 1]", api.OK}, {r(2, 1), "[2]", api.OK}, {r(0, 2), "[]", api.OK}, {r(1, 3), "[]", api.OK}, {r(0, 5), "[]", api.ErrNeed}, {r(-1, 4), "[]", api.ErrNeed}, {r(0, 4), "[]", api.ErrChange}, {r(4, 0), "[]", api.ErrChange}} {
+	}{{r(0, 1), "[0 1]", api.OK}, {r(1, 0), "[0 1]", api.OK}, {r(2, 1), "[2]", api.OK}, {r(0, 2), "[]", api.OK}, {r(1, 3), "[]", api.OK}, {r(0, 5), "[]", api.ErrNeed}, {r(5, 0), "[]", api.ErrNeed}, {r(0, 6), "[]", api.ErrNeed}, {r(-1, 4), "[]", api.ErrNeed}, {r(0, 4), "[]", api.ErrChange}, {r(4, 0), "[]", api.ErrChange}} {
 		if to, err := need.Why(estate(), l, x.r); fmt.Sprint(to) != x.want || err != x.err {
 			t.Errorf("%v: %v, %v", x.r, to, err)
 		}

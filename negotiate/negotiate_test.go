@@ -174,3 +174,23 @@ func TestConsequences(t *testing.T) {
 		}
 	}
 }
+
+func TestJustPermitted(t *testing.T) {
+	c, s := client(8), server(8)
+	s.Least = 3
+	if o, e := negotiate.Choose(c, s, 15); o != (api.Outcome{Version: 3, Suite: 8}) || e != api.OK {
+		t.Error(o, e)
+	}
+	s.Least, c.Least, c.Most = 1, 1, 1
+	if o, e := negotiate.With(c, s, 15, 1, []int{8}); o != (api.Outcome{Version: 1, Suite: 8}) || e != api.OK {
+		t.Error(o, e)
+	}
+	if _, e := negotiate.With(c, s, 0, 1, []int{8}); e != api.ErrTrust {
+		t.Error(e)
+	}
+	bad := c
+	bad.Hashes = []int{99}
+	if negotiate.Common(bad, s) != nil || negotiate.Common(c, api.Endpoint{Name: "x", Least: 1, Most: 9, Suites: s.Suites, Identities: s.Identities}) != nil {
+		t.Error("endpoints that are none")
+	}
+}

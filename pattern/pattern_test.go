@@ -121,3 +121,28 @@ func TestPrefix(t *testing.T) {
 		}
 	}
 }
+
+func TestMostBytes(t *testing.T) {
+	if hits, e := pattern.Find(patterns("b"), make([]byte, 4096)); len(hits) != 0 || e != api.OK {
+		t.Error(hits, e)
+	}
+}
+
+func TestPrefixOfAny(t *testing.T) {
+	r := rand.New(rand.NewSource(37))
+	for range 2000 {
+		b := make([]byte, r.Intn(14))
+		for i := range b {
+			b[i] = byte('a' + r.Intn(2))
+		}
+		for i, got := range pattern.Prefix(b) {
+			want := i
+			for !bytes.HasSuffix(b[:i+1], b[:want]) {
+				want--
+			}
+			if got != want {
+				t.Fatalf("%q: %d at %d, want %d", b, got, i, want)
+			}
+		}
+	}
+}

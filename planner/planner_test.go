@@ -314,3 +314,12 @@ func TestReverse(t *testing.T) {
 		t.Error(back, err)
 	}
 }
+
+func TestOneDay(t *testing.T) {
+	if ok, err := planner.Good(world(), nil, nil, 0, 0); !ok || err != api.OK {
+		t.Error(ok, err)
+	}
+	if l, err := planner.Sequence(world(), nil, 0, 0); len(l) != 0 || err != api.OK {
+		t.Error(l, err)
+	}
+}

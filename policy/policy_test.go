@@ -167,3 +167,10 @@ func TestConsequences(t *testing.T) {
 		}
 	}
 }
+
+func TestFirstDay(t *testing.T) {
+	e := estate([]int{2}, []int{2}, []int{2})
+	if l, err := policy.Open(e, rules("forbid rc4"), nil, api.Owners{}, 1, 0); len(l) != 3 || err != api.OK {
+		t.Error(l, err)
+	}
+}

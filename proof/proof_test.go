@@ -266,3 +266,30 @@ func TestAllStates(t *testing.T) {
 		t.Error("no proofs")
 	}
 }
+
+func TestJustPermitted(t *testing.T) {
+	e := estate1()
+	p := renew()
+	if f, err := proof.Make(e, p, 0, 10); len(f.Cases) != 3 || err != api.OK { // the first change has come on the last day
+		t.Error(f, err)
+	}
+	if f, err := proof.Make(e, api.Plan{}, 0, 0); len(f.Cases) != 2 || err != api.OK {
+		t.Error(f, err)
+	}
+	if _, err := proof.Sets(e, p, 2); err != api.ErrNone {
+		t.Error(err)
+	}
+	many := free(24) // all of zoo, which has no edge
+	for i := range many.Changes {
+		many.Changes[i].Endpoint = 3
+	}
+	if l, err := proof.Sets(e, many, 0); len(l) != 1 || err != api.OK {
+		t.Error(l, err)
+	}
+	// Both changes are of one day: either one can be the first, and the second one enables what is forbidden.
+	rules, _, _ := rule.Parse("forbid aesgcm from 15")
+	both := api.Plan{Changes: []api.Change{{Endpoint: 0, Kind: api.SetLeast, Number: 2}, {Endpoint: 2, Kind: api.AddSuite, Number: 10}}, Required: []api.Required{r(0, 1)}, Days: []int{15, 15}}
+	if l, err := proof.Steps(e, both, rules, nil, api.Owners{}); fmt.Sprint(l) != "[1]" || err != api.OK {
+		t.Error(l, err)
+	}
+}

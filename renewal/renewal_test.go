@@ -206,3 +206,13 @@ func reaches(p api.Policy, i api.Item, uses []api.Use, from, links int) bool {
 	}
 	return false
 }
+
+func TestFirstDay(t *testing.T) {
+	if l, ok, e := renewal.Best(api.Policy{}, []api.Use{md5}, 1, 0, 0); l != link(md5, 0) || !ok || e != api.OK {
+		t.Error(l, ok, e)
+	}
+	p := policy("forbid md5 from 40000") // falls on the last day, before a use that never falls
+	if l, ok, e := renewal.Best(p, []api.Use{md5, sha1}, 1, 5, 5); l != link(sha1, 5) || !ok || e != api.OK {
+		t.Error(l, ok, e)
+	}
+}

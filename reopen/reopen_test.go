@@ -187,3 +187,17 @@ func TestOthersStay(t *testing.T) {
 		}
 	}
 }
+
+func TestJustPermitted(t *testing.T) {
+	p, l := api.Plan{Changes: make([]api.Change, 24)}, api.Ledger{Decisions: make([]api.Decision, 128)}
+	if got, e := reopen.Touch(estate(), p, l, nil, 0, f("a", 0, 0, 0)); len(got.Changes) != 24 || e != api.OK {
+		t.Error(got, e)
+	}
+	good := norm(f("a", 1, 3, 0))
+	if _, e := reopen.Hosts(append(good, good...), 0, good[0]); e != api.ErrFinding {
+		t.Error(e)
+	}
+	if _, e := reopen.Hosts([]api.Finding{{}}, 0, good[0]); e != api.ErrFinding {
+		t.Error(e)
+	}
+}

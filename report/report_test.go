@@ -146,3 +146,13 @@ func TestChanges(t *testing.T) {
 		}
 	}
 }
+
+func TestMostChanges(t *testing.T) {
+	p := api.Plan{Days: make([]int, 24)}
+	for range 24 {
+		p.Changes = append(p.Changes, api.Change{Kind: api.AddAnchor})
+	}
+	if s, e := report.Changes(estate(), p); strings.Count(s, "\n") != 24 || e != api.OK {
+		t.Error(s, e)
+	}
+}

@@ -191,3 +191,10 @@ func TestDoneStaysClosed(t *testing.T) {
 		t.Error("changed")
 	}
 }
+
+func TestJustPermitted(t *testing.T) {
+	x, e := runner.New(api.Plan{Changes: make([]api.Change, 24), Days: make([]int, 24)}, 0)
+	if step, ok := runner.Next(x); step != 0 || !ok || e != api.OK || runner.Check(x) != api.OK {
+		t.Error(step, ok, e)
+	}
+}

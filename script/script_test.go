@@ -278,6 +278,10 @@ func TestCrashAndResume(t *testing.T) {
 			t.Errorf("%d: %v", safe, l)
 		}
 	}
+	undone := do(t, w, act(api.ActUndo, 3), act(api.ActCrash, 48)) // decided as well, with the value 0
+	if fmt.Sprint(undone.Run.Steps, undone.Run.Stopped) != "[1 1 0 0] false" {
+		t.Error(undone.Run)
+	}
 	lost := do(t, w, act(api.ActCrash, 24))
 	fails(t, "not in step", lost, act(api.ActResume, 0), api.ErrModel)
 	fails(t, "goes on", w, act(api.ActResume, 0), api.ErrStop)

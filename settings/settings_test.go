@@ -106,6 +106,7 @@ func TestPrintErrors(t *testing.T) {
 		"blank before":  {[]api.Setting{{Name: "x", Value: " a"}}, api.ErrForm},
 		"blank behind":  {[]api.Setting{{Name: "x", Value: "a "}}, api.ErrForm},
 		"backslash":     {[]api.Setting{{Name: "x", Value: `a\`}}, api.ErrForm},
+		"byte 127":      {[]api.Setting{{Name: "x", Value: "\x7f"}}, api.ErrForm},
 		"inner one":     {[]api.Setting{{Name: "x", Value: `a\b`}}, api.OK},
 		"order":         {[]api.Setting{{Section: "a", Name: "x"}, {Name: "y"}}, api.ErrOrder},
 		"form, order":   {[]api.Setting{{Section: "a", Name: "x"}, {Name: "y"}, {}}, api.ErrForm},
@@ -124,6 +125,9 @@ func TestPrintErrors(t *testing.T) {
 func TestGetAndSections(t *testing.T) {
 	l := []api.Setting{{Section: "b", Name: "x", Value: "1"}, {Section: "a", Name: "x", Value: "2"}, {Section: "b", Name: "x", Value: "3"}}
 	if s, ok := settings.Get(l, "b", "x"); s != "3" || !ok {
+		t.Error(s, ok)
+	}
+	if s, ok := settings.Get(l[:2], "b", "x"); s != "1" || !ok {
 		t.Error(s, ok)
 	}
 	if s, ok := settings.Get(l, "", "x"); s != "" || ok {
@@ -150,6 +154,9 @@ func TestSet(t *testing.T) {
 		if v, ok := settings.Get(m, x.section, x.name); v != "v" || !ok {
 			t.Errorf("%s: %q", name, v)
 		}
+	}
+	if m, e := settings.Set(l[:1], "b", "x", "v"); fmt.Sprint(m) != "[{b x v 4}]" || e != api.OK {
+		t.Error(m, e)
 	}
 	for _, x := range [][3]string{{"a b", "x", "v"}, {"a", "", "v"}, {"a", "x", " v"}, {"a", "x", `v\`}} {
 		if m, e := settings.Set(l, x[0], x[1], x[2]); m != nil || e != api.ErrForm {

@@ -161,6 +161,11 @@ func TestDead(t *testing.T) {
 			t.Errorf("%q: %v, %v", text, l, e)
 		}
 	}
+	for _, text := range []string{"forbid aead", "forbid any for code", "forbid rsa below 513", "forbid any until 1", "forbid rsa\nallow rsa below 16384"} {
+		if l, e := verdict.Dead(policy(t, text)); len(l) != 0 || e != api.OK {
+			t.Errorf("%q: %v, %v", text, l, e)
+		}
+	}
 	long := api.Policy{}
 	for i := range 60 {
 		long.Rules = append(long.Rules, api.Rule{Below: 600 + 100*i, From: i, To: 30000 - i})

@@ -52,6 +52,9 @@ func TestAll(t *testing.T) {
 	if to, err := watch.All(e, l, 3); fmt.Sprint(to) != "[0 3]" || err != api.OK {
 		t.Error(to, err)
 	}
+	if to, err := watch.All(e, []api.Finding{f("db", 0, api.FindMost, api.Use{}, 1)}, 0); fmt.Sprint(to) != "[0]" || err != api.OK {
+		t.Error(to, err)
+	}
 	for _, day := range []int{-1, 40001} {
 		if to, err := watch.All(e, l, day); to != nil || err != api.ErrRange {
 			t.Error(to, err)

@@ -127,6 +127,9 @@ func TestLoadFitsEarliest(t *testing.T) {
 			t.Errorf("%s: %v, %v, %v, %v", name, l, e, f, g)
 		}
 	}
+	if e := window.Fits(c, slices.Repeat([]int{0}, 24), slices.Repeat([]int{10}, 24)); e != api.ErrFull {
+		t.Error(e)
+	}
 	if e := window.Fits(c, slices.Repeat([]int{2}, 25), make([]int, 24)); e != api.ErrForm {
 		t.Error(e)
 	}

@@ -38,6 +38,18 @@ func TestExamples(t *testing.T) {
 	}
 }
 
+func TestLengths(t *testing.T) {
+	for n, want := range map[int]string{127: "\x04\x7f", 128: "\x04\x81\x80", 255: "\x04\x81\xff", 256: "\x04\x82\x01\x00"} {
+		b, e := der.Encode(leaf(4, make([]byte, n)...))
+		if e != api.OK || len(b) != len(want)+n || string(b[:len(want)]) != want {
+			t.Errorf("%d: %x, %v", n, b, e)
+		}
+		if v, e := der.Decode(b); e != api.OK || len(v.Bytes) != n {
+			t.Errorf("%d: %v", n, e)
+		}
+	}
+}
+
 func TestEncodeErrors(t *testing.T) {
 	for name, x := range map[string]struct {
 		v api.Value

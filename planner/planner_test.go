@@ -233,9 +233,13 @@ func TestMakeAsGiven(t *testing.T) {
 		t.Error(p.Required, p.Days, err)
 	}
 	many := slices.Clone(l)
-	for i := range 8 {
+	for i := range 7 {
 		many = append(many, anchor(0, 30+i))
 	}
+	if p, _, err := planner.Make(e, c, many, api.Policy{}, nil, api.Owners{}, 1, 90); len(p.Required) != 9 || err != api.OK {
+		t.Error(p.Required, err)
+	}
+	many = append(many, anchor(0, 40))
 	if _, _, err := planner.Make(e, c, many, api.Policy{}, nil, api.Owners{}, 1, 90); err != api.ErrNoPlan {
 		t.Error(err)
 	}

@@ -289,7 +289,12 @@ func TestJustPermitted(t *testing.T) {
 	// Both changes are of one day: either one can be the first, and the second one enables what is forbidden.
 	rules, _, _ := rule.Parse("forbid aesgcm from 15")
 	both := api.Plan{Changes: []api.Change{{Endpoint: 0, Kind: api.SetLeast, Number: 2}, {Endpoint: 2, Kind: api.AddSuite, Number: 10}}, Required: []api.Required{r(0, 1)}, Days: []int{15, 15}}
+	e.Edges = e.Edges[:1]
 	if l, err := proof.Steps(e, both, rules, nil, api.Owners{}); fmt.Sprint(l) != "[1]" || err != api.OK {
+		t.Error(l, err)
+	}
+	rules, _, _ = rule.Parse("forbid aesgcm")
+	if l, err := proof.Steps(e, api.Plan{Changes: both.Changes[1:], Days: []int{0}}, rules, nil, api.Owners{}); fmt.Sprint(l) != "[0]" || err != api.OK {
 		t.Error(l, err)
 	}
 }

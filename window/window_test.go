@@ -54,12 +54,15 @@ func TestCheck(t *testing.T) {
 		if e := window.Check(c, 3); e != x.e {
 			t.Errorf("%s: %v", name, e)
 		}
-		_, _, a := window.At(c, 1)
+		i, in, a := window.At(c, 1)
 		_, b := window.May(c, 99, 1)
-		_, _, d := window.Next(c, 99, 1)
+		next, found, d := window.Next(c, 99, 1)
 		_, f := window.Load(c, []int{1}, nil)
 		g := window.Fits(c, []int{1}, nil)
-		_, _, h := window.Earliest(c, []int{1}, nil, 99, 0)
+		day, ok, h := window.Earliest(c, []int{1}, nil, 99, 0)
+		if a != api.OK && (i != 0 || in) || next != 0 || found || day != 0 || ok {
+			t.Errorf("%s: %d, %d, %d", name, i, next, day)
+		}
 		if x.e != api.OK && (a != x.e || b != x.e || d != x.e || f != x.e || g != x.e || h != x.e) {
 			t.Errorf("%s: %v %v %v %v %v %v", name, a, b, d, f, g, h)
 		}
@@ -122,7 +125,10 @@ func TestLoadFitsEarliest(t *testing.T) {
 	} {
 		l, e := window.Load(c, x.teams, x.days)
 		f := window.Fits(c, x.teams, x.days)
-		_, _, g := window.Earliest(c, x.teams, x.days, 0, 0)
+		day, _, g := window.Earliest(c, x.teams, x.days, 0, 0)
+		if g != api.OK && day != 0 {
+			t.Errorf("%s: %d", name, day)
+		}
 		if fmt.Sprint(l) != x.load || e != x.le || f != x.fe || g != x.fe {
 			t.Errorf("%s: %v, %v, %v, %v", name, l, e, f, g)
 		}

@@ -69,5 +69,10 @@ func Ascends[T cmp.Ordered](l []T) bool {
 	return true
 }
 
+// Indices reports whether a list is indices below n, each once, ascending.
+func Indices(l []int, n int) bool {
+	return Ascends(l) && (len(l) == 0 || l[0] >= 0 && l[len(l)-1] < n)
+}
+
 // In reports whether a number is from low to high.
 func In(n, low, high int) bool { return n >= low && n <= high }

@@ -29,6 +29,12 @@ func TestSum(t *testing.T) {
 	}
 }
 
+func TestIndices(t *testing.T) {
+	if !Indices(nil, 0) || !Indices([]int{0, 2}, 3) || Indices([]int{0, 3}, 3) || Indices([]int{-1, 0}, 3) || Indices([]int{1, 0}, 3) || Indices([]int{0}, 0) {
+		t.Error("indices")
+	}
+}
+
 func TestAscends(t *testing.T) {
 	if !Ascends([]int{}) || !Ascends([]string{"a", "b"}) || Ascends([]int{1, 1}) || Ascends([]int{2, 1}) || !In(1, 1, 1) || In(0, 1, 2) || In(3, 1, 2) {
 		t.Error("order")

@@ -6,14 +6,14 @@ import (
 	"cipherplan/api"
 	"cipherplan/basic"
 	"cipherplan/facts"
-	"cipherplan/finding"
 	"cipherplan/identity"
+	"cipherplan/normal"
 	"cipherplan/rule"
 	"cipherplan/verdict"
 )
 
 func checkFindings(l []api.Finding, gap, day, age int) api.Errno {
-	if n, e := finding.Norm(l); e != api.OK || !slices.Equal(n, l) {
+	if !normal.List(l) {
 		return api.ErrFinding
 	}
 	if !basic.In(gap, 0, api.MaxGap) || !basic.In(day, 0, api.MaxDay) || !basic.In(age, 0, api.MaxAge) {
